@@ -1,0 +1,1 @@
+"""Fallsunder: books of headings over goods told as trees of any size."""

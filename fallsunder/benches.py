@@ -1,0 +1,133 @@
+"""Asks the terms and books of a sheet of many mixes, or of many things, at once.
+
+What a thing needs to know of a part is a record: `(bits, results)`, a bit for each cell that part signs and shares
+ask for, and a result by each book (a keeper) in whose rules the main part matters.
+"""
+
+from fallsunder.desks import split_by
+from fallsunder.mixcells import mixture_cells
+from fallsunder.sheets import work_falls, work_out
+
+
+class Pack:
+    """Records of possible main parts, turned: for each cell and each result those that have it."""
+
+    def __init__(self, bench, ids, records):
+        self.ids = ids
+        self.columns = {cell: column_of(records, k) for k, cell in enumerate(bench.cells)}
+        self.mains = {owner: result_columns(records, k) for k, owner in enumerate(bench.keepers)}
+
+
+class Answers:
+    """The worths of all cells, and the results by all books, for some goods; full is the bits of all of them."""
+
+    def __init__(self, full, values, groups):
+        self.full = full
+        self.worths = values
+        self.groups = groups
+
+
+class Bench:
+    """A sheet and its desks over a stock."""
+
+    def __init__(self, stock, sheet, desks):
+        self.stock = stock
+        self.sheet = sheet
+        self.desks = desks
+        self.keepers = [owner for owner, desk in desks.items() if desk.asks_main()]
+        self.somes = sheet.marked("some")
+        self.eachs = sheet.marked("each")
+        looked = {cell: True for cell in [*self.somes, *self.eachs, *sheet.marked("main"), *sheet.shares]}
+        self.cells = sorted(looked)
+        self.bit_of = {cell: 1 << k for k, cell in enumerate(self.cells)}
+        self.some_mask = sum([self.bit_of[cell] for cell in self.somes])
+        self.each_mask = sum([self.bit_of[cell] for cell in self.eachs])
+        self.mixtures = mixture_cells(stock.stuffs, [sheet.cells[cell] for cell in sheet.shares])
+        self._simple = {}
+
+    def mixes(self):
+        """The answers for the mixtures, one for each."""
+        full = (1 << len(self.mixtures)) - 1
+        values = [0 for _ in self.sheet.cells]
+        for number, word, _ in self.sheet.simple:
+            values[number] = full if word in ("any", "mix") else 0
+        for k, number in enumerate(self.sheet.shares):
+            values[number] = sum([1 << at for at, row in enumerate(self.mixtures) if row[0][k]])
+        for number, word, _ in self.sheet.looks:
+            values[number] = full if word == "each" else 0
+        return self._answers(full, values, {owner: [(full, "")] for owner in self.desks})
+
+    def things(self, cases, many, pack, sides):
+        """The answers for things of so many parts: for each case, a form and a state, each main part of the pack.
+
+        Sides are two rows of bits: what some of the other parts are, and what each of them is.
+        """
+        wide = len(pack.ids)
+        spread = sum([1 << k * wide for k in range(len(cases))])
+        full = (1 << len(cases) * wide) - 1
+        values = self._simple_values(cases, many, wide)
+        for number in self.sheet.shares:
+            values[number] = pack.columns[number] * spread
+        for number, word, inner in self.sheet.looks:
+            if word == "some" and sides[0] & self.bit_of[inner]:
+                values[number] = full
+            elif word != "each" or sides[1] & self.bit_of[inner]:
+                values[number] = pack.columns[inner] * spread
+        mains = {owner: [(full, "")] for owner in self.desks}
+        for owner in self.keepers:
+            mains[owner] = [(bits * spread, name) for bits, name in pack.mains[owner]]
+        return self._answers(full, values, mains)
+
+    def _simple_values(self, cases, many, wide):
+        key = (tuple(cases), many, wide)
+        if key not in self._simple:
+            values = [0 for _ in self.sheet.cells]
+            block = (1 << wide) - 1
+            full = (1 << len(cases) * wide) - 1
+            for number, word, about in self.sheet.simple:
+                if word in ("form", "state"):
+                    at = 0 if word == "form" else 1
+                    values[number] = sum([block << k * wide for k, case in enumerate(cases) if case[at] == about])
+                elif word == "any" or (word == "parts" and many >= about):
+                    values[number] = full
+            self._simple[key] = values
+        return list(self._simple[key])
+
+    def _answers(self, full, values, mains):
+        work_out(values, full, self.sheet.early)
+        groups = {}
+        for owner, desk in self.desks.items():
+            groups[owner] = desk.results_of(values, full, mains[owner])
+        work_falls(self.sheet, self.desks, values, groups)
+        work_out(values, full, self.sheet.late)
+        return Answers(full, values, groups)
+
+
+def column_of(records, k):
+    """The bits of those records that have the bit number k."""
+    return sum([1 << at for at, record in enumerate(records) if record[0] >> k & 1])
+
+
+def result_columns(records, k):
+    """For each result number k of the records, the bits of those that have it."""
+    out = {}
+    for at, record in enumerate(records):
+        name = record[1][k]
+        out[name] = out.get(name, 0) | 1 << at
+    return [(bits, name) for name, bits in out.items()]
+
+
+def parted_answers(answers, cells, owners):
+    """Part goods by the worths of cells and the results by books: rows of `(goods, bits, results)`."""
+    full = answers.full
+    same = sum([1 << k for k, cell in enumerate(cells) if answers.worths[cell] == full])
+    groups = [(full, same)]
+    for k, cell in enumerate(cells):
+        column = answers.worths[cell]
+        if column not in (0, full):
+            groups = split_by(groups, column, 1 << k)
+    rows = [(goods, bits, ()) for goods, bits in groups]
+    for owner in owners:
+        rows = [(goods & some, bits, (*results, name)) for goods, bits, results in rows
+                for some, name in answers.groups[owner] if goods & some]
+    return rows

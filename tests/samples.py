@@ -1,0 +1,127 @@
+"""Stocks, and all goods of few nodes over them, for the tests; told apart from the program itself."""
+
+import itertools
+import random
+
+from fallsunder.goods import Good
+from fallsunder.stocks import Stock
+
+
+def small_stock():
+    return Stock(["hair", "wool"], ["worn", "whole"], ["far"],
+                 [("coat", 1, 2, ["mix", "button"]), ("button", 1, 1, ["mix"])])
+
+
+def wide_stock():
+    return Stock(["hair", "wool", "horn"], ["worn", "whole"], ["far", "here"],
+                 [("coat", 1, 3, ["mix", "coat", "button"]), ("button", 1, 2, ["mix"]), ("ghost", 1, 1, ["ghost"])])
+
+
+def mixes(stock, grams, lands):
+    out = []
+    for land in lands:
+        for row in itertools.product(range(grams + 1), repeat=len(stock.stuffs)):
+            pairs = sorted((s, g) for s, g in zip(stock.stuffs, row) if g)
+            if pairs:
+                out.append(("mix", land, tuple(pairs)))
+    return out
+
+
+def all_goods(stock, nodes, grams=2, lands=None):
+    """All plain goods of up to so many nodes, with up to so many grams of each stuff in a mix."""
+    lands = stock.lands if lands is None else lands
+    by_size = {1: mixes(stock, grams, lands)}
+    for size in range(2, nodes + 1):
+        found = []
+        for (form, least, most, takes), state, land in itertools.product(stock.forms, stock.states, lands):
+            for many in range(least, most + 1):
+                for sizes in itertools.product(range(1, size), repeat=many):
+                    if sum(sizes) == size - 1:
+                        rows = [[p for p in by_size[s] if p[0] in takes] for s in sizes]
+                        found.extend((form, state, land, parts) for parts in itertools.product(*rows))
+        by_size[size] = found
+    return [good for size in by_size for good in by_size[size]]
+
+
+def goods_of(stock, nodes, grams=2, lands=None):
+    return [Good(stock, plain) for plain in all_goods(stock, nodes, grams, lands)]
+
+
+def plain_weight(plain):
+    if plain[0] == "mix":
+        return sum(g for _, g in plain[2])
+    return sum(plain_weight(p) for p in plain[3])
+
+
+def plain_main(plain):
+    weights = [plain_weight(p) for p in plain[3]]
+    return weights.index(max(weights))
+
+
+def plain_size(plain):
+    return 1 if plain[0] == "mix" else 1 + sum(plain_size(p) for p in plain[3])
+
+
+def plain_stuff(plain):
+    return plain if plain[0] == "mix" else plain_stuff(plain[3][plain_main(plain)])
+
+
+def holds(term, plain, falls=None):
+    """Is the plain term true of the plain good? Told by the words of the document, with no care for speed."""
+    word, parts = term[0], () if plain[0] == "mix" else plain[3]
+    if word in ("any", "none"):
+        return word == "any"
+    if word == "mix":
+        return plain[0] == "mix"
+    if word == "form":
+        return plain[0] == term[1]
+    if word == "state":
+        return plain[0] != "mix" and plain[1] == term[1]
+    if word in ("over", "from"):
+        mix = plain_stuff(plain)
+        left, right = dict(mix[2]).get(term[1], 0) * term[3], term[2] * plain_weight(mix)
+        return left > right or (word == "from" and left == right)
+    if word == "parts":
+        return len(parts) >= term[1]
+    if word == "some":
+        return any(holds(term[1], p, falls) for p in parts)
+    if word == "each":
+        return all(holds(term[1], p, falls) for p in parts)
+    if word == "main":
+        return parts != () and holds(term[1], parts[plain_main(plain)], falls)
+    if word == "falls":
+        return falls(term[1], plain)
+    if word == "not":
+        return not holds(term[1], plain, falls)
+    if word == "and":
+        return holds(term[1], plain, falls) and holds(term[2], plain, falls)
+    return holds(term[1], plain, falls) or holds(term[2], plain, falls)
+
+
+def random_term(stock, rng, depth, headings=(), bare=False):
+    """A plain term; with headings it may name them, beneath part signs alone unless bare."""
+    if depth == 0 or rng.random() < 0.15:
+        kinds = ["any", "none", "mix", "form", "state", "over", "from", "parts"]
+        if headings and bare:
+            kinds += ["falls"] * 6
+        word = rng.choice(kinds)
+        if word == "form":
+            return (word, rng.choice(stock.forms)[0])
+        if word == "state":
+            return (word, rng.choice(stock.states))
+        if word in ("over", "from"):
+            top, bottom = rng.choice([(0, 1), (1, 2), (1, 3), (2, 3), (1, 1), (3, 7)])
+            return (word, rng.choice(stock.stuffs), top, bottom)
+        if word == "parts":
+            return (word, rng.randint(1, 4))
+        return (word, rng.choice(headings)) if word == "falls" else (word,)
+    word = rng.choice(["some", "each", "main", "not", "and", "or", "and", "or"])
+    under = bare or (bool(headings) and word in ("some", "each", "main"))
+    inner = random_term(stock, rng, depth - 1, headings, under)
+    if word in ("and", "or"):
+        return (word, inner, random_term(stock, rng, depth - 1, headings, under))
+    return (word, inner)
+
+
+def fixed_random(seed):
+    return random.Random(seed)

@@ -1,0 +1,62 @@
+"""The files of the package keep the rules of LANGUAGE.md that a script can see, and the script sees breaks."""
+
+import os
+import tempfile
+import unittest
+
+from tests.language import broken_rules
+
+PACKAGE = os.path.join(os.path.dirname(os.path.dirname(os.path.abspath(__file__))), "fallsunder")
+BREAKS = [
+    ("L2", "import os\n"),
+    ("L2", "from os import path\nA = path\n"),
+    ("L3", "print(1)\n"),
+    ("L3", "A = [k for k in (1, 2)]\n"),
+    ("L6", "def f(x):\n    global y\n    y = x\n"),
+    ("L7", "def f(x):\n    return x / 2\n"),
+    ("L7", "def f(x):\n    return any(k for k in x)\n"),
+    ("L8", "def f(x):\n    return hash(x)\n"),
+    ("L10", "def f(x):\n" + "    x = 1\n" * 40),
+    ("L10", "A = 1" + " " * 120 + "\n"),
+    ("L12", "A = 1\n_wall_b = 2\n"),
+    ("L14", "A = '\u00e4'\n"),
+    ("L15", "def f(x):\n    id = x\n    return id\n"),
+    ("L17", "def f(x):\n    return x.open\n"),
+    ("L18", "class A:\n    pass\n\n\ndef f(x):\n    return [A]\n"),
+    ("L19", "def f(x):\n    try:\n        return x[0]\n    except Exception:\n        return 1\n"),
+    ("L20", "def f(x, y):\n    return x is y\n"),
+    ("L23", "def f(x):\n    return zip(x, x)\n"),
+    ("L23", "def f(x):\n    for k in x:\n        x.append(k)\n"),
+    ("L24", "def f(x):\n    return set(x)\n"),
+    ("L25", "def f(x):\n    return x.encode()\n"),
+    ("L27", "def f(x):\n    return 2 ** x\n"),
+    ("L5", "class A:\n    def __hash__(self):\n        return 1\n"),
+    ("L5", "class A:\n    def __add__(self, other):\n        self.a = other\n        return self\n"),
+]
+
+
+class LanguageTest(unittest.TestCase):
+    def test_package_keeps_the_rules(self):
+        self.assertEqual(broken_rules(PACKAGE), [])
+
+    def test_breaks_are_seen(self):
+        for rule, text in BREAKS:
+            with self.subTest(rule=rule, text=text), tempfile.TemporaryDirectory() as top:
+                folder = os.path.join(top, "falls")
+                os.mkdir(folder)
+                with open(os.path.join(folder, "a.py"), "w", encoding="utf-8") as file:
+                    file.write(text)
+                rules = [line.split(" ")[0] for line in broken_rules(folder)]
+                self.assertIn(rule, rules)
+
+    def test_no_warnings_when_compiled(self):
+        import warnings
+        for name in sorted(os.listdir(PACKAGE)):
+            if name.endswith(".py"):
+                with open(os.path.join(PACKAGE, name), encoding="utf-8") as file, warnings.catch_warnings():
+                    warnings.simplefilter("error")
+                    compile(file.read(), name, "exec")
+
+
+if __name__ == "__main__":
+    unittest.main()
