@@ -23,6 +23,11 @@ def is_node(stock, node):
         return False
     if node[0] == "mix":
         return len(node) == 3 and node[1] in stock.lands and is_mixture(stock, node[2])
+    return is_thing(stock, node)
+
+
+def is_thing(stock, node):
+    """Is a tuple that is no mix a thing by itself, whatever its parts are?"""
     if len(node) != 4 or node[0] not in [row[0] for row in stock.forms]:
         return False
     least, most, _ = stock[node[0]]

@@ -33,6 +33,8 @@ class Stock:
         self.lands = tuple(lands)
         self.forms = tuple([(row[0], row[1], row[2], tuple(row[3])) for row in forms])
         self._rows = {row[0]: (row[1], row[2], row[3]) for row in self.forms}
+        # what other modules have found out of the stock and need again
+        self.memory = {}
         self._names = (*self.stuffs, *self.states, *self.lands, *[row[0] for row in self.forms])
 
     def __getitem__(self, at):

@@ -45,7 +45,8 @@ class Survey:
         self._ids = {}
         self._queue = []
         self._due = {}
-        self._takings = takings_of(bench.stock)
+        usable = bench.stock.usable()
+        self._takings = takings_of([row for row in bench.stock.forms if row[0] in usable])
         self._states = states_asked(bench)
         self._run()
 
@@ -155,14 +156,12 @@ def wider_sides(taking, many, side, others):
     return out
 
 
-def takings_of(stock):
-    """The forms of which there are goods, by what they take."""
-    usable = stock.usable()
+def takings_of(forms):
+    """Some forms by what they take."""
     rows = {}
-    for form in stock.forms:
-        if form[0] in usable:
-            rows.setdefault(tuple(sorted(form[3])), []).append(form)
-    return [Taking(forms, takes) for takes, forms in rows.items()]
+    for form in forms:
+        rows.setdefault(tuple(sorted(form[3])), []).append(form)
+    return [Taking(some, takes) for takes, some in rows.items()]
 
 
 def states_asked(bench):

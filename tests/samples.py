@@ -125,3 +125,90 @@ def random_term(stock, rng, depth, headings=(), bare=False):
 
 def fixed_random(seed):
     return random.Random(seed)
+
+
+class SlowBook:
+    """A book read by the words of the document, with no care for speed; narrower tells which leaf is narrower."""
+
+    def __init__(self, headings, notes, rules, narrower):
+        self.headings, self.notes, self.rules, self.narrower = headings, notes, rules, narrower
+        self.parents = {name: parent for name, parent, _ in headings}
+        self.terms = {name: term for name, _, term in headings}
+        self.leaves = [name for name in self.parents if name not in self.parents.values()]
+
+    def line(self, name):
+        return self.line(self.parents[name]) + [name] if name else []
+
+    def holds(self, term, plain):
+        return holds(term, plain, lambda heading, part: self.under(heading, part))
+
+    def under(self, heading, plain):
+        result = self.result(plain)
+        return result in self.leaves and heading in self.line(result)
+
+    def fits(self, name, plain):
+        if self.parents[name] and not self.fits(self.parents[name], plain):
+            return False
+        if any(self.holds(n[2], plain) for n in self.notes if n[0] == name and n[1] == "shuts"):
+            return False
+        terms = [self.terms[name]] + [n[2] for n in self.notes if n[0] == name and n[1] == "takes"]
+        return any(self.holds(term, plain) for term in terms)
+
+    def result(self, plain):
+        left = [leaf for leaf in self.leaves if self.fits(leaf, plain)]
+        if not left:
+            return "none"
+        for rule in self.rules:
+            if len(left) == 1:
+                break
+            if rule == "special":
+                left = [h for h in left if not any(self.narrower(k, h) for k in left if k != h)]
+            elif rule == "main":
+                main = self.result(plain[3][plain_main(plain)]) if plain[0] != "mix" else None
+                left = [main] if main in left else left
+            else:
+                left = left[:1] if rule == "first" else left[-1:]
+        if len(left) > 1:
+            return "two"
+        been = [left[0]]
+        while True:
+            steps = [n[3] for n in self.notes if n[0] == been[-1] and n[1] == "sends" and self.holds(n[2], plain)]
+            if not steps:
+                return been[-1]
+            if steps[0] in been:
+                return "ring"
+            been.append(steps[0])
+
+    def kind(self, marks, plain):
+        """The kind of a good where this book is the only watcher."""
+        root = plain[0]
+        return (root, tuple(self.holds(term, plain) for term, _ in marks), (self.result(plain),))
+
+
+def line_term(headings, name):
+    rows = {row[0]: row for row in headings}
+    term = rows[name][2]
+    while rows[name][1]:
+        name = rows[name][1]
+        term = ("and", rows[name][2], term)
+    return term
+
+
+def random_book(stock, rng, most_headings=5, most_notes=4, depth=2):
+    """The headings, notes and rules of a book."""
+    headings = []
+    for k in range(rng.randint(1, most_headings)):
+        parent = rng.choice(["", "", *[row[0] for row in headings]])
+        headings.append((f"h{k}", parent, random_term(stock, rng, depth)))
+    names = [row[0] for row in headings]
+    leaves = [name for name in names if name not in [row[1] for row in headings]]
+    notes = []
+    for _ in range(rng.randint(0, most_notes)):
+        word = rng.choice(["takes", "shuts", "sends"])
+        term = random_term(stock, rng, depth + 1, tuple(names))
+        if word == "sends" and len(leaves) > 1:
+            notes.append((*[(a, word, term, b) for a, b in [rng.sample(leaves, 2)]][0],))
+        elif word != "sends":
+            notes.append((rng.choice(names), word, term, ""))
+    rules = rng.sample(["special", "main", "first", "last"], rng.randint(0, 4))
+    return headings, notes, rules
