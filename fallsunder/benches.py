@@ -117,17 +117,29 @@ def result_columns(records, k):
     return [(bits, name) for name, bits in out.items()]
 
 
-def parted_answers(answers, cells, owners):
-    """Part goods by the worths of cells and the results by books: rows of `(goods, bits, results)`."""
+def parted_answers(answers, starts, cells, owners):
+    """Part goods by the worths of cells and the results by books: rows of `(goods, number, results)`.
+
+    They are parted already into starts `(goods, tag)`; a number is the tag with the bits of the cells behind it.
+    """
     full = answers.full
     same = sum([1 << k for k, cell in enumerate(cells) if answers.worths[cell] == full])
-    groups = [(full, same)]
+    groups = [(goods, tag << len(cells) | same) for goods, tag in starts]
     for k, cell in enumerate(cells):
         column = answers.worths[cell]
         if column not in (0, full):
             groups = split_by(groups, column, 1 << k)
-    rows = [(goods, bits, ()) for goods, bits in groups]
+    rows = [(goods, number, ()) for goods, number in groups]
     for owner in owners:
-        rows = [(goods & some, bits, (*results, name)) for goods, bits, results in rows
+        rows = [(goods & some, number, (*results, name)) for goods, number, results in rows
                 for some, name in answers.groups[owner] if goods & some]
     return rows
+
+
+def starts_by(tags, wide):
+    """The goods of some cases, so many for each, by the tags of the cases."""
+    out = {}
+    block = (1 << wide) - 1
+    for k, tag in enumerate(tags):
+        out[tag] = out.get(tag, 0) | block << k * wide
+    return [(goods, tag) for tag, goods in out.items()]

@@ -1,7 +1,7 @@
 """Looks for what leads out of a table of kinds."""
 
-from fallsunder.benches import Pack, parted_answers
-from fallsunder.surveys import by_root, first_bit, takings_of, wider_sides
+from fallsunder.benches import Pack, parted_answers, starts_by
+from fallsunder.surveys import first_bit, takings_of, wider_sides
 
 
 def record_of(bench, watch, cells, kind):
@@ -20,12 +20,13 @@ def kind_at(answers, at, root, cells, owners):
 
 def first_stranger(answers, cases, wide, cells, watched, known):
     """The number of a good whose kind is not among the known ones, with its kind; None if all are."""
-    for goods, _, _ in parted_answers(answers, cells, watched):
-        for root, some in by_root(goods, cases, wide):
-            at = first_bit(some)
-            kind = kind_at(answers, at, root, cells, watched)
-            if kind not in known:
-                return (at, kind)
+    roots = [case[0] for case in cases]
+    starts = starts_by([roots.index(root) for root in roots], wide)
+    for goods, _, _ in parted_answers(answers, starts, cells, watched):
+        at = first_bit(goods)
+        kind = kind_at(answers, at, roots[at // wide], cells, watched)
+        if kind not in known:
+            return (at, kind)
     return None
 
 

@@ -13,21 +13,22 @@ class Grower:
         self._stock = survey.bench.stock
         self._mixtures = {}
         self._loads = {}
+        self._factors = {}
 
     def good_of(self, making):
         """The Good of a making."""
         heads = []
-        stack = [(making, 1)]
+        stack = [(making, self._factor(making), 1)]
         while stack:
-            here, times = stack.pop()
+            here, factor, times = stack.pop()
             if len(here) == 1:
                 grams = [worth * times for worth in self._mixture(here[0])]
                 heads.append(plain_mix(self._stock.stuffs, self._stock.lands[0], grams))
             else:
                 heads.append((here[0], here[1], self._stock.lands[0], 1 + len(here[3])))
                 for number in here[3][::-1]:
-                    stack.append((self._survey.makings[number][1], times))
-                stack.append((self._survey.makings[here[2]][1], times * self._factor(here)))
+                    stack.append((self._survey.makings[number][1], self._factors[number], times))
+                stack.append((self._survey.makings[here[2]][1], self._factors[here[2]], times * factor))
         return sound_good(self._stock, built(heads))
 
     def _mixture(self, at):
@@ -36,12 +37,13 @@ class Grower:
         return self._mixtures[at]
 
     def _factor(self, making):
-        """By what the main part, which comes first, is multiplied to be at least as heavy as each other part."""
-        heaviest = max([0, *[self._load(number) for number in making[3]]])
-        return max(1, -(-heaviest // self._load(making[2])))
+        """The factor of a making, when its parts have been weighed."""
+        for number in [] if len(making) == 1 else [making[2], *making[3]]:
+            self._weigh(number)
+        return self._factor_known(making)
 
-    def _load(self, number):
-        """The weight of the good of a record, which is found from those of its parts."""
+    def _weigh(self, number):
+        """Find the weight of the good of a record, from those of its parts."""
         stack = [number]
         while stack:
             at = stack[len(stack) - 1]
@@ -51,13 +53,22 @@ class Grower:
             if lacking:
                 stack.extend(lacking)
             else:
-                self._loads[at] = self._own_load(making)
                 stack.pop()
-        return self._loads[number]
+                self._note_load(at, making)
 
-    def _own_load(self, making):
+    def _note_load(self, at, making):
+        if at in self._loads:
+            return
+        self._factors[at] = self._factor_known(making)
         if len(making) == 1:
-            return sum(self._mixture(making[0]))
-        others = [self._loads[number] for number in making[3]]
-        main = self._loads[making[2]]
-        return main * max(1, -(-max([0, *others]) // main)) + sum(others)
+            self._loads[at] = sum(self._mixture(making[0]))
+        else:
+            others = sum([self._loads[number] for number in making[3]])
+            self._loads[at] = self._loads[making[2]] * self._factors[at] + others
+
+    def _factor_known(self, making):
+        """By what the main part, which comes first, is multiplied to be at least as heavy as each other part."""
+        if len(making) == 1:
+            return 1
+        heaviest = max([0, *[self._loads[number] for number in making[3]]])
+        return max(1, -(-heaviest // self._loads[making[2]]))

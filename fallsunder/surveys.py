@@ -5,13 +5,14 @@ one, what some of them are and what each of them is. These are gathered as sides
 """
 
 from heapq import heappop, heappush
-from fallsunder.benches import Pack, parted_answers
+from fallsunder.benches import Pack, parted_answers, starts_by
 
 
 class Taking:
     """The forms that take the same roots, with the records, packs and sides from which their things are made."""
 
-    def __init__(self, forms, takes):
+    def __init__(self, number, forms, takes):
+        self.number = number
         self.forms = forms
         self.takes = takes
         self.reach = max([row[2] for row in forms]) - 1
@@ -42,12 +43,15 @@ class Survey:
         self._owners = owners
         self._rooted = rooted
         self._wanted = wanted
+        self._met = {}
         self._ids = {}
         self._queue = []
         self._due = {}
         usable = bench.stock.usable()
         self._takings = takings_of([row for row in bench.stock.forms if row[0] in usable])
         self._states = states_asked(bench)
+        self._roots = ["mix", *usable]
+        self._reach = {root: reach_of(root, self._takings) for root in self._roots}
         self._run()
 
     def _run(self):
@@ -85,20 +89,20 @@ class Survey:
 
     def _keep(self, answers, cases, wide, size, parts):
         """Keep what is new in some answers, each with the making of a good that is so."""
-        for goods, bits, results in parted_answers(answers, self._cells, self._owners):
-            for root, some in self._by_root(goods, cases, wide):
-                key = (root, bits, results)
-                if key not in self.rows:
-                    self.rows[key] = (size, making_at(first_bit(some), cases, wide, parts))
-        for goods, bits, results in parted_answers(answers, self.bench.cells, self.bench.keepers):
-            for root, some in by_reach(goods, cases, wide, self._takings):
-                if (root, bits, results) not in self._ids:
-                    self._ids[(root, bits, results)] = len(self.records)
-                    self.records.append((root, bits, results))
-                    self.makings.append((size, making_at(first_bit(some), cases, wide, parts)))
-
-    def _by_root(self, goods, cases, wide):
-        return by_root(goods, cases, wide) if self._rooted else [("", goods)]
+        starts = starts_by([self._roots.index(case[0]) if self._rooted else 0 for case in cases], wide)
+        for goods, number, results in parted_answers(answers, starts, self._cells, self._owners):
+            if (number, results) not in self._met:
+                self._met[(number, results)] = True
+                bits = number & (1 << len(self._cells)) - 1
+                root = self._roots[number >> len(self._cells)] if self._rooted else ""
+                self.rows[(root, bits, results)] = (size, making_at(first_bit(goods), cases, wide, parts))
+        starts = [row for row in starts_by([self._reach[case[0]] for case in cases], wide) if row[1] > 0]
+        for goods, number, results in parted_answers(answers, starts, self.bench.cells, self.bench.keepers):
+            if (number, results) not in self._ids:
+                self._ids[(number, results)] = len(self.records)
+                many = len(self.bench.cells)
+                self.records.append((number >> many, number & (1 << many) - 1, results))
+                self.makings.append((size, making_at(first_bit(goods), cases, wide, parts)))
 
     def _file(self, taking, size, before):
         """File the new records from one on that these forms take."""
@@ -106,7 +110,7 @@ class Survey:
         others = []
         for number in range(before, len(self.records)):
             reach, bits, results = self.records[number]
-            if taking.takes in reach:
+            if reach >> taking.number & 1:
                 if (bits, results) not in taking.met_mains:
                     taking.met_mains[(bits, results)] = True
                     mains.append(number)
@@ -161,7 +165,12 @@ def takings_of(forms):
     rows = {}
     for form in forms:
         rows.setdefault(tuple(sorted(form[3])), []).append(form)
-    return [Taking(some, takes) for takes, some in rows.items()]
+    return [Taking(number, some, takes) for number, (takes, some) in enumerate(rows.items())]
+
+
+def reach_of(root, takings):
+    """A bit for each of these that takes the root."""
+    return sum([1 << taking.number for taking in takings if root in taking.takes])
 
 
 def states_asked(bench):
@@ -169,26 +178,6 @@ def states_asked(bench):
     asked = [about for _, word, about in bench.sheet.simple if word == "state"]
     other = [state for state in bench.stock.states if state not in asked]
     return [state for state in bench.stock.states if state in asked or state in other[:1]]
-
-
-def by_root(goods, cases, wide):
-    """Part goods by their roots."""
-    out = {}
-    for k, case in enumerate(cases):
-        inside = goods >> k * wide & (1 << wide) - 1
-        if inside:
-            out[case[0]] = out.get(case[0], 0) | inside << k * wide
-    return list(out.items())
-
-
-def by_reach(goods, cases, wide, takings):
-    """Part goods by the rows of roots with which forms take them; those that no form takes are left out."""
-    out = {}
-    for root, some in by_root(goods, cases, wide):
-        reach = tuple([taking.takes for taking in takings if root in taking.takes])
-        if reach:
-            out[reach] = out.get(reach, 0) | some
-    return list(out.items())
 
 
 def first_bit(bits):
