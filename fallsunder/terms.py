@@ -40,13 +40,9 @@ class Term:
         return Term(("not", self.plain))
 
     def __and__(self, other):
-        if not isinstance(other, Term):
-            return NotImplemented
         return Term(("and", self.plain, other.plain))
 
     def __or__(self, other):
-        if not isinstance(other, Term):
-            return NotImplemented
         return Term(("or", self.plain, other.plain))
 
     def __eq__(self, other):
