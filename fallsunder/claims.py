@@ -1,8 +1,7 @@
 """Claims about all goods of a stock: each holds, or a least good that breaks it is told."""
 
-from fallsunder.benches import Bench
 from fallsunder.growing import Grower
-from fallsunder.sheets import Sheet
+from fallsunder.slimming import SlimSheet
 from fallsunder.surveys import Survey
 from fallsunder.termtree import check_asked
 
@@ -37,7 +36,7 @@ def parting(stock, first, second):
 
 def relation(stock, first, second):
     """How two terms lie: alike, narrower, wider, apart, or across."""
-    rows = survey_of(stock, [first, second], ()).rows
+    rows = survey_of(stock, [first, second], [(FIRST, SECOND, BOTH)]).rows
     if FIRST not in rows and SECOND not in rows:
         return "alike"
     if FIRST not in rows:
@@ -48,17 +47,17 @@ def relation(stock, first, second):
 
 
 def survey_of(stock, terms, wanted):
-    """The rows of answers to the terms, up to the wanted ones."""
+    """The rows of answers to the terms, until all of some wanted ones are there."""
     for term in terms:
         check_asked(stock, term.plain)
-    sheet = Sheet()
+    sheet = SlimSheet()
     cells = [sheet.cell_of(term.plain, -1) for term in terms]
-    return Survey(Bench(stock, sheet, {}), cells, [], wanted=wanted)
+    return Survey(stock, sheet, {}, (cells, []), wanted=wanted)
 
 
 def least_good(stock, terms, wanted):
     """A least good with one of the wanted rows, None if no good has one."""
-    survey = survey_of(stock, terms, wanted)
+    survey = survey_of(stock, terms, [(row,) for row in wanted])
     least = None
     for row in wanted:
         found = survey.rows.get(row)

@@ -1,7 +1,7 @@
 """Looks for what leads out of a table of kinds."""
 
 from fallsunder.benches import Pack, parted_answers, starts_by
-from fallsunder.surveys import first_bit, takings_of, wider_sides
+from fallsunder.stages import takings_of, wider_sides
 
 
 def record_of(bench, watch, cells, kind):
@@ -23,7 +23,7 @@ def first_stranger(answers, cases, wide, cells, watched, known):
     roots = [case[0] for case in cases]
     starts = starts_by([roots.index(root) for root in roots], wide)
     for goods, _, _ in parted_answers(answers, starts, cells, watched):
-        at = first_bit(goods)
+        at = (goods & -goods).bit_length() - 1
         kind = kind_at(answers, at, roots[at // wide], cells, watched)
         if kind not in known:
             return (at, kind)

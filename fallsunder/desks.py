@@ -24,6 +24,8 @@ class Desk:
                 self._shuts[at].append(cell)
             else:
                 self._sends.append((at, cell, self.titles.index(target)))
+        inner = [*self._takes, *self._shuts, [row[1] for row in self._sends]]
+        self.own_cells = [cell for cells in inner for cell in cells]
         self.leaves_under = {name: {} for name in self.titles}
         for leaf in self.ends:
             for at in self.line_at(leaf):

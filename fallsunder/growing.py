@@ -10,7 +10,7 @@ class Grower:
 
     def __init__(self, survey):
         self._survey = survey
-        self._stock = survey.bench.stock
+        self._stock = survey.stock
         self._mixtures = {}
         self._loads = {}
         self._factors = {}
@@ -31,10 +31,10 @@ class Grower:
                 stack.append((self._survey.makings[here[2]][1], self._factors[here[2]], times * factor))
         return sound_good(self._stock, built(heads))
 
-    def _mixture(self, at):
-        if at not in self._mixtures:
-            self._mixtures[at] = lightest_grams(self._survey.bench.mixtures[at][1])
-        return self._mixtures[at]
+    def _mixture(self, spans):
+        if spans not in self._mixtures:
+            self._mixtures[spans] = lightest_grams(spans)
+        return self._mixtures[spans]
 
     def _factor(self, making):
         """The factor of a making, when its parts have been weighed."""

@@ -3,6 +3,7 @@
 from fallsunder.checks import is_number_of
 from fallsunder.errors import NoRow, OtherStock
 from fallsunder.growing import Grower
+from fallsunder.slimming import SlimSheet
 from fallsunder.surveys import Survey
 from fallsunder.watching import Watch, check_watchers
 
@@ -12,8 +13,8 @@ class Joint:
 
     def __init__(self, stock, watchers):
         check_watchers(stock, watchers)
-        watch = Watch(stock, watchers)
-        survey = Survey(watch.own_bench(), watch.term_cells, watch.owners)
+        watch = Watch(stock, watchers, SlimSheet())
+        survey = Survey(stock, watch.sheet, watch.desks, (watch.term_cells, watch.owners), wanted=watch.all_rows())
         grower = Grower(survey)
         table = {}
         for key, found in survey.rows.items():

@@ -1,7 +1,6 @@
 """Which lines of a book are narrower than others, asked of all goods, each pair at most once."""
 
-from fallsunder.benches import Bench
-from fallsunder.sheets import Sheet
+from fallsunder.slimming import SlimSheet
 from fallsunder.surveys import Survey
 
 # rows of two answers: the first one alone is true, the second one alone
@@ -26,9 +25,9 @@ class Ladder:
 
     def _rows_of(self, first, second):
         """The rows of answers of two lines, as far as they are needed."""
-        sheet = Sheet()
+        sheet = SlimSheet()
         cells = [sheet.cell_of(self._line_term(first), -1), sheet.cell_of(self._line_term(second), -1)]
-        return Survey(Bench(self._stock, sheet, {}), cells, [], wanted=[FIRST_ALONE]).rows
+        return Survey(self._stock, sheet, {}, (cells, []), wanted=[(FIRST_ALONE,)]).rows
 
     def _line_term(self, at):
         """The plain term that holds where all terms of the line hold."""

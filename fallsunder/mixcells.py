@@ -25,7 +25,7 @@ def mixture_cells(stuffs, shares):
     for cell in cells:
         if fits_above(cell):
             truths = [starts_behind(cell[stuffs.index(share[1])], cut) for cut, share in zip(cuts, shares)]
-            out.append((tuple(truths), cell))
+            out.append((tuple(truths), tuple(cell)))
     return out
 
 

@@ -7,6 +7,7 @@ from fallsunder.closing import kind_at, leading_making, leading_mixture, record_
 from fallsunder.errors import BadRow, OtherStock
 from fallsunder.goods import sound_good
 from fallsunder.mixcells import lightest_grams, plain_mix
+from fallsunder.sheets import Sheet
 from fallsunder.surveys import Survey
 from fallsunder.watching import Watch, check_watchers
 
@@ -14,7 +15,7 @@ from fallsunder.watching import Watch, check_watchers
 def marks(stock, watchers):
     """The marks of the watchers: rows of `(plain term, owner)`."""
     check_watchers(stock, watchers)
-    return tuple([(plain, owner) for plain, owner, _ in Watch(stock, watchers).marks()])
+    return tuple([(plain, owner) for plain, owner, _ in Watch(stock, watchers, Sheet()).marks()])
 
 
 def kind_of(stock, watchers, good):
@@ -22,7 +23,7 @@ def kind_of(stock, watchers, good):
     if good.stock != stock:
         raise OtherStock(2)
     check_watchers(stock, watchers)
-    watch = Watch(stock, watchers)
+    watch = Watch(stock, watchers, Sheet())
     cells = mark_cells(watch)
     values, results = answers_of(watch.sheet, watch.desks, good)
     return (good.root, tuple([values[cell] == 1 for cell in cells]), tuple([results[k] for k in watch.owners]))
@@ -40,7 +41,7 @@ def gives(stock, watchers, making):
     for number, row in enumerate(rows):
         if row[0] not in stock[form][2]:
             raise BadRow(number)
-    watch = Watch(stock, watchers)
+    watch = Watch(stock, watchers, Sheet())
     cells = mark_cells(watch)
     bench = watch.own_bench()
     records = [record_of(bench, watch, cells, row) for row in rows]
@@ -56,9 +57,9 @@ def gives(stock, watchers, making):
 def paper(stock, watchers):
     """The kinds of all goods, ascending."""
     check_watchers(stock, watchers)
-    watch = Watch(stock, watchers)
+    watch = Watch(stock, watchers, Sheet())
     cells = mark_cells(watch)
-    survey = Survey(watch.own_bench(), cells, watch.owners, rooted=True)
+    survey = Survey(stock, watch.sheet, watch.desks, (cells, watch.owners), rooted=True)
     return tuple(sorted([kind_row(key, len(cells)) for key in survey.rows]))
 
 
@@ -70,7 +71,7 @@ def kind_row(key, many):
 def leads_out(stock, watchers, rows):
     """None if the table is closed, otherwise a mix or a making of its rows with a kind that is not in it."""
     check_watchers(stock, watchers)
-    watch = Watch(stock, watchers)
+    watch = Watch(stock, watchers, Sheet())
     cells = mark_cells(watch)
     for number, row in enumerate(rows):
         if not is_kind(stock, watch, cells, row):

@@ -5,7 +5,6 @@ from fallsunder.benches import Bench
 from fallsunder.books import Book
 from fallsunder.desks import Desk
 from fallsunder.errors import BadNumber, OtherStock
-from fallsunder.sheets import Sheet
 from fallsunder.termtree import PART_SIGNS, SHARES, beneath_sign, check_asked
 
 MOST_WATCHERS = 8
@@ -23,12 +22,12 @@ def check_watchers(stock, watchers):
 
 
 class Watch:
-    """Watchers that are sound, cut into cells on one sheet."""
+    """Watchers that are sound, cut into cells on a sheet that is new."""
 
-    def __init__(self, stock, watchers):
+    def __init__(self, stock, watchers, sheet):
         self.stock = stock
         self.watchers = tuple(watchers)
-        self.sheet = Sheet()
+        self.sheet = sheet
         self.desks = {}
         self.spots = []
         for number, watcher in enumerate(self.watchers):
@@ -48,6 +47,10 @@ class Watch:
         """The row of answers of a good."""
         values, results = answers_of(self.sheet, self.desks, good)
         return tuple([results[k] if cell < 0 else values[cell] == 1 for k, cell in enumerate(self.spots)])
+
+    def all_rows(self):
+        """If there are no books, a list with all rows there can be, as a Survey tells them."""
+        return [] if self.owners else [[("", bits, ()) for bits in range(1 << len(self.spots))]]
 
     def row_of(self, bits, results):
         """The row of answers that has these bits for the terms and these results by the books."""

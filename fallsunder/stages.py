@@ -1,0 +1,184 @@
+"""One stage of a survey: what is told of goods from the records of their parts."""
+
+from fallsunder.benches import Pack, parted_answers, starts_by
+
+
+class Taking:
+    """The forms that take the same roots, with the packs and sides from which their things are made.
+
+    Packs are possible main parts by their sizes. Others are the looks of parts that are not the main one. Sides are
+    rows of such parts, by their number and their size in all, each told once.
+    """
+
+    def __init__(self, number, forms, takes):
+        self.number = number
+        self.forms = forms
+        self.takes = takes
+        self.reach = max([row[2] for row in forms]) - 1
+        self.packs = {}
+        self.others = {}
+        self.sides = [{} for _ in range(self.reach + 1)]
+        self.met_mains = {}
+        self.met_others = {}
+        self.met_sides = {}
+
+    def cases(self, many, states):
+        """The forms and states of things of so many parts."""
+        return [(row[0], state) for row in self.forms if row[1] <= many <= row[2] for state in states]
+
+    def file(self, bench, size, rows):
+        """File records `(number, bits, results)` of parts of this size; are there new packs, and new others?"""
+        mains = []
+        others = []
+        for number, bits, results in rows:
+            if (bits, results) not in self.met_mains:
+                self.met_mains[(bits, results)] = True
+                mains.append((number, bits, results))
+            look = (bits & bench.some_mask, bits & bench.each_mask)
+            if self.reach > 0 and look not in self.met_others:
+                self.met_others[look] = True
+                others.append((*look, number))
+        if mains:
+            self.packs[size] = Pack(bench, [row[0] for row in mains], [row[1:] for row in mains])
+        if others:
+            self.others[size] = others
+        return (mains != [], others != [])
+
+    def widen(self, size):
+        """Add one part to sides where that makes up this size; the numbers of parts for which there are new sides."""
+        out = []
+        for many in range(1, self.reach + 1):
+            fresh = []
+            for total, sides in self.sides[many - 1].items():
+                for side in sides if size - total in self.others else []:
+                    fresh.extend(wider_sides(self, many, side, self.others[size - total]))
+            if fresh:
+                self.sides[many][size] = fresh
+                out.append(many)
+        return out
+
+    def sizes_due(self, size, packed, othered, widened):
+        """The sizes at which something is to be made or widened from what is new at this size."""
+        out = []
+        for many, table in enumerate(self.sides):
+            if packed:
+                out.extend([size + total + 1 for total in table])
+            if othered and many < self.reach:
+                out.extend([size + total for total in table])
+        for many in widened:
+            out.extend([size + other + 1 for other in self.packs])
+            if many < self.reach:
+                out.extend([size + other for other in self.others])
+        return out
+
+
+class Stage:
+    """Tells rows `(tag, bits, results)` of goods; those that are told of its parts are told by the stage below it."""
+
+    def __init__(self, bench, asked, usable):
+        self.bench = bench
+        self.asked = asked
+        self.below = self
+        self.fresh = []
+        self.takings = takings_of([row for row in bench.stock.forms if row[0] in usable])
+        self.states = states_asked(bench)
+        # the records of roots that no form takes are not needed
+        self._reaches = {root: reach_of(root, self.takings) or -1 for root in usable}
+        self._met = {}
+        for taking in self.takings:
+            taking.sides[0][0] = [(0, bench.each_mask, ())]
+
+    def jobs(self, size):
+        """The new ways to make things of this size: rows of `(cases, number of parts, pack, side)`."""
+        out = []
+        for taking in self.takings:
+            for others, table in enumerate(taking.sides):
+                cases = taking.cases(others + 1, self.states)
+                for total, sides in table.items():
+                    pack = taking.packs.get(size - 1 - total)
+                    if pack is not None and cases:
+                        out.extend([(cases, others + 1, pack, side) for side in sides])
+        return out
+
+    def done(self, job):
+        """What a job gives, a row `(answers, cases, wide, parts)`; None stands for making the mixes."""
+        if job is None:
+            return (self.bench.mixes(), [("mix", "")], len(self.bench.mixtures), ())
+        cases, many, pack, side = job
+        return (self.bench.things(cases, many, pack, side), cases, len(pack.ids), (pack.ids, side[2]))
+
+    def new_rows(self, row, tags, asked, met):
+        """What of some answers has not been met: rows of `(tag, bits, results, making)`."""
+        answers, cases, wide, parts = row
+        starts = [start for start in starts_by([tags[case[0]] for case in cases], wide) if start[1] >= 0]
+        many = len(asked[0])
+        out = []
+        for goods, number, results in parted_answers(answers, starts, asked[0], asked[1]):
+            if (number, results) not in met:
+                met[(number, results)] = True
+                making = self._making_at((goods & -goods).bit_length() - 1, cases, wide, parts)
+                out.append((number >> many, number & (1 << many) - 1, results, making))
+        return out
+
+    def told(self, row):
+        """The new rows that the stages above need of some answers; their tags are the reaches of the roots."""
+        return self.new_rows(row, self._reaches, self.asked, self._met)
+
+    def _making_at(self, at, cases, wide, parts):
+        """How the good of one bit is made: `(spans,)` of a mix, or `(form, state, main part, other parts)`."""
+        if not parts:
+            return (self.bench.mixtures[at][1],)
+        form, state = cases[at // wide]
+        return (form, state, parts[0][at % wide], parts[1])
+
+    def take_up(self, size):
+        """Take up what the stage below has found at this size; the sizes at which more is due."""
+        rows = [(number, *narrowed_row(self.below.asked, self.bench, bits, results), reach)
+                for number, reach, bits, results in self.below.fresh]
+        out = []
+        for taking in self.takings:
+            mine = [row[:3] for row in rows if row[3] >> taking.number & 1]
+            packed, othered = taking.file(self.bench, size, mine)
+            widened = taking.widen(size)
+            out.extend(taking.sizes_due(size, packed, othered, widened))
+        return out
+
+
+def narrowed_row(asked, bench, bits, results):
+    """The record that a Bench needs, out of one that tells what was asked of the stage below."""
+    if list(asked[0]) != bench.cells:
+        bits = sum([bench.bit_of[cell] for k, cell in enumerate(asked[0]) if bits >> k & 1 and cell in bench.bit_of])
+    if list(asked[1]) != bench.keepers:
+        results = tuple([results[asked[1].index(owner)] for owner in bench.keepers])
+    return (bits, results)
+
+
+def wider_sides(taking, many, side, others):
+    """The sides of so many parts, not met before, that one more part makes of a side."""
+    out = []
+    for some, each, number in others:
+        look = (many, side[0] | some, side[1] & each)
+        if look not in taking.met_sides:
+            taking.met_sides[look] = True
+            out.append((look[1], look[2], (*side[2], number)))
+    return out
+
+
+def takings_of(forms):
+    """Some forms by what they take."""
+    rows = {}
+    for form in forms:
+        rows.setdefault(tuple(sorted(form[3])), []).append(form)
+    return [Taking(number, some, takes) for number, (takes, some) in enumerate(rows.items())]
+
+
+def reach_of(root, takings):
+    """A bit for each of these that takes the root."""
+    return sum([1 << taking.number for taking in takings if root in taking.takes])
+
+
+def states_asked(bench):
+    """The states that terms ask for, and one of the others."""
+    asked = [about for _, word, about in bench.sheet.simple if word == "state"]
+    other = [state for state in bench.stock.states if state not in asked]
+    return [state for state in bench.stock.states if state in asked or state in other[:1]]
