@@ -211,6 +211,47 @@ class ClaimsTest(unittest.TestCase):
 
 
 class DeepTest(unittest.TestCase):
+    def test_large_terms(self):
+        rng = fixed_random(16)
+        stock = wide_stock()
+        goods = [Good(stock, plain) for plain in rng.sample(all_goods(stock, 3, 1, ["far"]), 40)]
+        for _ in range(8):
+            term = Term(random_term(stock, rng, 7))
+            self.assertIsNone(always(stock, term | ~term))
+            self.assertEqual(relation(stock, term, ~~term), "alike")
+            self.assertIn(relation(stock, term & read_term("parts 2"), term), ("narrower", "alike"))
+            joint = Joint(stock, [term, read_term("some mix")])
+            for good in goods:
+                self.assertIn((term(good), good.many > 0 and any(part.root == "mix" for part in good)), joint)
+
+    def test_deep_looks(self):
+        stock = Stock(["a", "b"], ["s", "t"], ["l"], [("box", 1, 2, ["mix", "box"])])
+        plain = ("and", ("state", "t"), ("over", "a", 1, 2))
+        for k in range(14):
+            plain = ("some", ("and", ("state", "st"[k % 2]), plain)) if k % 3 else ("each", ("and", ("parts", 1), plain))
+        good = never(stock, Term(plain))
+        self.assertEqual((good.depth, Term(plain)(good)), (16, True))
+        chain = ("mix",)
+        for word in ("some", "each", "main") * 9:
+            chain = (word, chain)
+        self.assertEqual(always(stock, Term(chain)).size, 1)
+        self.assertEqual(never(stock, Term(("and", ("not", ("mix",)), chain))).size, 2)
+        self.assertIsNone(never(stock, Term(("and", chain, ("not", chain)))))
+
+    def test_alike_terms_in_other_words(self):
+        rows = [("from 0/1 wool", "any"), ("over 1/1 wool", "none"), ("parts 1", "not mix"), ("some any", "parts 1"),
+                ("each none", "mix"), ("some none", "none"), ("each any", "any"), ("main any", "not mix"),
+                ("main over 1/2 wool", "parts 1 and over 1/2 wool"), ("some not mix", "not each mix"),
+                ("each not mix", "not some mix"), ("main not mix", "parts 1 and not main mix"), ("mix and mix", "mix"),
+                ("mix or not mix", "any"), ("not mix and mix", "none"), ("any and mix", "mix"), ("mix or none", "mix"),
+                ("not not mix", "mix"), ("some (mix and any)", "some mix"), ("mix or parts 1", "any")]
+        for first, second in rows:
+            one, other = read_term(first), read_term(second)
+            self.assertEqual(relation(STOCK, one, other), "alike")
+            for plain in GOODS[::7]:
+                self.assertEqual(holds(one.plain, plain), holds(other.plain, plain))
+            self.assertTrue(all(row[0] == row[1] for row, _ in Joint(STOCK, [one, other, one])))
+
     def test_claims_hold_of_what_grams_are(self):
         rng = fixed_random(10)
         for _ in range(20):
