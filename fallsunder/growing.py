@@ -37,10 +37,14 @@ class Grower:
         return self._mixtures[spans]
 
     def _factor(self, making):
-        """The factor of a making, when its parts have been weighed."""
-        for number in [] if len(making) == 1 else [making[2], *making[3]]:
-            self._weigh(number)
-        return self._factor_known(making)
+        """By what the main part, which comes first, is multiplied to be at least as heavy as each other part."""
+        if len(making) == 1:
+            return 1
+        for number in (making[2], *making[3]):
+            if number not in self._loads:
+                self._weigh(number)
+        heaviest = max([0, *[self._loads[number] for number in making[3]]])
+        return max(1, -(-heaviest // self._loads[making[2]]))
 
     def _weigh(self, number):
         """Find the weight of the good of a record, from those of its parts."""
@@ -57,18 +61,9 @@ class Grower:
                 self._note_load(at, making)
 
     def _note_load(self, at, making):
-        if at in self._loads:
-            return
-        self._factors[at] = self._factor_known(making)
+        self._factors[at] = self._factor(making)
         if len(making) == 1:
             self._loads[at] = sum(self._mixture(making[0]))
         else:
             others = sum([self._loads[number] for number in making[3]])
             self._loads[at] = self._loads[making[2]] * self._factors[at] + others
-
-    def _factor_known(self, making):
-        """By what the main part, which comes first, is multiplied to be at least as heavy as each other part."""
-        if len(making) == 1:
-            return 1
-        heaviest = max([0, *[self._loads[number] for number in making[3]]])
-        return max(1, -(-heaviest // self._loads[making[2]]))

@@ -211,6 +211,16 @@ class ClaimsTest(unittest.TestCase):
 
 
 class DeepTest(unittest.TestCase):
+    def test_main_parts_are_made_the_heaviest(self):
+        stock = wide_stock()
+        light, heavy = "from 1/1 hair", "over 18/19 wool and not from 19/20 wool"
+        good = never(stock, read_term(f"main ({light} and mix) and some (mix and {heavy})"))
+        self.assertEqual((good.size, good[(good.main,)].grams("hair")), (3, good[(good.main,)].weight))
+        inner = f"form coat and main ({light}) and some ({heavy})"
+        good = never(stock, read_term(f"form coat and parts 3 and main (mix and {light}) and some ({inner})"))
+        self.assertTrue(good.size == 6 and good[(good.main,)].root == "mix")
+        self.assertLess(good.weight, 1000)
+
     def test_large_terms(self):
         rng = fixed_random(16)
         stock = wide_stock()

@@ -60,8 +60,10 @@ class RatioTest(unittest.TestCase):
         for wrong in (True, "1", None):
             with self.assertRaises(TypeError):
                 half + wrong
-            with self.assertRaises(TypeError):
-                wrong * half
+            for call in (lambda: wrong * half, lambda: half * wrong, lambda: wrong + half, lambda: wrong - half,
+                         lambda: half - wrong):
+                with self.assertRaises(TypeError):
+                    call()
 
     def test_equal(self):
         self.assertTrue(Ratio(2, 4) == Ratio(1, 2))

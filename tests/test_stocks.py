@@ -50,6 +50,9 @@ class StockTest(unittest.TestCase):
         self.assertTrue(small_stock() == small_stock())
         self.assertFalse(small_stock() == wide_stock())
         self.assertFalse(Stock(["a", "b"], ["c"], ["d"], FORMS) == Stock(["b", "a"], ["c"], ["d"], FORMS))
+        base = [["a", "b"], ["c"], ["d"], FORMS]
+        for k, part in enumerate((["a"], ["e"], ["e"], [("coat", 1, 1, ["mix"])])):
+            self.assertFalse(Stock(*base) == Stock(*base[:k], part, *base[k + 1:]))
         self.assertFalse(small_stock() == "x" or small_stock() == None)  # noqa: E711
 
     def test_counts(self):

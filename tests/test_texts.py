@@ -83,6 +83,14 @@ class GoodTextTest(TextTest):
             deep = ("coat", "worn", "far", (deep, deep)[:1])
         self.assertEqual(read_good(STOCK, write_good(Good(STOCK, deep))), Good(STOCK, deep))
 
+    def test_parts_within_parts(self):
+        text = ("coat worn far (coat whole here (mix far 1 wool, button worn far (mix far 2 hair, mix here 1 horn), "
+                "mix far 3 wool), mix far 4 wool, coat worn far (mix here 5 horn, mix here 6 horn))")
+        good = read_good(STOCK, text)
+        self.assertEqual(write_good(good), text)
+        self.assertEqual([good[place].many for place in ((), (0,), (0, 1), (2,))], [3, 3, 2, 2])
+        self.assertEqual((good.size, good[(0, 1, 1)].plain), (11, ("mix", "here", (("horn", 1),))))
+
     def test_words(self):
         self.assertEqual(words("a (b, c))"), ("a", "(", "b", ",", "c", ")", ")"))
         self.assertEqual(words(""), ("",))
@@ -132,6 +140,8 @@ class StockTextTest(unittest.TestCase):
                 ("stuffs a\nlands b", 1, 0), ("stuffs  a", 0, 1), (" stuffs a", 0, 0),
                 (self.GOOD + "\n", 5, 0), (self.GOOD.replace("g 3", "g 5"), 4, 2), (self.GOOD.replace("g 3", "g 03"), 4, 2),
                 (self.GOOD.replace("g 3 4 f", "g 3 4"), 4, 4), (self.GOOD.replace("g 3 4 f", "g 3 4 "), 4, 4),
+                (self.GOOD.replace("f 1 2 mix f", "f 1 2"), 3, 4), (self.GOOD.replace("f 1 2 mix f", "f 0 2"), 3, 2),
+                ("stuffs a\nstates b\nlands c d e f g", 2, 5), ("stuffs a\nstates b\nlands", 2, 1),
                 (self.GOOD.replace("g 3 4 f", "g"), 4, 2), (self.GOOD + " a b c d e e h", 4, 11),
                 (self.GOOD.replace("form f", "form any"), 3, 1), (self.GOOD.replace("mix f", "any f"), 3, 4),
                 (self.GOOD + "\nform h 1 1 mix" * 5, 9, 0), ("stuffs a\r\nstates b", 0, 1),
