@@ -77,7 +77,7 @@ class Stage:
 
     def __init__(self, bench, asked, usable):
         self.bench = bench
-        self.asked = asked
+        self.telling = asked
         self.below = self
         self.fresh = []
         self.takings = takings_of([row for row in bench.stock.forms if row[0] in usable])
@@ -122,7 +122,7 @@ class Stage:
 
     def told(self, row):
         """The new rows that the stages above need of some answers; their tags are the reaches of the roots."""
-        return self.new_rows(row, self._reaches, self.asked, self._met)
+        return self.new_rows(row, self._reaches, self.telling, self._met)
 
     def _making_at(self, at, cases, wide, parts):
         """How the good of one bit is made: `(spans,)` of a mix, or `(form, state, main part, other parts)`."""
@@ -133,7 +133,7 @@ class Stage:
 
     def take_up(self, size):
         """Take up what the stage below has found at this size; the sizes at which more is due."""
-        rows = [(number, *narrowed_row(self.below.asked, self.bench, bits, results), reach)
+        rows = [(number, *narrowed_row(self.below.telling, self.bench, bits, results), reach)
                 for number, reach, bits, results in self.below.fresh]
         out = []
         for taking in self.takings:

@@ -56,7 +56,7 @@ class Survey:
             for tag, bits, results, making in stage.new_rows(row, self._tags, self._asked, self._met):
                 root = self._roots[tag] if self._rooted else ""
                 self.rows[(root, bits, results)] = (size, making)
-        if stage.asked is not None:
+        if stage.telling is not None:
             for reach, bits, results, making in stage.told(row):
                 stage.fresh.append((len(self.makings), reach, bits, results))
                 self.makings.append((size, making))

@@ -367,6 +367,29 @@ def check_class_use(package, name, node):
     package.say("L18", name, node, f"the class {node.id} is passed on")
 
 
+def check_arguments(package, name, node):
+    """Each call of an own function or class passes what it takes."""
+    if not isinstance(node, ast.Call) or any(isinstance(a, ast.Starred) for a in node.args):
+        return
+    if isinstance(node.func, ast.Name) and node.func.id in package.classes:
+        found = [n for n in package.classes[node.func.id][1].body if getattr(n, "name", "") == "__init__"]
+        skip = 1
+    elif isinstance(node.func, ast.Name):
+        found = [f for _, f in package.functions.get(node.func.id, []) if not method_of(f)]
+        skip = 0
+    else:
+        return
+    for function in found[:1]:
+        args = function.args
+        names = [a.arg for a in args.args][skip:]
+        most = 1000 if args.vararg else len(names)
+        passed = {k.arg for k in node.keywords}
+        only = {a.arg for a in args.kwonlyargs}
+        needed = [n for n in names[:len(names) - len(args.defaults)] if n not in passed]
+        if len(node.args) > most or len(node.args) < len(needed) or not passed <= only | set(names):
+            package.say("L22", name, node, f"the arguments of {function.name}")
+
+
 def check_value(package, name, node):
     if isinstance(node, ast.Constant):
         check_constant(package, name, node)
@@ -525,7 +548,7 @@ def check_loop(package, name, node):
 
 
 CHECKS = [check_import, check_library_call, check_statement, check_function, check_names, check_value, check_call,
-          check_loop]
+          check_loop, check_arguments]
 
 
 def check_circles(package):
@@ -548,6 +571,11 @@ def check_classes(package):
         for node in ast.walk(tree):
             if isinstance(node, ast.Attribute) and isinstance(node.ctx, ast.Store):
                 stored.setdefault(node.attr, (name, node))
+    for name, tree in package.trees.items():
+        for node in ast.walk(tree):
+            if isinstance(node, ast.Attribute) and isinstance(node.ctx, ast.Load):
+                if node.attr not in stored and node.attr not in package.methods | METHODS | {"__init__"}:
+                    package.say("L18", name, node, f"no class assigns the attribute {node.attr}")
     for word, (name, node) in stored.items():
         if word in package.methods:
             package.say("L18", name, node, f"{word} is an attribute and a method")

@@ -30,6 +30,15 @@ BREAKS = [
     ("L24", "def f(x):\n    return set(x)\n"),
     ("L25", "def f(x):\n    return x.encode()\n"),
     ("L27", "def f(x):\n    return 2 ** x\n"),
+    ("L18", "def f(x):\n    return x.many\n"),
+    ("L22", "def g(x):\n    return x\n\n\ndef f(x):\n    return g(x, x)\n"),
+    ("L23", "def g(x):\n    yield x\n\n\ndef f(x):\n    return g(x)\n"),
+    ("L16", "from falls.a import f\n\n\ndef f(x):\n    return x\n"),
+    ("L28", "class A:\n    def __init__(self):\n        return self\n"),
+    ("L26", "class A:\n    def __init__(self):\n        self.items = 1\n"),
+    ("L24", "def f(x):\n    for k in {x, 1}:\n        return k\n"),
+    ("L1", "A = 1\n", "Big.py"),
+    ("L14", "A = 1\n", "typing.py"),
     ("L5", "class A:\n    def __hash__(self):\n        return 1\n"),
     ("L5", "class A:\n    def __add__(self, other):\n        self.a = other\n        return self\n"),
 ]
@@ -40,11 +49,11 @@ class LanguageTest(unittest.TestCase):
         self.assertEqual(broken_rules(PACKAGE), [])
 
     def test_breaks_are_seen(self):
-        for rule, text in BREAKS:
+        for rule, text, *names in BREAKS:
             with self.subTest(rule=rule, text=text), tempfile.TemporaryDirectory() as top:
                 folder = os.path.join(top, "falls")
                 os.mkdir(folder)
-                with open(os.path.join(folder, "a.py"), "w", encoding="utf-8") as file:
+                with open(os.path.join(folder, names[0] if names else "a.py"), "w", encoding="utf-8") as file:
                     file.write(text)
                 rules = [line.split(" ")[0] for line in broken_rules(folder)]
                 self.assertIn(rule, rules)
