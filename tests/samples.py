@@ -17,6 +17,12 @@ def wide_stock():
                  [("coat", 1, 3, ["mix", "coat", "button"]), ("button", 1, 2, ["mix"]), ("ghost", 1, 1, ["ghost"])])
 
 
+def twin_stock():
+    """Two forms that take the same roots, and one of three parts."""
+    return Stock(["a", "b"], ["s", "t"], ["l"],
+                 [("p", 1, 2, ["mix", "q"]), ("q", 1, 1, ["q", "mix"]), ("r", 3, 3, ["mix", "p"])])
+
+
 def mixes(stock, grams, lands):
     out = []
     for land in lands:

@@ -97,7 +97,7 @@ class ErrorsTest(unittest.TestCase):
         for headings in ([], None, "1", [("1", "")], [("1", "", ANY, 1)], ["123"], [None],
                          [(f"h{k}", "", ANY) for k in range(13)]):
             self.fails(BadBook, "headings", headings, None, None)
-        for notes in (None, "", [("1", "takes", ANY)], ["1234"], [("1", "takes", ANY, "")] * 17, [None]):
+        for notes in (None, "", [("1", "takes", ANY)], [("1", "takes", ANY, "", "")], ["1234"], [("1", "takes", ANY, "")] * 17, [None]):
             self.fails(BadBook, "notes", bad, notes, None)
         for rules in (None, "main", [1], ["first", None], ["first"] * 5, [["main"]]):
             self.fails(BadBook, "rules", bad, [("x",) * 4], rules)
@@ -127,6 +127,8 @@ class ErrorsTest(unittest.TestCase):
             self.fails(BadNote, 1, headings, [good_note, note, ("3", "", None, "")], ["x"])
         rows = [(BadTerm, (), None), (BadTerm, (0,), ("not", ["any"])), (BareFalls, "2", ("and", ("some", ("falls", "1")), ("falls", "2"))),
                 (BareFalls, "9", ("or", ("form", "x"), ("not", ("falls", "9")))),
+                (BareFalls, "9", ("or", ("falls", "9"), ("falls", "8"))),
+                (BareFalls, "9", ("and", ("not", ("falls", "9")), ("some", ("falls", "8")))),
                 (Unknown, "x", ("and", ("some", ("falls", "9")), ("form", "x"))),
                 (Unknown, "9", ("and", ("some", ("falls", "9")), ("main", ("falls", "8"))))]
         for kind, told, plain in rows:

@@ -10,7 +10,8 @@ from fallsunder.joint import Joint
 from fallsunder.stocks import Stock
 from fallsunder.terms import Term
 from fallsunder.termtext import read_term
-from tests.samples import all_goods, fixed_random, holds, plain_size, random_book, random_term, small_stock, wide_stock
+from tests.samples import all_goods, fixed_random, holds, plain_size, random_book, random_term, small_stock
+from tests.samples import twin_stock, wide_stock
 
 STOCK = small_stock()
 GOODS = all_goods(STOCK, 4)
@@ -63,6 +64,19 @@ class JointTest(unittest.TestCase):
                 headings, notes, rules = random_book(STOCK, rng, 4, 3, 1)
                 books.append(Book(STOCK, headings, notes=notes, rules=rules))
             self.check(STOCK, [Term(random_term(STOCK, rng, 2)), *books], GOODS)
+
+    def test_forms_that_take_the_same(self):
+        rng = fixed_random(18)
+        stock = twin_stock()
+        plains = rng.sample(all_goods(stock, 5, 1), 700) + all_goods(stock, 3, 2)
+        for _ in range(10):
+            headings, notes, rules = random_book(stock, rng, 4, 3, 1)
+            watchers = [Term(random_term(stock, rng, 3)), Book(stock, headings, notes=notes, rules=rules)]
+            joint = Joint(stock, watchers)
+            for row, size in leasts(stock, watchers, plains).items():
+                self.assertLessEqual(joint[row].size, size)
+            for row, good in joint:
+                self.assertEqual(tuple(watcher(good) for watcher in watchers), row)
 
     def test_rows(self):
         joint = Joint(STOCK, (read_term("mix"), BOOK))
@@ -211,6 +225,17 @@ class ClaimsTest(unittest.TestCase):
 
 
 class DeepTest(unittest.TestCase):
+    def test_sizes_far_apart(self):
+        stock = Stock(["hair", "wool"], ["s"], ["l"], [("box", 3, 3, ["mix", "box"])])
+        text = "main (mix and from 1/1 hair) and some (mix and from 1/1 wool) and some form box"
+        self.assertEqual(never(stock, read_term(text)).size, 7)
+        inner = "form box and some form box"
+        text = f"main (mix and from 1/1 hair) and some (form box and each mix) and some ({inner} and main mix)"
+        self.assertEqual(never(stock, read_term(text)).size, 13)
+        stock = Stock(["hair", "wool"], ["s"], ["l"], [("box", 4, 4, ["mix", "box"])])
+        text = f"main (mix and from 1/1 hair) and some (mix and from 1/1 wool) and some (form box and each mix) and some ({inner})"
+        self.assertEqual(never(stock, read_term(text)).size, 1 + 1 + 1 + 5 + 9)
+
     def test_main_parts_are_made_the_heaviest(self):
         stock = wide_stock()
         light, heavy = "from 1/1 hair", "over 18/19 wool and not from 19/20 wool"

@@ -10,7 +10,8 @@ from fallsunder.papers import gives, kind_of, leads_out, marks, paper
 from fallsunder.stocks import Stock
 from fallsunder.terms import Term
 from fallsunder.termtext import read_term
-from tests.samples import SlowBook, all_goods, fixed_random, plain_main, random_book, random_term, small_stock, wide_stock
+from tests.samples import SlowBook, all_goods, fixed_random, plain_main, random_book, random_term, small_stock
+from tests.samples import twin_stock, wide_stock
 
 STOCK = small_stock()
 HAIR = ("mix", "far", (("hair", 1),))
@@ -24,10 +25,10 @@ def never_narrower(first, second):
     raise AssertionError("no rule asks for it")
 
 
-def plain_book(rng):
-    headings, notes, rules = random_book(STOCK, rng, 4, 4, 1)
+def plain_book(rng, stock=STOCK):
+    headings, notes, rules = random_book(stock, rng, 4, 4, 1)
     rules = [rule for rule in rules if rule != "special"]
-    return Book(STOCK, headings, notes=notes, rules=rules), SlowBook(headings, notes, rules, never_narrower)
+    return Book(stock, headings, notes=notes, rules=rules), SlowBook(headings, notes, rules, never_narrower)
 
 
 class MarksTest(unittest.TestCase):
@@ -105,17 +106,49 @@ class KindsTest(unittest.TestCase):
                 rows = [row for row in table if row != left]
                 self.leads(watchers, rows)
 
-    def leads(self, watchers, rows):
-        found, kind = leads_out(STOCK, watchers, rows)
+    def leads(self, watchers, rows, stock=STOCK):
+        found, kind = leads_out(stock, watchers, rows)
         self.assertNotIn(kind, rows)
         if isinstance(found, Good):
-            self.assertEqual((found.root, kind_of(STOCK, watchers, found)), ("mix", kind))
+            self.assertEqual((found.root, kind_of(stock, watchers, found)), ("mix", kind))
         else:
             form, state, parts, main = found
-            least, most, takes = STOCK[form]
-            self.assertTrue(least <= len(parts) <= most and 0 <= main < len(parts) and state in STOCK.states)
+            least, most, takes = stock[form]
+            self.assertTrue(least <= len(parts) <= most and 0 <= main < len(parts) and state in stock.states)
             self.assertTrue(all(part in rows and part[0] in takes for part in parts))
-            self.assertEqual(gives(STOCK, watchers, found), kind)
+            self.assertEqual(gives(stock, watchers, found), kind)
+
+    def test_forms_that_take_the_same(self):
+        rng = fixed_random(17)
+        stock = twin_stock()
+        plains = all_goods(stock, 5, 1)
+        for _ in range(8):
+            book, slow = plain_book(rng, stock)
+            rows = marks(stock, [book])
+            table = paper(stock, [book])
+            kinds = {slow.kind(rows, plain) for plain in rng.sample(plains, 150)}
+            self.assertLessEqual(kinds, set(table))
+            # each kind is that of some good: without its row the table is not closed
+            self.assertIsNone(leads_out(stock, [book], table))
+            for left in rng.sample(table, min(5, len(table))):
+                self.leads([book], [row for row in table if row != left], stock)
+
+    def test_kinds_of_all_goods_and_of_no_others(self):
+        stock = twin_stock()
+        watchers = [read_term("some (form q and state t) and main mix"), read_term("form p or parts 3")]
+        kinds = {kind_of(stock, watchers, Good(stock, plain)) for plain in all_goods(stock, 6, 1)}
+        self.assertEqual(list(paper(stock, watchers)), sorted(kinds))
+
+    def test_makings_of_many_parts(self):
+        stock = Stock(list("abcd"), ["s"], ["l"], [("f", 4, 4, ["mix"]), ("g", 3, 3, ["mix", "f"])])
+        for text in (" and ".join(f"some over 1/2 {stuff}" for stuff in "abcd"),
+                     "form g and some form f and " + " and ".join(f"some over 1/2 {stuff}" for stuff in "ab")):
+            watchers = [read_term(text)]
+            table = paper(stock, watchers)
+            self.assertIsNone(leads_out(stock, watchers, table))
+            true = [row for row in table if row[1][0]]
+            self.assertTrue(true)
+            self.leads(watchers, [row for row in table if row not in true], stock)
 
     def test_tables_that_are_not_closed(self):
         watchers = [read_term("some (mix and over 1/2 hair)")]
