@@ -12,25 +12,29 @@ class Desk:
         self.titles = [row[0] for row in book.headings]
         self.ends = [k for k, name in enumerate(self.titles) if name not in parents]
         self._above = [self.titles.index(name) if name != "" else -1 for name in parents]
-        self._takes = [[sheet.cell_of(row[2], owner)] for row in book.headings]
-        self._shuts = [[] for _ in book.headings]
-        self._sends = []
-        for heading, word, plain, target in book.notes:
+        takes = [[sheet.cell_of(row[2], owner)] for row in book.headings]
+        shuts = [[] for _ in book.headings]
+        sends = []
+        for heading, word, plain, target in list(book.notes):
             at = self.titles.index(heading)
             cell = sheet.cell_of(plain, owner)
             if word == "takes":
-                self._takes[at].append(cell)
+                takes[at].append(cell)
             elif word == "shuts":
-                self._shuts[at].append(cell)
+                shuts[at].append(cell)
             else:
-                self._sends.append((at, cell, self.titles.index(target)))
-        inner = [*self._takes, *self._shuts, [row[1] for row in self._sends]]
+                sends.append((at, cell, self.titles.index(target)))
+        self._takes = takes
+        self._shuts = shuts
+        self._sends = sends
+        inner = [*takes, *shuts, [row[1] for row in sends]]
         self.own_cells = [cell for cells in inner for cell in cells]
-        self.leaves_under = {name: {} for name in self.titles}
-        for leaf in self.ends:
-            for at in self.line_at(leaf):
-                self.leaves_under[self.titles[at]][self.titles[leaf]] = True
+        self.leaves_under = {name: self._leaves_below(at) for at, name in enumerate(self.titles)}
         self._told = {}
+
+    def _leaves_below(self, at):
+        """The names of the leaves beneath a heading, as the keys of a dict."""
+        return {self.titles[leaf]: True for leaf in self.ends if at in self.line_at(leaf)}
 
     def line_at(self, at):
         """The numbers of the headings of a line, from the outermost down to this one."""

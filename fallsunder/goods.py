@@ -155,7 +155,7 @@ def whole_of(stock, plain):
         if node[0] != "mix":
             at = len(done) - len(node[3])
             parts = [Good(stock, whole) for whole in done[at:][::-1]]
-            done = done[:at]
+            done = list(done[:at])
         done.append(Whole(node, parts))
     return done[0]
 

@@ -16,9 +16,10 @@ class ShapeOrder:
 
     def __init__(self, stock):
         self._stock = stock
-        self._grounds = {ALL: ["mix", *[row[0] for row in stock.forms]]}
+        grounds = {ALL: ["mix", *[row[0] for row in stock.forms]]}
         for row in stock.forms:
-            self._grounds[row[0]] = row[3]
+            grounds[row[0]] = row[3]
+        self._grounds = grounds
         # for each root and each ground how many shapes of 0, 1, 2 .. nodes there are
         self._root_counts = {root: [0] for root in self._grounds[ALL]}
         self._sums = {ground: [0] for ground in self._grounds}
@@ -35,12 +36,12 @@ class ShapeOrder:
     def _grow(self, nodes):
         stock = self._stock
         self._root_counts["mix"].append(len(stock.lands) * ((1 << len(stock.stuffs)) - 1) if nodes == 1 else 0)
-        for name, least, most, _ in stock.forms:
+        for name, least, most, _ in list(stock.forms):
             rows = sum([self._rows[name][many][nodes - 1] for many in range(least, most + 1)])
             self._root_counts[name].append(len(stock.states) * len(stock.lands) * rows)
-        for ground, roots in self._grounds.items():
+        for ground, roots in list(self._grounds.items()):
             self._sums[ground].append(sum([self._root_counts[root][nodes] for root in roots]))
-        for name, _, most, _ in stock.forms:
+        for name, _, most, _ in list(stock.forms):
             firsts = self._sums[name]
             table = self._rows[name]
             table[0].append(0)

@@ -85,7 +85,7 @@ class Stage:
         # the records of roots that no form takes are not needed
         self._reaches = {root: reach_of(root, self.takings) or -1 for root in usable}
         self._met = {}
-        for taking in self.takings:
+        for taking in list(self.takings):
             taking.sides[0][0] = [(0, bench.each_mask, ())]
 
     def jobs(self, size):

@@ -33,7 +33,7 @@ def built(heads):
             # what stands behind a node in a walk is done already, its first part uppermost
             at = len(done) - head[3]
             parts = tuple(done[at:][::-1])
-            done = done[:at]
+            done = list(done[:at])
             done.append((head[0], head[1], head[2], parts))
     return done[0]
 

@@ -28,14 +28,16 @@ class Watch:
         self.stock = stock
         self.watchers = tuple(watchers)
         self.sheet = sheet
-        self.desks = {}
-        self.spots = []
-        for number, watcher in enumerate(self.watchers):
+        desks = {}
+        spots = []
+        for number, watcher in enumerate(watchers):
             if isinstance(watcher, Book):
-                self.desks[number] = Desk(self.sheet, number, watcher)
-                self.spots.append(-1)
+                desks[number] = Desk(sheet, number, watcher)
+                spots.append(-1)
             else:
-                self.spots.append(self.sheet.cell_of(watcher.plain, -1))
+                spots.append(sheet.cell_of(watcher.plain, -1))
+        self.desks = desks
+        self.spots = spots
         self.term_cells = [cell for cell in self.spots if cell >= 0]
         self.owners = list(self.desks)
 

@@ -547,8 +547,32 @@ def check_loop(package, name, node):
                 package.say("L23", name, where, f"{text} is changed while it is iterated over")
 
 
+def bare_fields(node):
+    """The attributes that are gone over where they stand, not in a copy."""
+    if isinstance(node, ast.Call) and called_name(node) in ("list", "tuple", "sorted", "range", "len"):
+        return []
+    is_method = isinstance(node.parent, ast.Call) and node.parent.func is node
+    out = [node] if isinstance(node, ast.Attribute) and not is_method else []
+    for child in ast.iter_child_nodes(node):
+        out.extend(bare_fields(child))
+    return out
+
+
+def check_field_loop(package, name, node):
+    """A loop that walks a field changes no item of a field: it could be the very list that is walked."""
+    if not isinstance(node, ast.For) or not bare_fields(node.iter):
+        return
+    function = function_of(node)
+    kept = {one.targets[0].id for one in ast.walk(function) if isinstance(one, ast.Assign)
+            and isinstance(one.targets[0], ast.Name) and bare_fields(one.value)
+            and isinstance(one.value, (ast.Attribute, ast.Subscript))}
+    for text, where in changes_of(node.body):
+        if ("[" in text and "." in text.partition("[")[0]) or text.partition("[")[0].partition(".")[0] in kept:
+            package.say("L23", name, where, f"{text}, an item of a field, is changed in a loop over a field")
+
+
 CHECKS = [check_import, check_library_call, check_statement, check_function, check_names, check_value, check_call,
-          check_loop, check_arguments]
+          check_loop, check_field_loop, check_arguments]
 
 
 def check_circles(package):
@@ -625,8 +649,7 @@ def check_pure_function(package, name, node):
     for one in ast.walk(node):
         if isinstance(one, ast.Assign) and isinstance(one.targets[0], ast.Name):
             fresh = isinstance(one.value, (ast.List, ast.ListComp, ast.Dict, ast.DictComp)) or (
-                called_name(one.value) in ("list", "dict", "set", "sorted")) or (
-                isinstance(one.value, ast.Subscript) and isinstance(one.value.slice, ast.Slice))
+                called_name(one.value) in ("list", "dict", "set", "sorted"))
             word = one.targets[0].id
             made[word] = made.get(word, True) and fresh
     for text, where in changes_of(node.body):

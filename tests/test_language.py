@@ -27,6 +27,10 @@ BREAKS = [
     ("L20", "def f(x, y):\n    return x is y\n"),
     ("L23", "def f(x):\n    return zip(x, x)\n"),
     ("L23", "def f(x):\n    for k in x:\n        x.append(k)\n"),
+    ("L23", "class A:\n    def f(self):\n        for k in self.rows:\n            self.sums[k].append(k)\n"),
+    ("L23", "class A:\n    def f(self):\n        for k, v in self.rows.items():\n            self.sums[k][v] = k\n"),
+    ("L23", "class A:\n    def f(self):\n        one = self.sums[0]\n        for k in self.rows:\n"
+            "            one.append(k)\n"),
     ("L24", "def f(x):\n    return set(x)\n"),
     ("L25", "def f(x):\n    return x.encode()\n"),
     ("L27", "def f(x):\n    return 2 ** x\n"),
@@ -41,6 +45,8 @@ BREAKS = [
     ("L14", "A = 1\n", "typing.py"),
     ("L5", "class A:\n    def __hash__(self):\n        return 1\n"),
     ("L5", "class A:\n    def __add__(self, other):\n        self.a = other\n        return self\n"),
+    ("L5", "def f(x):\n    y = x[1:]\n    y.append(1)\n    return y\n\n\nclass A:\n"
+           "    def __add__(self, other):\n        return f(other)\n"),
 ]
 
 
