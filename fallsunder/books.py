@@ -57,11 +57,16 @@ class Book:
     def __call__(self, good):
         if self.stock != good.stock:
             raise OtherStock(1)
+        sheet, desk = self.at_work()
+        _, results = answers_of(sheet, {0: desk}, good)
+        return results[0]
+
+    def at_work(self):
+        """A sheet with the terms of the book, and the Desk over it, which is number 0 there."""
         if self._sheet is None:
             self._sheet = Sheet()
             self._desk = Desk(self._sheet, 0, self)
-        _, results = answers_of(self._sheet, {0: self._desk}, good)
-        return results[0]
+        return (self._sheet, self._desk)
 
     def line_of(self, name):
         """The names of the headings of its line, from the outermost one down to it."""

@@ -10,31 +10,22 @@ class Desk:
         self._ladder = book.ladder
         parents = [row[1] for row in book.headings]
         self.titles = [row[0] for row in book.headings]
-        self.ends = [k for k, name in enumerate(self.titles) if name not in parents]
+        self.last_ones = [k for k, name in enumerate(self.titles) if name not in parents]
         self._above = [self.titles.index(name) if name != "" else -1 for name in parents]
-        takes = [[sheet.cell_of(row[2], owner)] for row in book.headings]
-        shuts = [[] for _ in book.headings]
-        sends = []
-        for heading, word, plain, target in list(book.notes):
-            at = self.titles.index(heading)
-            cell = sheet.cell_of(plain, owner)
-            if word == "takes":
-                takes[at].append(cell)
-            elif word == "shuts":
-                shuts[at].append(cell)
-            else:
-                sends.append((at, cell, self.titles.index(target)))
-        self._takes = takes
-        self._shuts = shuts
-        self._sends = sends
-        inner = [*takes, *shuts, [row[1] for row in sends]]
-        self.own_cells = [cell for cells in inner for cell in cells]
+        self._own = [sheet.cell_of(row[2], owner) for row in book.headings]
+        self._noted = [sheet.cell_of(row[2], owner) for row in book.notes]
+        self.own_cells = [*self._own, *self._noted]
+        # the numbers of the notes, for each heading those that take and those that shut
+        self._takes = [note_numbers(book.notes, name, "takes") for name in self.titles]
+        self._shuts = [note_numbers(book.notes, name, "shuts") for name in self.titles]
+        self._sends = [(self.titles.index(row[0]), number, self.titles.index(row[3]))
+                       for number, row in enumerate(book.notes) if row[1] == "sends"]
         self.leaves_under = {name: self._leaves_below(at) for at, name in enumerate(self.titles)}
         self._told = {}
 
     def _leaves_below(self, at):
         """The names of the leaves beneath a heading, as the keys of a dict."""
-        return {self.titles[leaf]: True for leaf in self.ends if at in self.line_at(leaf)}
+        return {self.titles[leaf]: True for leaf in self.last_ones if at in self.line_at(leaf)}
 
     def line_at(self, at):
         """The numbers of the headings of a line, from the outermost down to this one."""
@@ -50,16 +41,26 @@ class Desk:
 
     def result_of(self, values, main):
         """The result of one good, its main part having this result."""
-        fits = self._fitting(values, 1)
-        fitting = sum([1 << k for k, leaf in enumerate(self.ends) if fits[leaf] == 1])
-        sent = sum([1 << k for k, note in enumerate(self._sends) if values[note[1]] == 1])
+        fitting, sent = self._signs_of(values)
         return self._outcome(fitting, sent, main)
+
+    def tale_of(self, values, main):
+        """How one good comes to its result: `(leaves that fit, steps, leaves left, notes that send it on)`.
+
+        Leaves are told by their numbers among the headings, notes as rows (leaf, number of the note, target).
+        """
+        fitting, sent = self._signs_of(values)
+        fits = self._leaves_of(fitting)
+        steps = self.steps_from(fits, main)
+        left = steps[len(steps) - 1][1] if steps else fits
+        return (fits, steps, left, self.way_from(left[0], sent) if len(left) == 1 else [])
 
     def results_of(self, values, full, mains):
         """The results of many goods, rows of (goods, result); mains are such rows for their main parts."""
-        fits = self._fitting(values, full)
-        groups = parted([(full, 0)], [fits[leaf] for leaf in self.ends])
-        sends = parted([(full, 0)], [values[note[1]] for note in self._sends])
+        told = self.notes_told(values)
+        fits = self._fitting(values, told, full)
+        groups = parted([(full, 0)], [fits[leaf] for leaf in self.last_ones])
+        sends = parted([(full, 0)], [told[row[1]] for row in self._sends])
         mains = mains if self.asks_main() else [(full, "")]
         out = {}
         for bits, fitting in groups:
@@ -71,15 +72,26 @@ class Desk:
                         out[result] = out.get(result, 0) | both & few
         return [(bits, result) for result, bits in out.items()]
 
-    def _fitting(self, values, full):
+    def notes_told(self, values):
+        """For each note the goods of which its term is true."""
+        return [values[cell] for cell in self._noted]
+
+    def _signs_of(self, values):
+        """For one good, a bit for each leaf that fits it, and one for each note that can send it on."""
+        told = self.notes_told(values)
+        fits = self._fitting(values, told, 1)
+        fitting = sum([1 << k for k, leaf in enumerate(self.last_ones) if fits[leaf] == 1])
+        return (fitting, sum([1 << k for k, row in enumerate(self._sends) if told[row[1]] == 1]))
+
+    def _fitting(self, values, told, full):
         """For each heading the goods that it fits."""
         fits = []
         for at, above in enumerate(self._above):
-            taken = 0
-            for cell in self._takes[at]:
-                taken = taken | values[cell]
-            for cell in self._shuts[at]:
-                taken = taken & (full ^ values[cell])
+            taken = values[self._own[at]]
+            for number in self._takes[at]:
+                taken = taken | told[number]
+            for number in self._shuts[at]:
+                taken = taken & (full ^ told[number])
             fits.append(taken & fits[above] if above >= 0 else taken)
         return fits
 
@@ -89,16 +101,22 @@ class Desk:
             self._told[key] = self._find(fitting, sent, main)
         return self._told[key]
 
+    def _leaves_of(self, fitting):
+        return [leaf for k, leaf in enumerate(self.last_ones) if fitting >> k & 1]
+
     def _find(self, fitting, sent, main):
-        left = [leaf for k, leaf in enumerate(self.ends) if fitting >> k & 1]
+        left = self._leaves_of(fitting)
         for _, behind in self.steps_from(left, main):
             left = behind
         if not left:
             return "none"
         if len(left) > 1:
             return "two"
-        been = self.way_from(left[0], sent)
-        return self.titles[been[len(been) - 1]] if been[len(been) - 1] not in been[:-1] else "ring"
+        way = self.way_from(left[0], sent)
+        if not way:
+            return self.titles[left[0]]
+        last = way[len(way) - 1][2]
+        return "ring" if last in [row[0] for row in way] else self.titles[last]
 
     def steps_from(self, left, main):
         """The rules that are used on these leaves, rows of (rule, leaves left behind it)."""
@@ -120,15 +138,21 @@ class Desk:
         return [leaf for leaf in left if not any([self._ladder.is_narrower(k, leaf) for k in left if k != leaf])]
 
     def way_from(self, leaf, sent):
-        """The leaves at which a good has been, from where it is found; the last one may close a ring."""
-        been = [leaf]
-        while been[len(been) - 1] not in been[:-1]:
-            at = been[len(been) - 1]
-            targets = [row[2] for k, row in enumerate(self._sends) if row[0] == at and sent >> k & 1]
-            if not targets:
-                return been
-            been.append(targets[0])
-        return been
+        """How a good is sent on from a leaf: rows of (leaf, number of the note, target); the last may close a ring."""
+        way = []
+        at = leaf
+        while at not in [row[0] for row in way]:
+            follows = [row for k, row in enumerate(self._sends) if row[0] == at and sent >> k & 1]
+            if not follows:
+                return way
+            way.append(follows[0])
+            at = follows[0][2]
+        return way
+
+
+def note_numbers(notes, name, word):
+    """The numbers of the notes of this heading with this word."""
+    return [number for number, row in enumerate(notes) if row[0] == name and row[1] == word]
 
 
 def parted(groups, columns):

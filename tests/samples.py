@@ -3,8 +3,12 @@
 import itertools
 import random
 
+from fallsunder.books import Book
+from fallsunder.claims import implied
+from fallsunder.errors import FallsError
 from fallsunder.goods import Good
 from fallsunder.stocks import Stock
+from fallsunder.terms import Term
 
 
 def small_stock():
@@ -218,3 +222,37 @@ def random_book(stock, rng, most_headings=5, most_notes=4, depth=2):
             notes.append((rng.choice(names), word, term, ""))
     rules = rng.sample(["special", "main", "first", "last"], rng.randint(0, 4))
     return headings, notes, rules
+
+
+class Narrower:
+    """Which leaf is narrower, told by claims about all goods."""
+
+    def __init__(self, stock, headings):
+        self.stock, self.headings, self.known = stock, headings, {}
+
+    def asked(self, first, second):
+        if (first, second) not in self.known:
+            one, other = [Term(line_term(self.headings, name)) for name in (first, second)]
+            there, back = implied(self.stock, one, other), implied(self.stock, other, one)
+            self.known[first, second] = there is None and back is not None
+        return self.known[first, second]
+
+
+def slow_of(book):
+    """The SlowBook of a Book."""
+    return SlowBook(book.headings, book.notes, book.rules, Narrower(book.stock, book.headings).asked)
+
+
+def book_from(stock, rng, *args, **more):
+    """A random Book."""
+    headings, notes, rules = random_book(stock, rng, *args, **more)
+    return Book(stock, headings, notes=notes, rules=rules)
+
+
+def caught(call):
+    """The error of the program that a call raises, as (class name, what it was made with); None if there is none."""
+    try:
+        call()
+    except FallsError as error:
+        return (type(error).__name__, *vars(error).values())
+    return None

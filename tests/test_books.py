@@ -3,14 +3,13 @@
 import unittest
 
 from fallsunder.books import RESULTS, Book, is_heading
-from fallsunder.claims import implied
 from fallsunder.errors import BadBook, BadName, BadNote, BadRule, BadTerm, BareFalls, NoHeading, OtherStock, Twice
 from fallsunder.errors import Unknown
 from fallsunder.goods import Good
 from fallsunder.goodtext import read_good
 from fallsunder.terms import Term
 from fallsunder.termtext import read_term
-from tests.samples import SlowBook, all_goods, fixed_random, line_term, random_book, small_stock, wide_stock
+from tests.samples import Narrower, SlowBook, all_goods, fixed_random, random_book, small_stock, wide_stock
 
 STOCK = small_stock()
 HAIR, WOOL = "mix far 1 hair", "mix far 2 wool"
@@ -254,19 +253,6 @@ class ResultTest(unittest.TestCase):
         book = Book(stock, [("1", "", MIX), ("2", "", NONE)],
                     notes=[("1", "takes", ("main", ("falls", "2")), ""), ("2", "takes", ("main", ("falls", "1")), "")])
         self.assertEqual(book(Good(stock, plain)), "1")
-
-
-class Narrower:
-    """Which leaf is narrower, told by claims about all goods."""
-
-    def __init__(self, stock, headings):
-        self.stock, self.headings, self.known = stock, headings, {}
-
-    def asked(self, first, second):
-        if (first, second) not in self.known:
-            one, other = [Term(line_term(self.headings, name)) for name in (first, second)]
-            self.known[first, second] = implied(self.stock, one, other) is None and implied(self.stock, other, one) is not None
-        return self.known[first, second]
 
 
 if __name__ == "__main__":

@@ -1,0 +1,118 @@
+"""Sorts the kinds of goods by a book into classes, whose goods the book does not tell apart in any thing."""
+
+from fallsunder.benches import parted_answers, starts_by
+from fallsunder.desks import split_by
+
+
+class Job:
+    """Things of a room with one row of parts beside the main one: groups are rows (goods, kind), by main parts."""
+
+    def __init__(self, beside, side, wide, groups):
+        self.beside = beside
+        self.side = side
+        self.wide = wide
+        self.groups = groups
+
+
+class Congruence:
+    """The classes of kinds: at first those with the same root and result, then they are parted as long as they can."""
+
+    def __init__(self, kit):
+        self._kit = kit
+        self._numbers = {}
+        for number, kind in enumerate(kit.kinds):
+            self._numbers[(kind.top, kind.record[0], kind.result)] = number
+        self._jobs = [self._jobs_of(room) for room in kit.rooms]
+        self._classes = numbered([(kind.top, kind.result) for kind in kit.kinds])
+        many = 0
+        while many < max(self._classes) + 1:
+            many = max(self._classes) + 1
+            self._classes = numbered(self._all_signs())
+
+    def least_kinds(self):
+        """The number of a least kind of each class."""
+        out = {}
+        for number, name in enumerate(self._classes):
+            out.setdefault(name, number)
+        return list(out.values())
+
+    def _jobs_of(self, room):
+        kit = self._kit
+        bench = kit.bench
+        roots = ["mix", *[row[0] for row in kit.stock.forms]]
+        wide = len(room.mains)
+        out = []
+        for many, sides in enumerate(room.sides):
+            cases = kit.cases(room, many + 1)
+            starts = starts_by([roots.index(case[0]) for case in cases], wide)
+            for side in sides if cases and wide > 0 else []:
+                answers = bench.things(cases, many + 1, room.pack, side[:2])
+                groups = []
+                for goods, number, names in parted_answers(answers, starts, bench.cells, [0]):
+                    root = roots[number >> len(bench.cells)]
+                    bits = number & (1 << len(bench.cells)) - 1
+                    groups.append((goods, self._numbers[(root, bits, names[0])]))
+                out.append(Job(many, side[:2], wide, groups))
+        return out
+
+    def _all_signs(self):
+        """For each kind its class, and how it is told apart in each room that takes it."""
+        kit = self._kit
+        signs = [[name] for name in self._classes]
+        for room, jobs in zip(kit.rooms, self._jobs):
+            columns = [self._columns_of(job) for job in jobs]
+            mains = self._parted_mains(room, jobs, columns)
+            looks = self._parted_looks(room, jobs, columns)
+            for number, kind in enumerate(kit.kinds):
+                if kind.top in room.taking.takes:
+                    look = (kind.record[0] & kit.bench.some_mask, kind.record[0] & kit.bench.each_mask)
+                    signs[number].extend([mains[kind.record], looks[look]])
+        return [tuple(sign) for sign in signs]
+
+    def _columns_of(self, job):
+        """For each class the things of a job that are in it, ascending by the classes."""
+        out = {}
+        for goods, number in job.groups:
+            name = self._classes[number]
+            out[name] = out.get(name, 0) | goods
+        return tuple([(name, out[name]) for name in sorted(out)])
+
+    def _parted_mains(self, room, jobs, columns):
+        """A number for each record of the possible main parts, the same where no job tells them apart."""
+        groups = [((1 << len(room.mains)) - 1, 0)]
+        for job, row in zip(jobs, columns):
+            block = (1 << job.wide) - 1
+            # what stands in no other column stands in the last one
+            for _, goods in row[:-1]:
+                while goods:
+                    if goods & block not in (0, block):
+                        groups = split_by(groups, goods & block, 0)
+                    goods = goods >> job.wide
+        out = {}
+        for name, (mains, _) in enumerate(groups):
+            for at, number in enumerate(room.mains):
+                if mains >> at & 1:
+                    out[self._kit.kinds[number].record] = name
+        return out
+
+    def _parted_looks(self, room, jobs, columns):
+        """A number for each look of parts beside the main one, the same where no job tells them apart."""
+        names = numbered(columns)
+        where = {(job.beside, job.side): names[at] for at, job in enumerate(jobs)}
+        signs = []
+        for more, every, _, _ in room.looks:
+            sign = []
+            for many, sides in enumerate(room.sides[:-1]):
+                for some, each, _, _ in sides:
+                    sign.append(where.get((many + 1, (some | more, each & every)), -1))
+            signs.append(tuple(sign))
+        numbers = numbered(signs)
+        return {row[:2]: numbers[at] for at, row in enumerate(room.looks)}
+
+
+def numbered(things):
+    """A number for each of some things, the same for those that are equal."""
+    found = {}
+    for thing in things:
+        found.setdefault(thing, len(found))
+    return [found[thing] for thing in things]
