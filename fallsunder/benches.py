@@ -136,6 +136,19 @@ def parted_answers(answers, starts, cells, owners):
     return rows
 
 
+def paired_rows(answers, starts, cells, owners):
+    """Part goods by two Answers at once: rows `(goods, tag, record by the first one, record by the second one)`."""
+    many = len(cells)
+    mask = (1 << many) - 1
+    firsts = parted_answers(answers[0], starts, cells, owners)
+    again = [(row[0], number) for number, row in enumerate(firsts)]
+    out = []
+    for goods, number, names in parted_answers(answers[1], again, cells, owners):
+        _, ahead, results = firsts[number >> many]
+        out.append((goods, ahead >> many, (ahead & mask, results), (number & mask, names)))
+    return out
+
+
 def starts_by(tags, wide):
     """The goods of some cases, so many for each, by the tags of the cases."""
     out = {}

@@ -5,7 +5,7 @@ part, until a pair of things has two results.
 """
 
 from heapq import heappop, heappush
-from fallsunder.benches import Pack, parted_answers, starts_by
+from fallsunder.benches import Pack, paired_rows, starts_by
 from fallsunder.kits import look_of_record
 
 
@@ -58,11 +58,11 @@ class Twins:
     def _do(self, cost, jobs):
         """Do what is planned at a cost; the Layer is told in which there are two results."""
         fresh = []
-        for job in jobs:
-            if job[0] == "side":
-                self._plan_mains(cost, *job[1:])
+        for word, told in jobs:
+            if word == "side":
+                self._plan_mains(cost, *told)
             else:
-                found = self._work(fresh, *job[1:])
+                found = self._work(fresh, *told)
                 if found is not None:
                     return found
         self._spread(cost, fresh)
@@ -75,11 +75,11 @@ class Twins:
             layer = self._layers[layer.below]
         return out[::-1]
 
-    def _plan(self, cost, job):
+    def _plan(self, cost, word, told):
         if cost not in self._due:
             self._due[cost] = []
             heappush(self._queue, cost)
-        self._due[cost].append(job)
+        self._due[cost].append((word, told))
 
     def _spread(self, cost, pairs):
         """Plan what can be made around these pairs, rows (layer, reach, first, second)."""
@@ -94,7 +94,7 @@ class Twins:
                 for many, sides in enumerate(room.sides):
                     for some, each, total, numbers in sides if self._kit.cases(room, many + 1) else []:
                         side = (some, each)
-                        self._plan(cost + total + 1, ("work", room, pack, (side, side), numbers, ()))
+                        self._plan(cost + total + 1, "work", (room, pack, (side, side), numbers, ()))
 
     def _is_new(self, key):
         if key in self._met:
@@ -111,13 +111,13 @@ class Twins:
         for many, sides in enumerate(room.sides[:-1]):
             for some, each, total, numbers in sides if self._kit.cases(room, many + 2) else []:
                 both = tuple([(some | look[0], each & look[1]) for look in looks])
-                self._plan(cost + total, ("side", at, room, both, numbers, layer))
+                self._plan(cost + total, "side", (at, room, both, numbers, layer))
 
     def _plan_mains(self, cost, at, room, both, numbers, layer):
         """Plan the things with a pair beside the main part."""
         if both[0] != both[1] and self._is_new(("sides", at, len(numbers), *both)):
             for size in room.packs:
-                self._plan(cost + size + 1, ("work", room, room.packs[size], both, numbers, (layer,)))
+                self._plan(cost + size + 1, "work", (room, room.packs[size], both, numbers, (layer,)))
 
     def _work(self, fresh, room, pack, both, numbers, holes):
         """Make things; they are added to the fresh pairs, or the Layer is told in which there are two results."""
@@ -153,17 +153,4 @@ def parting_bits(firsts, seconds):
         for others, name in seconds:
             if name != result:
                 out = out | goods & others
-    return out
-
-
-def paired_rows(answers, starts, cells, owners):
-    """Part goods by two Answers at once: rows `(goods, tag, record by the first one, record by the second one)`."""
-    many = len(cells)
-    mask = (1 << many) - 1
-    firsts = parted_answers(answers[0], starts, cells, owners)
-    again = [(row[0], number) for number, row in enumerate(firsts)]
-    out = []
-    for goods, number, names in parted_answers(answers[1], again, cells, owners):
-        _, ahead, results = firsts[number >> many]
-        out.append((goods, ahead >> many, (ahead & mask, results), (number & mask, names)))
     return out
