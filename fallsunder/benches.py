@@ -57,22 +57,31 @@ class Bench:
             values[number] = full if word == "each" else 0
         return self._answers(full, values, {owner: [(full, "")] for owner in self.desks})
 
-    def things(self, cases, many, pack, sides):
+    def things(self, cases, many, pack, side):
         """The answers for things of so many parts: for each case, a form and a state, each main part of the pack.
 
-        Sides are two rows of bits: what some of the other parts are, and what each of them is.
+        A side begins with two rows of bits: what some of the other parts are, and what each of them is.
         """
+        return self.things_beside(cases, many, pack, [side])
+
+    def things_beside(self, cases, many, pack, sides):
+        """The same for each of some sides, the things of one side ahead of those of the next one."""
         wide = len(pack.ids)
-        spread = sum([1 << k * wide for k in range(len(cases))])
-        full = (1 << len(cases) * wide) - 1
-        values = self._simple_values(cases, many, wide)
+        unit = len(cases) * wide
+        block = (1 << unit) - 1
+        full = (1 << len(sides) * unit) - 1
+        spread = repeated(len(sides) * len(cases), wide)
+        blocks = repeated(len(sides), unit)
+        values = [worth * blocks for worth in self._simple_values(cases, many, wide)]
         for number in self.sheet.shares:
             values[number] = pack.columns[number] * spread
         for number, word, inner in self.sheet.looks:
-            if word == "some" and sides[0] & self.bit_of[inner]:
-                values[number] = full
-            elif word != "each" or sides[1] & self.bit_of[inner]:
-                values[number] = pack.columns[inner] * spread
+            values[number] = pack.columns[inner] * spread
+            if word != "main":
+                at = 0 if word == "some" else 1
+                bit = self.bit_of[inner]
+                mask = sum([block << k * unit for k, side in enumerate(sides) if side[at] & bit])
+                values[number] = values[number] | mask if at == 0 else values[number] & mask
         mains = {owner: [(full, "")] for owner in self.desks}
         for owner in self.keepers:
             mains[owner] = [(bits * spread, name) for bits, name in pack.mains[owner]]
@@ -91,7 +100,7 @@ class Bench:
                 elif word == "any" or (word == "parts" and many >= about):
                     values[number] = full
             self._simple[key] = values
-        return list(self._simple[key])
+        return self._simple[key]
 
     def _answers(self, full, values, mains):
         work_out(values, full, self.sheet.early)
@@ -101,6 +110,11 @@ class Bench:
         work_falls(self.sheet, self.desks, values, groups)
         work_out(values, full, self.sheet.late)
         return Answers(full, values, groups)
+
+
+def repeated(many, wide):
+    """The first bit of each of so many blocks that are so wide."""
+    return sum([1 << k * wide for k in range(many)])
 
 
 def column_of(records, k):

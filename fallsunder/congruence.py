@@ -84,10 +84,11 @@ class Congruence:
             block = (1 << job.wide) - 1
             # what stands in no other column stands in the last one
             for _, goods in row[:-1]:
-                while goods:
-                    if goods & block not in (0, block):
-                        groups = split_by(groups, goods & block, 0)
-                    goods = goods >> job.wide
+                left = goods
+                while left:
+                    if left & block not in (0, block):
+                        groups = split_by(groups, left & block, 0)
+                    left = left >> job.wide
         out = {}
         for name, (mains, _) in enumerate(groups):
             for at, number in enumerate(room.mains):

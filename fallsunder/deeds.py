@@ -67,16 +67,15 @@ class Choices:
 
     def fewest_for(self, good):
         """The numbers of the fewest deeds that give the good the result that it has behind all of them."""
-        many = len(self._deeds)
-        every = tuple(range(many))
-        book = self.book_behind(every)
+        every = list(range(len(self._deeds)))
+        book = self.book_behind(tuple(every))
         result = book(good)
-        for length in range(many):
-            for numbers in combinations(list(range(many)), length):
+        for length in range(len(every)):
+            for numbers in combinations(every, length):
                 other = self.book_behind(numbers)
                 if other is not None and other(good) == result:
                     return numbers
-        return every
+        return tuple(every)
 
 
 def check_many(deeds):

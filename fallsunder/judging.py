@@ -56,9 +56,9 @@ def unused(book):
 def fewest_struck(book):
     """The numbers of the fewest notes without which the book is sound, None if no choice makes it sound."""
     striker = Striker(book)
-    many = len(book.notes)
-    for length in range(many + 1):
-        for numbers in combinations(list(range(many)), length):
+    every = list(range(len(book.notes)))
+    for length in range(len(every) + 1):
+        for numbers in combinations(every, length):
             if striker.may_be_sound(numbers):
                 notes = [note for number, note in enumerate(book.notes) if number not in numbers]
                 verdict = judge(book.changed(notes=notes))

@@ -83,11 +83,12 @@ class Rulings:
 
     def fewest(self):
         """The numbers of the fewest rows by which the same is ruled for all goods."""
-        for many in range(len(self.rows)):
-            for numbers in combinations(list(range(len(self.rows))), many):
+        every = list(range(len(self.rows)))
+        for length in range(len(every)):
+            for numbers in combinations(every, length):
                 if self._says_same(numbers):
                     return numbers
-        return tuple(range(len(self.rows)))
+        return tuple(every)
 
     def chosen(self, numbers):
         """The rows with these numbers, ascending."""
@@ -135,4 +136,5 @@ def decider_of(bits):
 
 def combined(many):
     """All pairs of numbers below this one, ascending."""
-    return list(combinations(list(range(many)), 2))
+    every = list(range(many))
+    return list(combinations(every, 2))

@@ -1,6 +1,9 @@
 """One stage of a survey: what is told of goods from the records of their parts."""
 
-from fallsunder.benches import Pack, parted_answers, starts_by
+from fallsunder.benches import Pack, parted_answers, repeated, starts_by
+
+# how many things are asked at once
+MOST_AT_ONCE = 16000
 
 
 class Taking:
@@ -89,7 +92,7 @@ class Stage:
             taking.sides[0][0] = [(0, bench.each_mask, ())]
 
     def jobs(self, size):
-        """The new ways to make things of this size: rows of `(cases, number of parts, pack, side)`."""
+        """The new ways to make things of this size: rows of `(cases, number of parts, pack, sides)`."""
         out = []
         for taking in self.takings:
             for others, table in enumerate(taking.sides):
@@ -97,20 +100,25 @@ class Stage:
                 for total, sides in table.items():
                     pack = taking.packs.get(size - 1 - total)
                     if pack is not None and cases:
-                        out.extend([(cases, others + 1, pack, side) for side in sides])
+                        few = 1 + MOST_AT_ONCE // (len(cases) * len(pack.ids))
+                        rows = [sides[at:at + few] for at in range(0, len(sides), few)]
+                        out.extend([(cases, others + 1, pack, row) for row in rows])
         return out
 
     def done(self, job):
         """What a job gives, a row `(answers, cases, wide, parts)`; None stands for making the mixes."""
         if job is None:
             return (self.bench.mixes(), [("mix", "")], len(self.bench.mixtures), ())
-        cases, many, pack, side = job
-        return (self.bench.things(cases, many, pack, side), cases, len(pack.ids), (pack.ids, side[2]))
+        cases, many, pack, sides = job
+        answers = self.bench.things_beside(cases, many, pack, sides)
+        return (answers, cases, len(pack.ids), (pack.ids, [side[2] for side in sides]))
 
     def new_rows(self, row, tags, asked, met):
         """What of some answers has not been met: rows of `(tag, bits, results, making)`."""
         answers, cases, wide, parts = row
-        starts = [start for start in starts_by([tags[case[0]] for case in cases], wide) if start[1] >= 0]
+        blocks = repeated(len(parts[1]) if parts else 1, len(cases) * wide)
+        starts = starts_by([tags[case[0]] for case in cases], wide)
+        starts = [(goods * blocks, tag) for goods, tag in starts if tag >= 0]
         many = len(asked[0])
         out = []
         for goods, number, results in parted_answers(answers, starts, asked[0], asked[1]):
@@ -128,8 +136,9 @@ class Stage:
         """How the good of one bit is made: `(spans,)` of a mix, or `(form, state, main part, other parts)`."""
         if not parts:
             return (self.bench.mixtures[at][1],)
+        number, at = divmod(at, len(cases) * wide)
         form, state = cases[at // wide]
-        return (form, state, parts[0][at % wide], parts[1])
+        return (form, state, parts[0][at % wide], parts[1][number])
 
     def take_up(self, size):
         """Take up what the stage below has found at this size; the sizes at which more is due."""

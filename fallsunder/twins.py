@@ -48,7 +48,7 @@ class Twins:
             cost = heappop(self._queue)
             # what is made at a cost may plan more at the same cost
             while self._due[cost]:
-                jobs = self._due[cost]
+                jobs = list(self._due[cost])
                 self._due[cost] = []
                 found = self._do(cost, jobs)
                 if found is not None:
