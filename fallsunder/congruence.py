@@ -2,6 +2,7 @@
 
 from fallsunder.benches import parted_answers, starts_by
 from fallsunder.desks import split_by
+from fallsunder.kits import look_of_record
 
 
 class Job:
@@ -57,17 +58,20 @@ class Congruence:
 
     def _all_signs(self):
         """For each kind its class, and how it is told apart in each room that takes it."""
-        kit = self._kit
-        signs = [[name] for name in self._classes]
-        for room, jobs in zip(kit.rooms, self._jobs):
+        told = []
+        for room, jobs in zip(self._kit.rooms, self._jobs):
             columns = [self._columns_of(job) for job in jobs]
-            mains = self._parted_mains(room, jobs, columns)
-            looks = self._parted_looks(room, jobs, columns)
-            for number, kind in enumerate(kit.kinds):
-                if kind.top in room.taking.takes:
-                    look = (kind.record[0] & kit.bench.some_mask, kind.record[0] & kit.bench.each_mask)
-                    signs[number].extend([mains[kind.record], looks[look]])
-        return [tuple(sign) for sign in signs]
+            told.append((self._parted_mains(room, jobs, columns), self._parted_looks(room, jobs, columns)))
+        return [(name, *self._sign_of(kind, told)) for name, kind in zip(self._classes, self._kit.kinds)]
+
+    def _sign_of(self, kind, told):
+        """How a kind is told apart in each room that takes it."""
+        sign = []
+        look = look_of_record(self._kit.bench, kind.record)
+        for room, (mains, looks) in zip(self._kit.rooms, told):
+            if kind.top in room.taking.takes:
+                sign.extend([mains[kind.record], looks[look]])
+        return sign
 
     def _columns_of(self, job):
         """For each class the things of a job that are in it, ascending by the classes."""

@@ -24,7 +24,7 @@ class Reading:
         self.sent = tuple([(titles[leaf], number, titles[target]) for leaf, number, target in sent])
 
     def __bool__(self):
-        return self.result not in RESULTS
+        return bool(self.result not in RESULTS)
 
     def __eq__(self, other):
         if not isinstance(other, Reading) or self.result != other.result or self.fits != other.fits:
