@@ -112,6 +112,16 @@ class Bench:
         return Answers(full, values, groups)
 
 
+def look_of_record(bench, record):
+    """What is asked of a part beside the main one: what some of the parts are, and what each of them is."""
+    return (record[0] & bench.some_mask, record[0] & bench.each_mask)
+
+
+def lowest(goods):
+    """The number of the first of some goods, told by bits."""
+    return (goods & -goods).bit_length() - 1
+
+
 def repeated(many, wide):
     """The first bit of each of so many blocks that are so wide."""
     return sum([1 << k * wide for k in range(many)])

@@ -1,6 +1,6 @@
 """Looks for what leads out of a table of kinds."""
 
-from fallsunder.benches import Pack, parted_answers, starts_by
+from fallsunder.benches import Pack, look_of_record, lowest, parted_answers, starts_by
 from fallsunder.stages import takings_of, wider_sides
 
 
@@ -23,7 +23,7 @@ def first_stranger(answers, cases, wide, cells, watched, known):
     roots = [case[0] for case in cases]
     starts = starts_by([roots.index(root) for root in roots], wide)
     for goods, _, _ in parted_answers(answers, starts, cells, watched):
-        at = (goods & -goods).bit_length() - 1
+        at = lowest(goods)
         kind = kind_at(answers, at, roots[at // wide], cells, watched)
         if kind not in known:
             return (at, kind)
@@ -59,7 +59,7 @@ def all_sides(bench, taking, inside, records):
     """For each number of other parts, the sides that parts of these records make."""
     looks = {}
     for k in inside:
-        looks.setdefault((records[k][0] & bench.some_mask, records[k][0] & bench.each_mask), k)
+        looks.setdefault(look_of_record(bench, records[k]), k)
     others = [(*look, k) for look, k in looks.items()]
     out = [[(0, bench.each_mask, ())]]
     for many in range(1, taking.reach + 1):

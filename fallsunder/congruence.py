@@ -1,8 +1,7 @@
 """Sorts the kinds of goods by a book into classes, whose goods the book does not tell apart in any thing."""
 
-from fallsunder.benches import parted_answers, starts_by
+from fallsunder.benches import look_of_record, parted_answers, starts_by
 from fallsunder.desks import split_by
-from fallsunder.kits import look_of_record
 
 
 class Job:

@@ -6,7 +6,7 @@ filling is kept.
 
 from math import gcd
 from fallsunder.answering import answers_of
-from fallsunder.benches import Pack, parted_answers
+from fallsunder.benches import Pack, look_of_record, lowest, parted_answers
 from fallsunder.desks import Desk
 from fallsunder.excerpts import asked_in_turn, bench_for
 from fallsunder.goods import sound_good
@@ -170,9 +170,8 @@ class MainPack:
         case = 0
         while goods:
             block = goods & (1 << wide) - 1
-            at = (block & -block).bit_length() - 1
-            if block and at < least[1]:
-                least = (case, at)
+            if block and lowest(block) < least[1]:
+                least = (case, lowest(block))
             goods = goods >> wide
             case += 1
         return least
@@ -201,7 +200,7 @@ def wider_fillings(bench, sides, needs):
     """The sides with one more part."""
     looks = {}
     for need, filling in needs.items():
-        look = (need[0] & bench.some_mask, need[0] & bench.each_mask)
+        look = look_of_record(bench, need)
         if look not in looks or looks[look].nodes > filling.nodes:
             looks[look] = filling
     out = {}

@@ -1,6 +1,6 @@
 """All that a book asks of goods, however deep they lie in others: their kinds, each with a least good."""
 
-from fallsunder.benches import Pack
+from fallsunder.benches import Pack, look_of_record
 from fallsunder.desks import Desk
 from fallsunder.excerpts import all_asked, asked_in_turn, bench_for
 from fallsunder.growing import Grower
@@ -74,11 +74,6 @@ class Kit:
     def cases(self, room, many):
         """The forms and states of things of so many parts in a room."""
         return room.taking.cases(many, self.states)
-
-
-def look_of_record(bench, record):
-    """What is asked of a part beside the main one: what some of the parts are, and what each of them is."""
-    return (record[0] & bench.some_mask, record[0] & bench.each_mask)
 
 
 def kinds_of(survey, asked, bench):

@@ -1,6 +1,6 @@
 """One stage of a survey: what is told of goods from the records of their parts."""
 
-from fallsunder.benches import Pack, parted_answers, repeated, starts_by
+from fallsunder.benches import Pack, look_of_record, lowest, parted_answers, repeated, starts_by
 
 # how many things are asked at once
 MOST_AT_ONCE = 16000
@@ -37,7 +37,7 @@ class Taking:
             if (bits, results) not in self.met_mains:
                 self.met_mains[(bits, results)] = True
                 mains.append((number, bits, results))
-            look = (bits & bench.some_mask, bits & bench.each_mask)
+            look = look_of_record(bench, (bits, results))
             if self.reach > 0 and look not in self.met_others:
                 self.met_others[look] = True
                 others.append((*look, number))
@@ -124,7 +124,7 @@ class Stage:
         for goods, number, results in parted_answers(answers, starts, asked[0], asked[1]):
             if (number, results) not in met:
                 met[(number, results)] = True
-                making = self._making_at((goods & -goods).bit_length() - 1, cases, wide, parts)
+                making = self._making_at(lowest(goods), cases, wide, parts)
                 out.append((number >> many, number & (1 << many) - 1, results, making))
         return out
 

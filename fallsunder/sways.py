@@ -5,7 +5,7 @@ itself. Since what stands at each open place is free, a result hangs on some ope
 place changes it.
 """
 
-from fallsunder.benches import Pack, paired_rows, parted_answers
+from fallsunder.benches import Pack, look_of_record, lowest, paired_rows, parted_answers
 from fallsunder.fillings import Filling, MainPack, mains_of, sides_beside, states_of
 from fallsunder.opencheck import node_at
 
@@ -143,7 +143,7 @@ class Sway:
         pack = MainPack(bench, parts[main])
         looks = {}
         for (first, second), fillings in holes.items():
-            pair = (look_of_need(bench, first), look_of_need(bench, second))
+            pair = (look_of_record(bench, first), look_of_record(bench, second))
             if pair[0] != pair[1]:
                 looks.setdefault(pair, fillings)
         sides = sides_beside(bench, parts, (hole, main)) if pack.needs else {}
@@ -171,7 +171,7 @@ class Turn:
         self._pack = MainPack(bench, needs)
         looks = {}
         for at, need in enumerate(self._pack.needs):
-            look = look_of_need(bench, need)
+            look = look_of_record(bench, need)
             looks[look] = looks.get(look, 0) | 1 << at
         self.looks = looks
         self._known = {}
@@ -196,11 +196,6 @@ def is_enough(out, depth):
     return depth == 0 and out != {}
 
 
-def lowest(goods):
-    """The number of the first of some goods."""
-    return (goods & -goods).bit_length() - 1
-
-
 def placed(others, given):
     """Some Fillings in their order, with those that are given at their numbers."""
     out = []
@@ -208,11 +203,6 @@ def placed(others, given):
     for k in range(len(others) + len(given)):
         out.append(given[k] if k in given else left.pop(0))
     return tuple(out)
-
-
-def look_of_need(bench, need):
-    """What is asked of a part beside the main one."""
-    return (need[0] & bench.some_mask, need[0] & bench.each_mask)
 
 
 def joined_sides(side, look):

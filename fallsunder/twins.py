@@ -5,8 +5,7 @@ part, until a pair of things has two results.
 """
 
 from heapq import heappop, heappush
-from fallsunder.benches import Pack, paired_rows, starts_by
-from fallsunder.kits import look_of_record
+from fallsunder.benches import Pack, look_of_record, lowest, paired_rows, starts_by
 
 
 class Layer:
@@ -138,7 +137,7 @@ class Twins:
 
 def layer_at(goods, cases, pack, numbers, holes):
     """The Layer of the first of some goods."""
-    at = (goods & -goods).bit_length() - 1
+    at = lowest(goods)
     case = cases[at // len(pack.ids)]
     number = pack.ids[at % len(pack.ids)]
     if holes:

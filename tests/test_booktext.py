@@ -111,7 +111,9 @@ class ReadTest(unittest.TestCase):
                 ("heading 1 is any\nnote 1 sends 1 if any\nrules", ("BadNote", 0)),
                 ("heading 1 is any\nrules first main first", ("Twice", "first")),
                 ("heading 1 is any\nrules first main first last special", ("BadBook", "rules")),
-                ("\n".join(f"heading {k} is any" for k in range(13)) + "\nrules", ("BadBook", "headings"))]
+                ("\n".join(f"heading {k} is any" for k in range(13)) + "\nrules", ("BadBook", "headings")),
+                ("heading 1 is any\n" + "note 1 takes any\n" * 17 + "rules", ("BadBook", "notes")),
+                ("heading 1 is any\nheading 1a under 1 is any\nnote 1 sends 1a if any\nrules", ("BadNote", 0))]
         for text, error in rows:
             self.assertEqual(caught(lambda: read_book(STOCK, text)), error, text)
         self.bad("heading 1 is any\nheading 1 is any\nrules other", 2, 1)

@@ -14,7 +14,7 @@ from tests.samples import (all_goods, book_from, caught, fixed_random, goods_of,
                            wide_stock)
 
 STOCK = small_stock()
-HAIR, WOOL = "mix far 1 hair", "mix far 2 wool"
+HAIR, WOOL, ANY = "mix far 1 hair", "mix far 2 wool", ("any",)
 
 
 def good(text):
@@ -130,6 +130,25 @@ rules special main first"""
         text = f"coat whole far ({WOOL})"
         self.assertEqual(Reading(book, good(text)).result, Reading(other, good(text)).result)
         self.assertNotEqual(Reading(book, good(text)), Reading(other, good(text)))
+
+    def test_equal_in_all_six(self):
+        text = "heading 1 is mix\nheading 2 is parts 1\nheading 3 is state worn\nheading 4 is over 1/2 hair\nrules first"
+        book = read_book(STOCK, text)
+        rows = [("mix far 1 wool", "mix far 1 hair", "fits"),
+                ("button worn far (mix far 1 wool)", "coat worn far (button whole far (mix far 1 wool))", "main_result"),
+                ("button worn far (mix far 1 hair)", "button worn far (mix far 1 wool)", "fits")]
+        for one, other, name in rows:
+            first, second = Reading(book, good(one)), Reading(book, good(other))
+            self.assertNotEqual(getattr(first, name), getattr(second, name))
+            self.assertEqual((first.result, first.found, first.sent), (second.result, second.found, second.sent))
+            self.assertFalse(first == second)
+        sends = [book.changed(notes=notes, rules=rules) for notes, rules in
+                 [([], ["first"]), ([("1", "sends", ANY, "2"), ("2", "sends", ("mix",), "1")], ["first"]), ([], ["main", "first"]),
+                  ([("1", "sends", ("none",), "2"), ("1", "sends", ("mix",), "2")], ["first"]),
+                  ([("1", "sends", ("mix",), "2")], ["first"]), ([("1", "sends", ("mix",), "3")], ["first"])]]
+        told = [Reading(one, good("mix far 1 hair")) for one in sends]
+        for first in told:
+            self.assertEqual([first == second for second in told].count(True), 1)
 
     def test_other_stock(self):
         book = read_book(STOCK, self.BOOK)
