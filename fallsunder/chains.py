@@ -22,8 +22,6 @@ class Chain:
         self._tables = []
 
     def __call__(self, good):
-        if good.stock != self.books[0].stock:
-            raise OtherStock(1)
         return tuple([book(good) for book in self.books])
 
     def __add__(self, other):

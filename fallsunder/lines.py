@@ -6,7 +6,7 @@ from fallsunder.errors import NoHeading
 def narrower(book, first, second):
     """Is the first leaf narrower than the second one?"""
     for name in (first, second):
-        if not isinstance(name, str) or name not in book.leaves:
+        if name not in book.leaves:
             raise NoHeading(name)
     titles = list(book)
     return book.ladder.is_narrower(titles.index(first), titles.index(second))

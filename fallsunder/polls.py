@@ -23,10 +23,6 @@ class Poll:
         """A least good with this row."""
         return self._grower.good_of(self.found[row][1])
 
-    def size_of(self, row):
-        """The nodes of a least good with this row."""
-        return self.found[row][0]
-
     def least_of(self, rows):
         """The one of some rows that are there whose least good has the fewest nodes, None if there are none."""
         least = None

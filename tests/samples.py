@@ -249,6 +249,12 @@ def book_from(stock, rng, *args, **more):
     return Book(stock, headings, notes=notes, rules=rules)
 
 
+def is_sound(good):
+    """Is a Good that the program made one by the rules of goods, its grams within the limit?"""
+    again = Good(good.stock, good.plain)
+    return again == good and good.weight < 10 ** 300
+
+
 def caught(call):
     """The error of the program that a call raises, as (class name, what it was made with); None if there is none."""
     try:

@@ -75,6 +75,7 @@ class AskingTest(unittest.TestCase):
                 ([falls, ghost], [9], falls, ("BareFalls", "1")), ([ghost, falls], [9], falls, ("Unknown", "ghost")),
                 (self.QUESTIONS[:2], [9], ghost, ("Unknown", "ghost")), (self.QUESTIONS[:2], [9], falls, ("BareFalls", "1")),
                 (self.QUESTIONS[:2], [0, 2, 9], none, ("BadRow", 2)), (self.QUESTIONS[:2], [True], none, ("BadRow", True)),
+                (self.QUESTIONS + terms("any"), [], None, ("BadNumber", 7)),
                 (self.QUESTIONS[:2], [-1], None, ("BadRow", -1)), (self.QUESTIONS[:2], ["0"], None, ("BadRow", "0"))]
         for questions, choice, known, error in rows:
             found = caught(lambda: doubtful(BOOK, questions, choice, known=known))
@@ -82,6 +83,8 @@ class AskingTest(unittest.TestCase):
             if error[0] != "BadRow":
                 self.assertEqual(caught(lambda: fewest_questions(BOOK, questions, known=known)), error)
         self.assertEqual(caught(lambda: doubtful(BOOK, self.QUESTIONS, [0, 1], known=none))[0], "NoGood")
+        self.assertEqual(fewest_questions(BOOK, terms("mix"), known=read_term("mix or form coat")), (0,))
+        self.assertIsNone(doubtful(BOOK, terms("mix"), [0], known=read_term("mix or form coat")))
 
     def test_parts_of_all_depths(self):
         book = read_book(wide_stock(), "heading 1 is some some mix\nheading 2 is any\nrules first")

@@ -9,7 +9,7 @@ from fallsunder.booktext import read_book
 from fallsunder.exchange import Frame, exchangeable, full_set, is_frame
 from fallsunder.goods import Good
 from fallsunder.goodtext import read_good
-from tests.samples import book_from, caught, fixed_random, goods_of, small_stock, twin_stock, wide_stock
+from tests.samples import book_from, caught, fixed_random, goods_of, is_sound, small_stock, twin_stock, wide_stock
 
 STOCK = small_stock()
 WIDE = wide_stock()
@@ -140,6 +140,14 @@ class ExchangeableTest(unittest.TestCase):
         frame = exchangeable(read_book(WIDE, text), good("mix far 1 hair", WIDE), good("mix far 1 wool", WIDE))
         self.assertEqual((frame.around(), len(frame.place)), (5, 3))
 
+    def test_least_among_several_ways(self):
+        one, other = good("mix far 1 hair", WIDE), good("mix far 1 wool", WIDE)
+        text = "heading 1 is any\nheading 2 is parts 3 and some form button and main over 1/2 hair\nrules last"
+        self.assertEqual(exchangeable(read_book(WIDE, text), one, other).around(), 4)
+        text = "heading 1 is any\nheading 2 is some over 1/2 hair and main (form coat and some form button) or " \
+               "main over 1/2 hair and some form button and parts 2\nrules last"
+        self.assertEqual(exchangeable(read_book(WIDE, text), one, other).around(), 3)
+
     def test_errors(self):
         book = read_book(STOCK, "heading 1 is any\nrules")
         one, strange = good("mix far 1 hair"), good("mix far 1 hair", WIDE)
@@ -169,6 +177,7 @@ class ExchangeableTest(unittest.TestCase):
                         self.assertIsNone(slow)
                     else:
                         self.assertTrue(is_frame(frame, first, second))
+                        self.assertTrue(is_sound(frame.first) and is_sound(frame.second))
                         self.assertNotEqual(book(frame.first), book(frame.second))
                         self.assertTrue(slow is None or frame.around() <= slow)
                         self.assertTrue(frame.around() > 0)
@@ -188,6 +197,14 @@ class FullSetTest(unittest.TestCase):
         found = sorted((one.root, book(one)) for one in full_set(book))
         self.assertEqual(found, [("button", "1"), ("button", "2"), ("coat", "1"), ("coat", "2"), ("mix", "2"), ("mix", "2")])
 
+    def test_classes_that_differ_only_beside_the_main_part(self):
+        book = read_book(STOCK, "heading 1 is any\nheading 2 is some over 1/2 hair and main form button\nrules last")
+        full = full_set(book)
+        self.assertEqual(sorted(one.root for one in full), ["button", "button", "coat", "coat", "mix", "mix"])
+        self.assertEqual(sorted(one.grams("hair") > one.grams("wool") for one in full if one.root == "mix"), [False, True])
+        book = read_book(WIDE, "heading 1 is any\nheading 2 is each (mix or form coat and parts 2) and main parts 2 and parts 3\nrules last")
+        self.assertEqual(sorted(one.root for one in full_set(book)), ["button", "coat", "coat", "coat", "mix"])
+
     def test_random_books(self):
         rng = fixed_random(62)
         for stock in (STOCK, WIDE, twin_stock()):
@@ -196,6 +213,7 @@ class FullSetTest(unittest.TestCase):
                 book = book_from(stock, rng, 4, 4)
                 full = full_set(book)
                 self.assertIsInstance(full, tuple)
+                self.assertTrue(all(is_sound(one) for one in full))
                 some = rng.sample(full, min(8, len(full)))
                 for first, second in itertools.combinations(some, 2):
                     if first.root == second.root:

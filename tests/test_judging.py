@@ -63,6 +63,9 @@ class JudgeTest(unittest.TestCase):
     def test_the_leaves_of_two_are_those_left(self):
         text = "heading 1 is any\nheading 2 is parts 1\nheading 3 is mix\nheading 4 is mix\nheading 5 is parts 1\nrules special"
         self.assertEqual(judge(book_of(text)).leaves_told, ("3", "4"))
+        self.assertEqual(judge(book_of(text.replace("rules special", "rules main special"))).leaves_told, ("3", "4"))
+        text = "heading 1 is mix\nheading 2 is mix\nheading 3 is any\nheading 4 is main mix\nheading 5 is main mix\nrules special main"
+        self.assertEqual(judge(book_of(text)).leaves_told, ("1", "2"))
 
     def test_unused(self):
         text = "heading 1 is any\nheading 1a under 1 is parts 3\nheading 2 is mix\nheading 3 is some mix\nheading 1b under 1 is any\n" \
@@ -120,6 +123,28 @@ class StruckTest(unittest.TestCase):
                 told.append(fewest_struck(book))
                 self.assertEqual(told[-1], self.slow_fewest(book))
         self.assertTrue(any(told) and None in told and () in told)
+
+    def test_all_choices_of_books_that_are_sound_without_notes(self):
+        rng = fixed_random(55)
+        told = set()
+        for stock in (STOCK, twin_stock()):
+            stuff = stock.stuffs[0]
+            headings = [("1", "", ("over", stuff, 1, 2)), ("2", "", ("some", ("over", stuff, 1, 3))), ("3", "", ("any",))]
+            for _ in range(60):
+                notes = []
+                for _ in range(rng.randint(2, 5)):
+                    share = (rng.choice(["over", "from"]), rng.choice(stock.stuffs), *rng.choice([(1, 2), (1, 3), (0, 1), (1, 1)]))
+                    under = ("and", ("falls", rng.choice("123")), share)
+                    term = rng.choice([share, ("not", share), (rng.choice(["some", "each", "main"]), rng.choice([under, share])),
+                                       ("not", (rng.choice(["some", "each", "main"]), under)), random_term(stock, rng, 2, ("1", "2"))])
+                    word = rng.choice(["shuts", "sends", "sends"])
+                    pair = rng.sample("123", 2)
+                    notes.append((pair[0] if word == "sends" else "3", word, term, pair[1] if word == "sends" else ""))
+                book = Book(stock, headings, notes=notes, rules=rng.choice([["first"], ["main", "first"]]))
+                fewest = fewest_struck(book)
+                self.assertEqual(fewest, self.slow_fewest(book))
+                told.add(fewest)
+        self.assertTrue({(), (0,), (1,), (0, 1)} <= told, told)
 
     def slow_fewest(self, book):
         many = len(book.notes)

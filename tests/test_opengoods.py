@@ -11,8 +11,8 @@ from fallsunder.goods import Good
 from fallsunder.goodtext import read_good
 from fallsunder.opengoods import OpenGood, fallings
 from fallsunder.terms import Term
-from tests.samples import (book_from, caught, fixed_random, goods_of, holds, plain_main, random_term, slow_of, small_stock,
-                           twin_stock, wide_stock)
+from tests.samples import (book_from, caught, fixed_random, goods_of, holds, is_sound, plain_main, random_term, slow_of,
+                           small_stock, twin_stock, wide_stock)
 
 STOCK, WIDE = small_stock(), wide_stock()
 ANY, NONE, MIX = ("any",), ("none",), ("mix",)
@@ -195,6 +195,24 @@ class FallingsTest(unittest.TestCase):
         found = fallings(book, OpenGood(WIDE, ("button", "worn", "far", 0, (OPEN,))))
         self.assertEqual([(result, one.size) for result, one in found], [("2", 2)])
 
+    def test_least_among_several_ways(self):
+        three = ("coat", "worn", "far", 0, (OPEN, OPEN, OPEN))
+        two = ("coat", "worn", "far", "open", (OPEN, OPEN))
+        rows = [("main (form coat and some form coat) or some form button and main mix", two, 4), ("main main mix", two, 4),
+                ("some form button and main mix", three, 5), ("some form button and some form coat and main mix", three, 6),
+                ("main some form coat or each not mix", two, 5)]
+        for text, plain, size in rows:
+            book = read_book(WIDE, f"heading 1 is {text}\nheading 2 is any\nrules first")
+            self.assertEqual(dict(fallings(book, OpenGood(WIDE, plain)))["1"].size, size, text)
+
+    def test_roots_that_the_thing_directly_above_takes(self):
+        book = read_book(WIDE, "heading 1 is some some not mix\nheading 2 is any\nrules first")
+        one = OpenGood(WIDE, ("coat", "worn", "far", 0, (("button", "worn", "far", 0, (OPEN,)),)))
+        self.assertEqual([row[0] for row in fallings(book, one)], ["2"])
+        self.assertEqual(fewest_facts(book, one), ())
+        one = OpenGood(WIDE, ("coat", "worn", "far", 0, (("coat", "worn", "far", 0, (OPEN,)),)))
+        self.assertEqual([(row[0], row[1].size) for row in fallings(book, one)], [("1", 4), ("2", 3)])
+
     def test_errors(self):
         one = OpenGood(WIDE, OPEN)
         for call in (lambda: fallings(self.BOOK, one), lambda: doubt(self.BOOK, one, [9]), lambda: settles(self.BOOK, one, [9]),
@@ -219,7 +237,7 @@ class FallingsTest(unittest.TestCase):
                 for result, size in least.items():
                     self.assertLessEqual(told[result].size, size)
                 for result, part in found:
-                    self.assertTrue(fills(plain, part.plain))
+                    self.assertTrue(fills(plain, part.plain) and is_sound(part))
                     self.assertEqual(slow.result(part.plain), result)
                 for _ in range(10):
                     made = random_filling(stock, rng, plain, goods, ["mix", *[row[0] for row in stock.forms]])
@@ -287,10 +305,47 @@ class FactsTest(unittest.TestCase):
                 self.assertEqual(found is None, set(fewest) <= set(choice))
                 self.assertEqual(settles(book, one, choice), found is None)
                 if found is not None:
-                    self.assertTrue(all(one(part) for part in found))
+                    self.assertTrue(all(one(part) and is_sound(part) for part in found))
                     self.assertNotEqual(book(found[0]), book(found[1]))
                     for number in choice:
                         self.assertEqual(*[what_stands(one.blanks[number], part) for part in found])
+
+    def facts_of(self, text, plain):
+        return fewest_facts(read_book(WIDE, f"heading 1 is {text}\nheading 2 is any\nrules first"), OpenGood(WIDE, plain))
+
+    def test_beside_the_main_part(self):
+        mix = ("open", MIX)
+        coat = ("coat", "worn", "far", 0, (HAIR, mix))
+        rows = [("some over 1/2 wool", coat, (0,)), ("each over 1/2 hair", coat, (0,)), ("main over 1/2 hair", coat, ()),
+                ("some over 1/2 wool", (*coat[:3], 1, coat[4]), (0,)), ("main over 1/2 hair", (*coat[:3], 1, coat[4]), (0,)),
+                ("some some over 1/2 wool", ("coat", "worn", "far", 0, (HAIR, coat)), (0,)),
+                ("some (parts 1 and each over 1/2 hair)", ("coat", "worn", "far", 0, (HAIR, coat)), (0,)),
+                ("main some over 1/2 wool", ("coat", "worn", "far", 0, (HAIR, coat)), ()),
+                ("main some over 1/2 wool", ("coat", "worn", "far", 1, (HAIR, coat)), (0,)),
+                ("each each (over 1/2 hair or form coat)", ("coat", "worn", "far", 0, (HAIR, coat, coat)), (0, 1)),
+                ("each each over 1/2 hair", ("coat", "worn", "far", 2, (HAIR, coat, coat)), (0, 1)),
+                ("each over 1/2 hair", ("coat", "worn", "far", "open", (HAIR, mix)), (1,)),
+                ("each over 1/2 hair and main from 1/1 hair", ("coat", "worn", "far", "open", (HAIR, mix)), (0, 1)),
+                ("each over 1/2 hair and main from 1/1 hair", ("coat", "worn", "far", "open", (HAIR, mix, mix)), (0, 1, 2)),
+                ("some some state worn", ("coat", "worn", "far", 0, (HAIR, ("coat", "worn", "far", 0, (HAIR, ("button", "open", "far", 0, (HAIR,))))))
+                 , (0,)),
+                ("some main over 1/2 wool", ("coat", "worn", "far", 0, (HAIR, ("coat", "worn", "far", "open", (HAIR, mix)))), (0, 1))]
+        for text, plain, numbers in rows:
+            self.assertEqual(self.facts_of(text, plain), numbers, (text, plain))
+
+    def test_what_is_seen_only_beside_some_parts(self):
+        inner = ("coat", "worn", "far", 0, (("open", MIX), OPEN))
+        plain = ("coat", "whole", "far", 0, (inner,))
+        text = "some (some form button and some (mix and over 1/2 hair)) or some some (mix and over 1/3 wool) and state worn"
+        self.assertEqual(self.facts_of(text, plain), (0, 1))
+        self.assertEqual(self.facts_of(text.replace("some form button", "state whole"), plain), ())
+        plain = ("coat", "whole", "far", 0, (("coat", "open", "far", 0, (("open", MIX), OPEN)),))
+        self.assertEqual(self.facts_of(text.replace("some form button", "state whole"), plain), (0, 1, 2))
+        plain = ("coat", "whole", "far", 0, (("coat", "worn", "far", "open", (("open", MIX), HAIR)),))
+        text = "some (over 1/2 hair and main from 1/2 wool) or some main mix and state worn"
+        self.assertEqual(self.facts_of(text, plain), ())
+        text = "some (from 1/2 wool and main over 1/2 wool) or some over 1/3 hair and state worn"
+        self.assertEqual(self.facts_of(text, plain), (0, 1))
 
     def test_four_open_parts(self):
         stock = WIDE
