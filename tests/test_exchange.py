@@ -144,6 +144,8 @@ class ExchangeableTest(unittest.TestCase):
         one, other = good("mix far 1 hair", WIDE), good("mix far 1 wool", WIDE)
         text = "heading 1 is any\nheading 2 is parts 3 and some form button and main over 1/2 hair\nrules last"
         self.assertEqual(exchangeable(read_book(WIDE, text), one, other).around(), 4)
+        text = "heading 1 is any\nheading 2 is parts 3 and some (form button and parts 2) and main (mix and over 1/2 hair)\nrules last"
+        self.assertEqual(exchangeable(read_book(WIDE, text), one, other).around(), 5)
         text = "heading 1 is any\nheading 2 is some over 1/2 hair and main (form coat and some form button) or " \
                "main over 1/2 hair and some form button and parts 2\nrules last"
         self.assertEqual(exchangeable(read_book(WIDE, text), one, other).around(), 3)
@@ -202,6 +204,11 @@ class FullSetTest(unittest.TestCase):
         full = full_set(book)
         self.assertEqual(sorted(one.root for one in full), ["button", "button", "coat", "coat", "mix", "mix"])
         self.assertEqual(sorted(one.grams("hair") > one.grams("wool") for one in full if one.root == "mix"), [False, True])
+        for text in ("some parts 2 and main mix", "some parts 2 and main mix and parts 3"):
+            book = read_book(WIDE, f"heading 1 is any\nheading 2 is {text}\nrules last")
+            self.assertEqual(sorted(one.root for one in full_set(book)), ["button", "button", "coat", "coat", "coat", "mix"])
+        book = read_book(WIDE, "heading 1 is any\nheading 2 is each not parts 2 and main mix and parts 2\nrules last")
+        self.assertEqual(sorted(one.root for one in full_set(book)), ["button", "button", "coat", "coat", "coat", "mix"])
         book = read_book(WIDE, "heading 1 is any\nheading 2 is each (mix or form coat and parts 2) and main parts 2 and parts 3\nrules last")
         self.assertEqual(sorted(one.root for one in full_set(book)), ["button", "coat", "coat", "coat", "mix"])
 

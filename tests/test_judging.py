@@ -154,6 +154,20 @@ class StruckTest(unittest.TestCase):
                     return numbers
         return None
 
+    def test_notes_that_never_matter_are_left(self):
+        stock = wide_stock()
+        notes = ["1 shuts over 1/2 hair and over 1/2 wool", "1 shuts from 1/2 hair and from 1/2 wool and over 0/1 horn",
+                 "1 takes some mix or each not mix", "1 shuts each mix and some not mix", "1 takes main falls 1 or mix or main not falls 1",
+                 "1 shuts each mix and each not mix and parts 1", "1 takes mix or some mix or some not mix", "1 shuts mix and main any", "1 shuts mix and some any", "2 takes some falls 2 and each not falls 2",
+                 "1 takes some falls 1 or each not falls 1", "1 shuts some falls 1 and each not falls 1"]
+        for fault in ("over 1/2 horn", "mix", "parts 1", "parts 2", "main parts 1", "over 1/2 hair and parts 1", "some mix"):
+            for note in notes:
+                # a note that takes all goods is the only one that does
+                word = "none" if note.startswith("1 takes") else "any"
+                text = f"heading 1 is {word}\nheading 2 is none\nnote {note}\n"
+                self.assertEqual(fewest_struck(read_book(stock, text + f"note 1 shuts {fault}\nrules")), (1,), (note, fault))
+                self.assertEqual(fewest_struck(read_book(stock, text + f"note 2 takes {fault}\nrules")), (1,), (note, fault))
+
     def test_sixteen_notes(self):
         notes = [("1", "sends", ("parts", 1), "2")] + [("2", "sends", ("parts", 1), "1")] * 13 + [("1", "shuts", ("mix",), "")] * 2
         book = Book(STOCK, [("1", "", ("any",)), ("2", "", ("none",))], notes=notes)

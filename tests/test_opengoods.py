@@ -200,7 +200,10 @@ class FallingsTest(unittest.TestCase):
         two = ("coat", "worn", "far", "open", (OPEN, OPEN))
         rows = [("main (form coat and some form coat) or some form button and main mix", two, 4), ("main main mix", two, 4),
                 ("some form button and main mix", three, 5), ("some form button and some form coat and main mix", three, 6),
-                ("main some form coat or each not mix", two, 5)]
+                ("main some form coat or each not mix", two, 5),
+                ("main mix and (some form coat or some form button or some (parts 2 and form button))", two, 4),
+                ("main mix and (some (parts 2 and form button) or some form coat)", two, 4),
+                ("main form button and some parts 2 or main parts 3 and some mix", two, 5)]
         for text, plain, size in rows:
             book = read_book(WIDE, f"heading 1 is {text}\nheading 2 is any\nrules first")
             self.assertEqual(dict(fallings(book, OpenGood(WIDE, plain)))["1"].size, size, text)
