@@ -19,9 +19,7 @@ class Congruence:
 
     def __init__(self, kit):
         self._kit = kit
-        self._numbers = {}
-        for number, kind in enumerate(kit.kinds):
-            self._numbers[(kind.top, kind.record[0], kind.result)] = number
+        self._numbers = {(kind.top, kind.record[0], kind.result): number for number, kind in enumerate(kit.kinds)}
         self._jobs = [self._jobs_of(room) for room in kit.rooms]
         self._classes = numbered([(kind.top, kind.result) for kind in kit.kinds])
         many = 0
