@@ -14,8 +14,19 @@ class Pack:
 
     def __init__(self, bench, ids, records):
         self.ids = ids
-        self.columns = {cell: column_of(records, k) for k, cell in enumerate(bench.cells)}
+        self.columns = columns_of(bench, [record[0] for record in records])
         self.mains = {owner: result_columns(records, k) for k, owner in enumerate(bench.keepers)}
+        self.somes = self.columns
+        self.eachs = self.columns
+
+
+class Crowd(Pack):
+    """Things told by rows `(record of the main part, some, each)`: what some of all parts are, and each of them is."""
+
+    def __init__(self, bench, rows):
+        super().__init__(bench, list(range(len(rows))), [row[0] for row in rows])
+        self.somes = columns_of(bench, [row[1] for row in rows])
+        self.eachs = columns_of(bench, [row[2] for row in rows])
 
 
 class Answers:
@@ -42,6 +53,8 @@ class Bench:
         self.bit_of = {cell: 1 << k for k, cell in enumerate(self.cells)}
         self.some_mask = sum([self.bit_of[cell] for cell in self.somes])
         self.each_mask = sum([self.bit_of[cell] for cell in self.eachs])
+        heads = [*sheet.marked("main"), *sheet.shares]
+        self.head_mask = sum([bit for cell, bit in self.bit_of.items() if cell in heads])
         self.mixtures = mixture_cells(stock.stuffs, [sheet.cells[cell] for cell in sheet.shares])
         self._simple = {}
 
@@ -62,26 +75,19 @@ class Bench:
 
         A side begins with two rows of bits: what some of the other parts are, and what each of them is.
         """
-        return self.things_beside(cases, many, pack, [side])
-
-    def things_beside(self, cases, many, pack, sides):
-        """The same for each of some sides, the things of one side ahead of those of the next one."""
         wide = len(pack.ids)
-        unit = len(cases) * wide
-        block = (1 << unit) - 1
-        full = (1 << len(sides) * unit) - 1
-        spread = repeated(len(sides) * len(cases), wide)
-        blocks = repeated(len(sides), unit)
-        values = [worth * blocks for worth in self._simple_values(cases, many, wide)]
+        full = (1 << len(cases) * wide) - 1
+        spread = repeated(len(cases), wide)
+        values = list(self._simple_values(cases, many, wide))
         for number in self.sheet.shares:
             values[number] = pack.columns[number] * spread
         for number, word, inner in self.sheet.looks:
-            values[number] = pack.columns[inner] * spread
-            if word != "main":
-                at = 0 if word == "some" else 1
-                bit = self.bit_of[inner]
-                mask = sum([block << k * unit for k, side in enumerate(sides) if side[at] & bit])
-                values[number] = values[number] | mask if at == 0 else values[number] & mask
+            if word == "main":
+                values[number] = pack.columns[inner] * spread
+            elif word == "some":
+                values[number] = full if side[0] & self.bit_of[inner] else pack.somes[inner] * spread
+            else:
+                values[number] = pack.eachs[inner] * spread if side[1] & self.bit_of[inner] else 0
         mains = {owner: [(full, "")] for owner in self.desks}
         for owner in self.keepers:
             mains[owner] = [(bits * spread, name) for bits, name in pack.mains[owner]]
@@ -127,9 +133,12 @@ def repeated(many, wide):
     return sum([1 << k * wide for k in range(many)])
 
 
-def column_of(records, k):
-    """The bits of those records that have the bit number k."""
-    return sum([1 << at for at, record in enumerate(records) if record[0] >> k & 1])
+def columns_of(bench, rows):
+    """For each cell the bits of those of some rows of bits that have the bit of the cell."""
+    wide = len(bench.cells)
+    # the first row stands last, as the first bit of a number stands last in its text
+    text = "".join([f"{bits:b}".zfill(wide) for bits in rows[::-1]]) if wide > 0 else ""
+    return {cell: int("0" + text[wide - 1 - k::wide], 2) for k, cell in enumerate(bench.cells)}
 
 
 def result_columns(records, k):

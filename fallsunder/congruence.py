@@ -81,15 +81,8 @@ class Congruence:
     def _parted_mains(self, room, jobs, columns):
         """A number for each record of the possible main parts, the same where no job tells them apart."""
         groups = [((1 << len(room.mains)) - 1, 0)]
-        for job, row in zip(jobs, columns):
-            block = (1 << job.wide) - 1
-            # what stands in no other column stands in the last one
-            for _, goods in row[:-1]:
-                left = goods
-                while left:
-                    if left & block not in (0, block):
-                        groups = split_by(groups, left & block, 0)
-                    left = left >> job.wide
+        for mains in main_columns(jobs, columns):
+            groups = split_by(groups, mains, 0)
         out = {}
         for name, (mains, _) in enumerate(groups):
             for at, number in enumerate(room.mains):
@@ -110,6 +103,21 @@ class Congruence:
             signs.append(tuple(sign))
         numbers = numbered(signs)
         return {row[:2]: numbers[at] for at, row in enumerate(room.looks)}
+
+
+def main_columns(jobs, columns):
+    """The main parts whose things are in one class, for each class of each job, each such choice once."""
+    out = {}
+    for job, row in zip(jobs, columns):
+        block = (1 << job.wide) - 1
+        # what stands in no other column stands in the last one
+        for _, goods in row[:-1]:
+            left = goods
+            while left:
+                if left & block not in (0, block):
+                    out[left & block] = True
+                left = left >> job.wide
+    return list(out)
 
 
 def numbered(things):

@@ -1,7 +1,6 @@
 """Goods that a book does not tell apart, wherever they are parts of other goods."""
 
 from math import lcm
-from fallsunder.answering import answers_of
 from fallsunder.congruence import Congruence
 from fallsunder.errors import OtherRoot, OtherStock
 from fallsunder.goodcheck import is_place_of
@@ -40,25 +39,16 @@ def exchangeable(book, first, second):
     insides = (first * (weight // first.weight), second * (weight // second.weight))
     if book(first) != book(second):
         return Frame(*insides, ())
-    kit = Kit(book)
-    layers = Twins(kit).layers_around(first.root, kit_record(kit, first), kit_record(kit, second))
-    return None if layers is None else frame_around(kit, layers, insides)
+    twins = Twins(book)
+    layers = twins.layers_around(first, second)
+    return None if layers is None else frame_around(book.stock, twins, layers, insides)
 
 
-def kit_record(kit, good):
-    """The record of a good: what is asked of it as a part."""
-    bench = kit.bench
-    values, told = answers_of(bench.sheet, bench.desks, good)
-    bits = sum([bench.bit_of[cell] for cell in bench.cells if values[cell] == 1])
-    return (bits, tuple([told[owner] for owner in bench.keepers]))
-
-
-def frame_around(kit, layers, insides):
+def frame_around(stock, twins, layers, insides):
     """The Frame with these layers around two goods of the same weight."""
     place = ()
-    land = kit.stock.lands[0]
     for layer in layers:
-        others = [kit.good_of(number) for number in layer.others]
+        others = [twins.good_of(number) for number in layer.others]
         heaviest = max([0, *[good.weight for good in others]])
         if layer.lead < 0:
             # the two goods go on being multiples of what they were
@@ -66,12 +56,12 @@ def frame_around(kit, layers, insides):
             rows = [[good * by, *others] for good in insides]
             place = (0, *place)
         else:
-            main = kit.good_of(layer.lead)
+            main = twins.good_of(layer.lead)
             by = max(1, -(-max(heaviest, insides[0].weight) // main.weight))
             rows = [[main * by, good, *others] for good in insides]
             place = (1, *place)
-        plains = [(*layer.case, land, tuple([good.plain for good in row])) for row in rows]
-        insides = (sound_good(kit.stock, plains[0]), sound_good(kit.stock, plains[1]))
+        plains = [(*layer.case, stock.lands[0], tuple([good.plain for good in row])) for row in rows]
+        insides = (sound_good(stock, plains[0]), sound_good(stock, plains[1]))
     return Frame(*insides, place)
 
 

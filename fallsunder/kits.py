@@ -5,7 +5,7 @@ from fallsunder.desks import Desk
 from fallsunder.excerpts import all_asked, asked_in_turn, bench_for
 from fallsunder.growing import Grower
 from fallsunder.slimming import SlimSheet
-from fallsunder.stages import narrowed_row, reach_of, states_asked, takings_of
+from fallsunder.stages import narrowed_row, states_asked, takings_of
 from fallsunder.surveys import Survey
 
 
@@ -39,10 +39,6 @@ class Room:
         self.looks = [(*look, *rest) for look, rest in looks.items()]
         self.sides = sides_of(bench, self.looks, taking.reach)
         self.pack = Pack(bench, self.mains, list(records))
-        self.packs = {}
-        for size in sorted(set([kinds[number].nodes for number in self.mains])):
-            few = [number for number in self.mains if kinds[number].nodes == size]
-            self.packs[size] = Pack(bench, few, [kinds[number].record for number in few])
 
 
 class Kit:
@@ -59,17 +55,13 @@ class Kit:
         self.bench = bench_for(stock, sheet, desks, asked)
         self.states = states_asked(self.bench)
         self.kinds = kinds_of(survey, asked, self.bench)
-        self.takings = takings_of([row for row in stock.forms if row[0] in stock.usable()])
-        self.rooms = [Room(self.bench, taking, self.kinds) for taking in self.takings]
+        takings = takings_of([row for row in stock.forms if row[0] in stock.usable()])
+        self.rooms = [Room(self.bench, taking, self.kinds) for taking in takings]
         self._grower = Grower(survey)
 
     def good_of(self, number):
         """A least good of the kind with this number."""
         return self._grower.good_of(self.kinds[number].making)
-
-    def reach_of(self, root):
-        """A bit for each room whose forms take the root."""
-        return reach_of(root, self.takings)
 
     def cases(self, room, many):
         """The forms and states of things of so many parts in a room."""

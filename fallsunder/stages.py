@@ -1,16 +1,17 @@
 """One stage of a survey: what is told of goods from the records of their parts."""
 
-from fallsunder.benches import Pack, look_of_record, lowest, parted_answers, repeated, starts_by
+from fallsunder.benches import Crowd, look_of_record, lowest, parted_answers, starts_by
 
 # how many things are asked at once
 MOST_AT_ONCE = 16000
 
 
 class Taking:
-    """The forms that take the same roots, with the packs and sides from which their things are made.
+    """The forms that take the same roots, with the parts and sides from which their things are made.
 
-    Packs are possible main parts by their sizes. Others are the looks of parts that are not the main one. Sides are
-    rows of such parts, by their number and their size in all, each told once.
+    Mains are possible main parts by their sizes, rows `(some, each, heads, table)` of those with one look; a head is
+    the number of what else is asked of a main part. Others are the looks of parts that are not the main one. Sides
+    are rows of such parts, by their number and their size in all, each told once.
     """
 
     def __init__(self, number, forms, takes):
@@ -18,34 +19,56 @@ class Taking:
         self.forms = forms
         self.takes = takes
         self.reach = max([row[2] for row in forms]) - 1
-        self.packs = {}
+        self.mains = {}
         self.others = {}
         self.sides = [{} for _ in range(self.reach + 1)]
         self.met_mains = {}
         self.met_others = {}
         self.met_sides = {}
+        self.met_things = {}
+        self._heads = {}
 
     def cases(self, many, states):
         """The forms and states of things of so many parts."""
         return [(row[0], state) for row in self.forms if row[1] <= many <= row[2] for state in states]
 
     def file(self, bench, size, rows):
-        """File records `(number, bits, results)` of parts of this size; are there new packs, and new others?"""
-        mains = []
+        """File records `(number, bits, results)` of parts of this size; are there new mains, and new others?"""
+        mains = {}
         others = []
         for number, bits, results in rows:
+            look = look_of_record(bench, (bits, results))
             if (bits, results) not in self.met_mains:
                 self.met_mains[(bits, results)] = True
-                mains.append((number, bits, results))
-            look = look_of_record(bench, (bits, results))
+                head = self._heads.setdefault((bits & bench.head_mask, results), len(self._heads))
+                mains.setdefault(look, {})[head] = (number, (bits, results))
             if self.reach > 0 and look not in self.met_others:
                 self.met_others[look] = True
                 others.append((*look, number))
         if mains:
-            self.packs[size] = Pack(bench, [row[0] for row in mains], [row[1:] for row in mains])
+            self.mains[size] = [(*look, sum([1 << head for head in table]), table) for look, table in mains.items()]
         if others:
             self.others[size] = others
-        return (mains != [], others != [])
+        return (mains != {}, others != [])
+
+    def things_of(self, beside, size):
+        """The new things of so many parts beside the main one, whose parts have this size in all.
+
+        They are rows `(record of the main part, some, each, number of the main part, numbers of the others)`: what
+        some of all parts are, and what each of them is. Those with the same head and look are told once.
+        """
+        out = []
+        for total, sides in list(self.sides[beside].items()):
+            for some, each, numbers in list(sides):
+                for more, every, heads, table in list(self.mains.get(size - total, [])):
+                    look = (beside, some | more, each & every)
+                    known = self.met_things.get(look, 0)
+                    fresh = heads & (heads ^ known)
+                    if fresh:
+                        self.met_things[look] = known | fresh
+                        out.extend([(record, look[1], look[2], number, numbers)
+                                    for head, (number, record) in table.items() if fresh >> head & 1])
+        return out
 
     def widen(self, size):
         """Add one part to sides where that makes up this size; the numbers of parts for which there are new sides."""
@@ -69,7 +92,7 @@ class Taking:
             if othered and many < self.reach:
                 out.extend([size + total for total in table])
         for many in widened:
-            out.extend([size + other + 1 for other in self.packs])
+            out.extend([size + other + 1 for other in self.mains])
             if many < self.reach:
                 out.extend([size + other for other in self.others])
         return out
@@ -91,40 +114,36 @@ class Stage:
         for taking in list(self.takings):
             taking.sides[0][0] = [(0, bench.each_mask, ())]
 
-    def jobs(self, size):
-        """The new ways to make things of this size: rows of `(cases, number of parts, pack, sides)`."""
-        out = []
-        for taking in self.takings:
-            for others, table in enumerate(taking.sides):
-                cases = taking.cases(others + 1, self.states)
-                for total, sides in table.items():
-                    pack = taking.packs.get(size - 1 - total)
-                    if pack is not None and cases:
-                        few = 1 + MOST_AT_ONCE // (len(cases) * len(pack.ids))
-                        rows = [sides[at:at + few] for at in range(0, len(sides), few)]
-                        out.extend([(cases, others + 1, pack, row) for row in rows])
-        return out
+    def turns(self):
+        """What is made one after another at each size: rows of `(taking, number of parts beside the main one)`."""
+        return [(taking, beside) for taking in self.takings for beside in range(taking.reach + 1)]
+
+    def jobs(self, turn, size):
+        """The new ways of a turn to make things of this size: rows of `(cases, number of parts, things)`."""
+        taking, beside = turn
+        cases = taking.cases(beside + 1, self.states)
+        things = taking.things_of(beside, size - 1) if cases else []
+        few = 1 + MOST_AT_ONCE // max(1, len(cases))
+        return [(cases, beside + 1, things[at:at + few]) for at in range(0, len(things), few)]
 
     def done(self, job):
-        """What a job gives, a row `(answers, cases, wide, parts)`; None stands for making the mixes."""
+        """What a job gives, a row `(answers, cases, wide, things)`; None stands for making the mixes."""
         if job is None:
-            return (self.bench.mixes(), [("mix", "")], len(self.bench.mixtures), ())
-        cases, many, pack, sides = job
-        answers = self.bench.things_beside(cases, many, pack, sides)
-        return (answers, cases, len(pack.ids), (pack.ids, [side[2] for side in sides]))
+            return (self.bench.mixes(), [("mix", "")], len(self.bench.mixtures), [])
+        cases, many, things = job
+        answers = self.bench.things(cases, many, Crowd(self.bench, things), (0, self.bench.each_mask))
+        return (answers, cases, len(things), things)
 
     def new_rows(self, row, tags, asked, met):
         """What of some answers has not been met: rows of `(tag, bits, results, making)`."""
-        answers, cases, wide, parts = row
-        blocks = repeated(len(parts[1]) if parts else 1, len(cases) * wide)
-        starts = starts_by([tags[case[0]] for case in cases], wide)
-        starts = [(goods * blocks, tag) for goods, tag in starts if tag >= 0]
+        answers, cases, wide, things = row
+        starts = [start for start in starts_by([tags[case[0]] for case in cases], wide) if start[1] >= 0]
         many = len(asked[0])
         out = []
         for goods, number, results in parted_answers(answers, starts, asked[0], asked[1]):
             if (number, results) not in met:
                 met[(number, results)] = True
-                making = self._making_at(lowest(goods), cases, wide, parts)
+                making = self._making_at(lowest(goods), cases, wide, things)
                 out.append((number >> many, number & (1 << many) - 1, results, making))
         return out
 
@@ -132,13 +151,11 @@ class Stage:
         """The new rows that the stages above need of some answers; their tags are the reaches of the roots."""
         return self.new_rows(row, self._reaches, self.telling, self._met)
 
-    def _making_at(self, at, cases, wide, parts):
+    def _making_at(self, at, cases, wide, things):
         """How the good of one bit is made: `(spans,)` of a mix, or `(form, state, main part, other parts)`."""
-        if not parts:
+        if not things:
             return (self.bench.mixtures[at][1],)
-        number, at = divmod(at, len(cases) * wide)
-        form, state = cases[at // wide]
-        return (form, state, parts[0][at % wide], parts[1][number])
+        return (*cases[at // wide], *things[at % wide][3:])
 
     def take_up(self, size):
         """Take up what the stage below has found at this size; the sizes at which more is due."""

@@ -28,22 +28,29 @@ class Survey:
         self._met = {}
         self._queue = []
         self._due = {}
-        self._stages = stages_of(stock, sheet, desks, self._asked, self._roots)
+        self.stages = stages_of(stock, sheet, desks, self._asked, self._roots)
         self._run()
 
     def _run(self):
         self._plan(1)
         while self._queue:
             size = heappop(self._queue)
-            for number, stage in enumerate(self._stages):
-                stage.fresh = []
-                for job in stage.jobs(size) if size > 1 else [None]:
-                    self._keep(number, stage, stage.done(job), size)
+            for number, stage in enumerate(self.stages):
+                self._make(number, stage, size)
             if any([all([row in self.rows for row in rows]) for rows in self._wanted]):
                 return
-            for stage in self._stages:
+            for stage in self.stages:
                 for due in stage.take_up(size):
                     self._plan(due)
+
+    def _make(self, number, stage, size):
+        """Make all goods of a size that are new to a stage."""
+        stage.fresh = []
+        if size == 1:
+            self._keep(number, stage, stage.done(None), size)
+        for turn in stage.turns() if size > 1 else []:
+            for job in stage.jobs(turn, size):
+                self._keep(number, stage, stage.done(job), size)
 
     def _plan(self, size):
         if size not in self._due:
