@@ -150,6 +150,16 @@ class ExchangeableTest(unittest.TestCase):
                "main over 1/2 hair and some form button and parts 2\nrules last"
         self.assertEqual(exchangeable(read_book(WIDE, text), one, other).around(), 3)
 
+    def test_many_layers_deep(self):
+        for word, size in (("some", 13), ("main", 13), ("some main", 25), ("some each", 25)):
+            text = f"heading 1 is any\nheading 2 is {(word + ' ') * 12}(not mix and over 1/2 hair)\nrules last"
+            book = read_book(WIDE, text)
+            one, other = good("mix far 1 hair", WIDE), good("mix far 1 wool", WIDE)
+            frame = exchangeable(book, one, other)
+            self.assertEqual((frame.around(), len(frame.place)), (size, size))
+            self.assertTrue(is_frame(frame, one, other))
+            self.assertNotEqual(book(frame.first), book(frame.second))
+
     def test_errors(self):
         book = read_book(STOCK, "heading 1 is any\nrules")
         one, strange = good("mix far 1 hair"), good("mix far 1 hair", WIDE)
