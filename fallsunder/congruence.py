@@ -44,13 +44,13 @@ class Congruence:
             cases = kit.cases(room, many + 1)
             starts = starts_by([roots.index(case[0]) for case in cases], wide)
             for side in sides if cases and wide > 0 else []:
-                answers = bench.things(cases, many + 1, room.pack, side[:2])
+                answers = bench.things(cases, many + 1, room.pack, side)
                 groups = []
                 for goods, number, names in parted_answers(answers, starts, bench.cells, [0]):
                     root = roots[number >> len(bench.cells)]
                     bits = number & (1 << len(bench.cells)) - 1
                     groups.append((goods, self._numbers[(root, bits, names[0])]))
-                out.append(Job(many, side[:2], wide, groups))
+                out.append(Job(many, side, wide, groups))
         return out
 
     def _all_signs(self):
@@ -95,14 +95,14 @@ class Congruence:
         names = numbered(columns)
         where = {(job.beside, job.side): names[at] for at, job in enumerate(jobs)}
         signs = []
-        for more, every, _, _ in room.looks:
+        for more, every in room.looks:
             sign = []
             for many, sides in enumerate(room.sides[:-1]):
-                for some, each, _, _ in sides:
+                for some, each in sides:
                     sign.append(where.get((many + 1, (some | more, each & every)), -1))
             signs.append(tuple(sign))
         numbers = numbered(signs)
-        return {row[:2]: numbers[at] for at, row in enumerate(room.looks)}
+        return {look: numbers[at] for at, look in enumerate(room.looks)}
 
 
 def main_columns(jobs, columns):

@@ -44,11 +44,16 @@ def without_note(book, note):
     return book.changed(notes=[*book.notes[:at], *book.notes[at + 1:]])
 
 
+def kept_deed(deed):
+    """A copy of a deed: what it has as lists, as tuples."""
+    return tuple([tuple(part) if isinstance(part, list) else part for part in deed])
+
+
 class Choices:
     """The books behind choices of deeds that are sound together, each made once."""
 
     def __init__(self, book, deeds):
-        self._deeds = list(deeds)
+        self._deeds = [kept_deed(deed) for deed in deeds]
         self._known = {(): book}
 
     def book_behind(self, numbers):

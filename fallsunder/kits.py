@@ -12,31 +12,28 @@ from fallsunder.surveys import Survey
 class Kind:
     """Goods that a book does not tell apart wherever they are parts: all have this root (top), record and result."""
 
-    def __init__(self, top, record, result, nodes, making):
+    def __init__(self, top, record, result, making):
         self.top = top
         self.record = record
         self.result = result
-        self.nodes = nodes
         self.making = making
 
 
 class Room:
-    """What things of some forms, which take the same roots, can have as parts; numbers are those of kinds.
+    """What things of some forms, which take the same roots, can have as parts.
 
-    Mains are the possible main parts, looks are rows `(some, each, size, number)` of parts beside the main one, and
-    sides[n] are rows `(some, each, size, numbers)` of n such parts.
+    Mains are the numbers of the kinds of the possible main parts, looks are rows `(some, each)` of parts beside the
+    main one, and sides[n] are such rows of n parts.
     """
 
     def __init__(self, bench, taking, kinds):
         self.taking = taking
         records = {}
-        looks = {}
         for number, kind in enumerate(kinds):
             if kind.top in taking.takes:
                 records.setdefault(kind.record, number)
-                looks.setdefault(look_of_record(bench, kind.record), (kind.nodes, number))
         self.mains = list(records.values())
-        self.looks = [(*look, *rest) for look, rest in looks.items()]
+        self.looks = list({look_of_record(bench, record): True for record in records})
         self.sides = sides_of(bench, self.looks, taking.reach)
         self.pack = Pack(bench, self.mains, list(records))
 
@@ -69,25 +66,19 @@ class Kit:
 
 
 def kinds_of(survey, asked, bench):
-    """The Kinds that a survey tells, in ascending order of their sizes."""
+    """The Kinds that a survey tells; it tells rows in ascending order of sizes."""
     found = {}
-    for key, (size, making) in survey.rows.items():
+    for key, (_, making) in survey.rows.items():
         record = narrowed_row(asked, bench, key[1], key[2])
         word = (key[0], record, key[2][0])
-        if word not in found or found[word].nodes > size:
-            found[word] = Kind(*word, size, making)
-    return sorted(list(found.values()), key=lambda kind: kind.nodes)
+        if word not in found:
+            found[word] = Kind(*word, making)
+    return list(found.values())
 
 
 def sides_of(bench, looks, reach):
-    """For each number of parts from 0 to the reach the rows of such parts, each as small as it can be."""
-    out = [[(0, bench.each_mask, 0, ())]]
+    """For each number of parts from 0 to the reach the rows `(some, each)` of such parts."""
+    out = [[(0, bench.each_mask)]]
     for many in range(reach):
-        found = {}
-        for some, each, total, numbers in out[many]:
-            for more, every, size, number in looks:
-                look = (some | more, each & every)
-                if look not in found or found[look][0] > total + size:
-                    found[look] = (total + size, (*numbers, number))
-        out.append([(*look, *rest) for look, rest in found.items()])
+        out.append(list({(some | more, each & every): True for some, each in out[many] for more, every in looks}))
     return out

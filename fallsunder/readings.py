@@ -43,7 +43,7 @@ class Reading:
 
 def results(book, goods):
     """The results of some goods, one by one."""
-    for number, good in enumerate(goods):
+    for number, good in enumerate(list(goods)):
         if good.stock != book.stock:
             raise OtherStock(number + 1)
         yield book(good)

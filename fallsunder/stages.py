@@ -33,7 +33,7 @@ class Taking:
         return [(row[0], state) for row in self.forms if row[1] <= many <= row[2] for state in states]
 
     def file(self, bench, size, rows):
-        """File records `(number, bits, results)` of parts of this size; are there new mains, and new others?"""
+        """File records `(number, bits, results)` of parts of this size; are there new mains?"""
         mains = {}
         others = []
         for number, bits, results in rows:
@@ -49,7 +49,7 @@ class Taking:
             self.mains[size] = [(*look, sum([1 << head for head in table]), table) for look, table in mains.items()]
         if others:
             self.others[size] = others
-        return (mains != {}, others != [])
+        return mains != {}
 
     def things_of(self, beside, size):
         """The new things of so many parts beside the main one, whose parts have this size in all.
@@ -83,14 +83,14 @@ class Taking:
                 out.append(many)
         return out
 
-    def sizes_due(self, size, packed, othered, widened):
-        """The sizes at which something is to be made or widened from what is new at this size."""
+    def sizes_due(self, size, packed, widened):
+        """The sizes at which something is to be made or widened from what is new at this size.
+
+        A side with a new part is a part at first, to which smaller parts are added.
+        """
         out = []
-        for many, table in enumerate(self.sides):
-            if packed:
-                out.extend([size + total + 1 for total in table])
-            if othered and many < self.reach:
-                out.extend([size + total for total in table])
+        for table in self.sides if packed else []:
+            out.extend([size + total + 1 for total in table])
         for many in widened:
             out.extend([size + other + 1 for other in self.mains])
             if many < self.reach:
@@ -164,9 +164,8 @@ class Stage:
         out = []
         for taking in self.takings:
             mine = [row[:3] for row in rows if row[3] >> taking.number & 1]
-            packed, othered = taking.file(self.bench, size, mine)
-            widened = taking.widen(size)
-            out.extend(taking.sizes_due(size, packed, othered, widened))
+            packed = taking.file(self.bench, size, mine)
+            out.extend(taking.sizes_due(size, packed, taking.widen(size)))
         return out
 
 

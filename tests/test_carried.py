@@ -109,6 +109,8 @@ class GroupsTest(unittest.TestCase):
         self.assertEqual(groups(Carried(old, new)), ((("1", "2", "3"), ("1", "2", "3")),))
         new = book_of("heading x is each mix\nheading y is any\nheading z is none\nrules first")
         self.assertEqual(groups(Carried(old, new)), ((("1", "2", "3"), ("x", "y")),))
+        new = book_of("heading x is form coat or mix\nheading y is any\nrules first")
+        self.assertEqual(groups(Carried(old, new)), ((("1", "3"), ("x",)), (("2",), ("y",))))
         new = book_of("heading y is mix\nheading x is form button\nrules")
         self.assertEqual(groups(Carried(old, new)), ((("1",), ("none",)), (("2",), ("x",)), (("3",), ("y",))))
 
@@ -117,6 +119,8 @@ class GroupsTest(unittest.TestCase):
         goods = [good("mix far 3 hair"), good("coat worn far (mix far 2 hair, mix far 1 wool)"), good("mix far 4 wool")]
         self.assertEqual(list(totals(book, goods).items()), [("1", 7), ("2", 3)])
         self.assertEqual(list(totals(book, tuple(goods[::-1])).items()), [("1", 7), ("2", 3)])
+        self.assertEqual(list(totals(book, [goods[2], goods[1], goods[0]]).items()), [("1", 7), ("2", 3)])
+        self.assertEqual(list(totals(book, [goods[1], goods[0], goods[2]]).items()), [("1", 7), ("2", 3)])
         self.assertEqual(totals(book, []), {})
         strange = Good(wide_stock(), ("mix", "far", (("hair", 1),)))
         self.assertEqual(caught(lambda: totals(book, [*goods, strange, strange])), ("OtherStock", 4))

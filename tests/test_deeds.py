@@ -109,6 +109,17 @@ class FewestTest(unittest.TestCase):
         swap = [("strike", SHUT), ("put", ("1", "shuts", MIX, ""))]
         self.assertEqual([row[3] for row in moved(full, swap)], [(0, 1)])
 
+    def test_deeds_that_are_changed_meanwhile(self):
+        deeds = [["term", "2a", ("state", "worn")], ["put", ["1", "shuts", ("over", "hair", 1, 2), ""]], ["rules", []]]
+        told = [row[:2] + row[3:] for row in moved(BOOK, deeds)]
+        rows = moved(BOOK, deeds)
+        some = [next(rows)]
+        deeds[2][1].append("last")
+        deeds[1][1][0] = "9"
+        deeds[0][1] = "2b"
+        deeds.clear()
+        self.assertEqual([row[:2] + row[3:] for row in [*some, *rows]], told)
+
     def test_random_deeds(self):
         rng = fixed_random(74)
         for stock in (STOCK, wide_stock()):

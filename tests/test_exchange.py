@@ -9,6 +9,7 @@ from fallsunder.booktext import read_book
 from fallsunder.exchange import Frame, exchangeable, full_set, is_frame
 from fallsunder.goods import Good
 from fallsunder.goodtext import read_good
+from fallsunder.stocks import Stock
 from tests.samples import book_from, caught, fixed_random, goods_of, is_sound, small_stock, twin_stock, wide_stock
 
 STOCK = small_stock()
@@ -91,6 +92,11 @@ class FrameTest(unittest.TestCase):
                                      ("coat worn far (mix far 1 hair)", "coat worn far (mix far 1 wool)", (True,)),
                                      ("coat worn far (mix far 2 hair)", "coat worn far (mix far 1 wool)", (0,))]:
             self.assertFalse(is_frame(Frame(good(first), good(second), place), one, other), (first, second, place))
+        whole = Frame(good("coat worn far (mix far 1 hair)"), good("coat worn far (button worn far (mix far 1 hair))"), (0,))
+        self.assertFalse(is_frame(whole, one, good("button worn far (mix far 1 hair)")))
+        self.assertFalse(is_frame(Frame(one, good("button worn far (mix far 1 hair)"), ()), one, good("button worn far (mix far 1 hair)")))
+        self.assertFalse(is_frame(Frame(good("coat worn far (mix far 1 hair)"), good("coat worn far (mix far 1 hair, mix far 1 wool)"), (1,)), one, other))
+        self.assertFalse(is_frame(Frame(one, good("coat worn far (mix far 1 wool)"), (0,)), one, other))
         deep = Frame(good("coat worn far (mix far 9 wool, button whole far (mix far 5 hair))"),
                      good("coat worn far (mix far 9 wool, button whole far (mix far 5 wool))"), (1, 0))
         self.assertTrue(is_frame(deep, one, other))
@@ -146,6 +152,11 @@ class ExchangeableTest(unittest.TestCase):
         self.assertEqual(exchangeable(read_book(WIDE, text), one, other).around(), 4)
         text = "heading 1 is any\nheading 2 is parts 3 and some (form button and parts 2) and main (mix and over 1/2 hair)\nrules last"
         self.assertEqual(exchangeable(read_book(WIDE, text), one, other).around(), 5)
+        beside = "some (mix and over 1/2 hair) and main form button"
+        text = f"heading 1 is any\nheading 2 is main main (mix and over 1/2 hair) or {beside}\nrules last"
+        self.assertEqual(exchangeable(read_book(WIDE, text), one, other).around(), 2)
+        text = f"heading 1 is any\nheading 2 is parts 3 and some form button and main (mix and over 1/2 hair) or {beside}\nrules last"
+        self.assertEqual(exchangeable(read_book(WIDE, text), one, other).around(), 3)
         text = "heading 1 is any\nheading 2 is some over 1/2 hair and main (form coat and some form button) or " \
                "main over 1/2 hair and some form button and parts 2\nrules last"
         self.assertEqual(exchangeable(read_book(WIDE, text), one, other).around(), 3)
@@ -209,10 +220,19 @@ class FullSetTest(unittest.TestCase):
         found = sorted((one.root, book(one)) for one in full_set(book))
         self.assertEqual(found, [("button", "1"), ("button", "2"), ("coat", "1"), ("coat", "2"), ("mix", "2"), ("mix", "2")])
 
+    def test_classes_that_are_parted_one_after_another(self):
+        stock = Stock(["a", "b"], ["s"], ["l"], [("f", 1, 1, ["f", "mix"])])
+        for many in range(7):
+            text = f"heading 1 is any\nheading 2 is {'main ' * many}(mix and over 1/2 a)\nrules last"
+            sizes = sorted((one.root, one.size) for one in full_set(read_book(stock, text)))
+            self.assertEqual(sizes, [("f", 2), *[("f", size) for size in range(2, many + 2)], ("mix", 1), ("mix", 1)])
+
     def test_classes_that_differ_only_beside_the_main_part(self):
         book = read_book(STOCK, "heading 1 is any\nheading 2 is some over 1/2 hair and main form button\nrules last")
         full = full_set(book)
         self.assertEqual(sorted(one.root for one in full), ["button", "button", "coat", "coat", "mix", "mix"])
+        other = read_book(STOCK, "heading 1 is any\nheading 2 is some (mix and over 1/2 hair) and main form button\nrules last")
+        self.assertEqual(sorted(one.root for one in full_set(other)), ["button", "coat", "coat", "mix", "mix"])
         self.assertEqual(sorted(one.grams("hair") > one.grams("wool") for one in full if one.root == "mix"), [False, True])
         for text in ("some parts 2 and main mix", "some parts 2 and main mix and parts 3"):
             book = read_book(WIDE, f"heading 1 is any\nheading 2 is {text}\nrules last")

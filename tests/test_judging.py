@@ -154,6 +154,16 @@ class StruckTest(unittest.TestCase):
                     return numbers
         return None
 
+    def test_results_of_main_parts(self):
+        text = "heading 1 is any\nheading 2 is parts 1\nnote 1 sends 2 if state worn\nnote 2 sends 1 if any\nrules main"
+        for words in ("", " main", " first", " last", " main first"):
+            book = book_of(text.replace(" main", words))
+            self.assertEqual(fewest_struck(book), self.slow_fewest(book), words)
+        self.assertEqual(fewest_struck(book_of(text)), (0,))
+        text = "heading 1 is mix\nheading 2 is parts 1\nheading 3 is state worn\nnote 3 takes mix\nnote 2 shuts main falls 3\nrules main"
+        self.assertIsNone(fewest_struck(book_of(text)))
+        self.assertEqual(fewest_struck(book_of(text.replace("is state worn", "is none"))), (0,))
+
     def test_notes_that_never_matter_are_left(self):
         stock = wide_stock()
         notes = ["1 shuts over 1/2 hair and over 1/2 wool", "1 shuts from 1/2 hair and from 1/2 wool and over 0/1 horn",
@@ -231,6 +241,11 @@ class ThinTest(unittest.TestCase):
         self.assertEqual((needless(thin), thinned(thin)), ((), thin))
         self.assertEqual((thin.headings, thin.rules), (book.headings, book.rules))
         self.assertEqual(len(book.notes), 3)
+
+    def test_what_is_needless_behind_the_strike_of_a_later_note(self):
+        book = book_of("heading 1 is mix\nheading 2 is not mix\nnote 2 shuts mix\nnote 2 takes mix\nrules")
+        self.assertEqual(needless(book), (1,))
+        self.assertEqual(thinned(book).notes, ())
 
     def test_struck(self):
         book = book_of(self.PAIR)

@@ -161,6 +161,11 @@ rules special main first"""
         self.assertEqual(caught(all_told), ("OtherStock", 3))
         self.assertEqual(found, ["none", "none"])
         results(book, [strange])
+        goods = [good(WOOL), good(HAIR), good(WOOL)]
+        told = results(book, goods)
+        self.assertEqual(next(told), "none")
+        goods.clear()
+        self.assertEqual(list(told), ["none", "none"])
 
     def test_random_readings(self):
         rng = fixed_random(43)

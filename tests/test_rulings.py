@@ -52,6 +52,8 @@ class MadeTest(unittest.TestCase):
                 ([(("form", "ghost"), "2"), (ANY, "9")], ("Unknown", "ghost"))]
         for passed, error in rows:
             self.assertEqual(caught(lambda: Rulings(BOOK, passed)), error, passed)
+        for many in range(1, 8):
+            self.assertEqual(len(Rulings(BOOK, [(ANY, "2")] * many).rows), many)
 
     def test_what_is_ruled(self):
         made = rulings_of(("some form button", "2"), ("over 1/2 hair and parts 1", "1b"), ("parts 2", "1a"))
