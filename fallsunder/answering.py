@@ -6,13 +6,20 @@ from fallsunder.sheets import share_holds, work_falls, work_out
 
 def answers_of(sheet, desks, good):
     """The worths of all cells for a good (0 or 1), and its results by the books at the desks, by their owners."""
+    return all_answers(sheet, desks, good)[0]
+
+
+def all_answers(sheet, desks, good):
+    """Such answers for all nodes of a good, in the order of a walk."""
+    out = []
     done = []
     for node in good_nodes(good)[::-1]:
         below = []
         for _ in node:
             below.append(done.pop())
-        done.append(node_answers(sheet, desks, node, below))
-    return done[0]
+        out.append(node_answers(sheet, desks, node, below))
+        done.append(out[len(out) - 1])
+    return out[::-1]
 
 
 def node_answers(sheet, desks, node, below):

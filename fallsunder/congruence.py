@@ -1,6 +1,6 @@
 """Sorts the kinds of goods by a book into classes, whose goods the book does not tell apart in any thing."""
 
-from fallsunder.benches import look_of_record, parted_answers, starts_by
+from fallsunder.benches import look_of_record
 from fallsunder.desks import split_by
 
 
@@ -19,9 +19,8 @@ class Congruence:
 
     def __init__(self, kit):
         self._kit = kit
-        self._numbers = {(kind.top, kind.record[0], kind.result): number for number, kind in enumerate(kit.kinds)}
         self._jobs = [self._jobs_of(room) for room in kit.rooms]
-        self._classes = numbered([(kind.top, kind.result) for kind in kit.kinds])
+        self._classes = numbered([(kind.top, kind.results) for kind in kit.kinds])
         many = 0
         while many < max(self._classes) + 1:
             many = max(self._classes) + 1
@@ -35,22 +34,10 @@ class Congruence:
         return list(out.values())
 
     def _jobs_of(self, room):
-        kit = self._kit
-        bench = kit.bench
-        roots = ["mix", *[row[0] for row in kit.stock.forms]]
-        wide = len(room.mains)
         out = []
         for many, sides in enumerate(room.sides):
-            cases = kit.cases(room, many + 1)
-            starts = starts_by([roots.index(case[0]) for case in cases], wide)
-            for side in sides if cases and wide > 0 else []:
-                answers = bench.things(cases, many + 1, room.pack, side)
-                groups = []
-                for goods, number, names in parted_answers(answers, starts, bench.cells, [0]):
-                    root = roots[number >> len(bench.cells)]
-                    bits = number & (1 << len(bench.cells)) - 1
-                    groups.append((goods, self._numbers[(root, bits, names[0])]))
-                out.append(Job(many, side, wide, groups))
+            for side in sides if self._kit.cases(room, many + 1) and room.mains else []:
+                out.append(Job(many, side, len(room.mains), self._kit.groups_of(room, many, side)))
         return out
 
     def _all_signs(self):

@@ -88,5 +88,5 @@ def is_multiple(good, other):
 
 def full_set(book):
     """Goods of which no two with the same root are exchangeable, one for each good of the stock."""
-    kit = Kit(book)
+    kit = Kit([book])
     return tuple([kit.good_of(number) for number in Congruence(kit).least_kinds()])

@@ -8,56 +8,39 @@ from math import gcd
 from fallsunder.answering import answers_of
 from fallsunder.benches import Pack, look_of_record, lowest, parted_answers
 from fallsunder.desks import Desk
-from fallsunder.excerpts import asked_in_turn, bench_for
 from fallsunder.goods import sound_good
 from fallsunder.growing import Grower
+from fallsunder.levels import Levels
 from fallsunder.opencheck import is_open, node_at
 from fallsunder.slimming import SlimSheet
-from fallsunder.stages import narrowed_row
 from fallsunder.surveys import Survey
 from fallsunder.trees import multiplied
 
 
 class Filling:
-    """A filling of a node with so many nodes; maker and making tell how its good is made.
+    """A filling of a node, its cost being its nodes (or a price); maker and making tell how its good is made.
 
     The maker is a Grower for an open term, the plain mix, or the head `(form, state, land, main)` of a thing; the
     making is that of a survey, or the Fillings of the parts.
     """
 
-    def __init__(self, nodes, maker, making):
-        self.nodes = nodes
+    def __init__(self, cost, maker, making):
+        self.cost = cost
         self.maker = maker
         self.making = making
 
 
-class Filler:
+class Filler(Levels):
     """Finds the fillings of an open good that a book and some terms tell apart."""
 
     def __init__(self, book, plain, terms):
-        self.stock = book.stock
+        sheet = SlimSheet()
+        desks = {0: Desk(sheet, 0, book)}
+        cells = tuple([sheet.cell_of(term.plain, -1) for term in terms])
+        super().__init__(book.stock, sheet, desks, (cells, (0,)))
         self.plain = plain
-        self._sheet = SlimSheet()
-        self._desks = {0: Desk(self._sheet, 0, book)}
-        cells = tuple([self._sheet.cell_of(term.plain, -1) for term in terms])
-        self._chain, self._again = asked_in_turn(self.stock, self._sheet, self._desks, (cells, (0,)))
-        self._top = cells
-        self._benches = {}
         self._rows = {}
         self._known = {}
-
-    def asked_at(self, depth):
-        """What is asked of nodes at a depth: `(cells, owners)`."""
-        if depth == 0:
-            return (self._top, (0,))
-        return self._chain[depth] if depth < len(self._chain) else self._again
-
-    def bench_at(self, depth):
-        """The Bench that tells what is asked at a depth."""
-        at = min(depth, len(self._chain))
-        if at not in self._benches:
-            self._benches[at] = bench_for(self.stock, self._sheet, self._desks, self.asked_at(at))
-        return self._benches[at]
 
     def fillings_at(self, place):
         """The Fillings of the node at a place, by their records."""
@@ -76,17 +59,13 @@ class Filler:
         out = {}
         for record, filling in self.fillings_at(place).items():
             need = self.need_of(record, len(place))
-            if need not in out or out[need].nodes > filling.nodes:
+            if need not in out or out[need].cost > filling.cost:
                 out[need] = filling
         return out
 
-    def need_of(self, record, depth):
-        """What the Bench above a depth asks of a record of a node there."""
-        return narrowed_row(self.asked_at(depth), self.bench_at(depth - 1), record[0], record[1])
-
     def _open_fillings(self, node, place):
         takes = self.stock[node_at(self.plain, place[:-1])[0]][2] if place else None
-        key = (self._sheet.cell_of(node[1], -1), min(len(place), len(self._chain)), takes)
+        key = (self.sheet.cell_of(node[1], -1), self.level_of(len(place)), takes)
         if key not in self._known:
             self._known[key] = self._kept_by(key[0], self.asked_at(len(place)), takes)
         return self._known[key]
@@ -94,13 +73,13 @@ class Filler:
     def _kept_by(self, keeps, asked, takes):
         """The Fillings of a cell: the goods that keep it, with a root that is taken."""
         cells, owners = asked
-        survey = Survey(self.stock, self._sheet, self._desks, ((*cells, keeps), owners), rooted=True)
+        survey = Survey(self.stock, self.sheet, self.desks, ((*cells, keeps), owners), rooted=True)
         grower = Grower(survey)
         out = {}
         for (root, bits, results), (size, making) in survey.rows.items():
             if bits >> len(cells) & 1 and (takes is None or root in takes):
                 record = (bits & (1 << len(cells)) - 1, results)
-                if record not in out or out[record].nodes > size:
+                if record not in out or out[record].cost > size:
                     out[record] = Filling(size, grower, making)
         return out
 
@@ -128,8 +107,8 @@ class Filler:
                 answers = bench.things(cases, len(parts), pack.pack, side)
                 for goods, bits, results in parted_answers(answers, [(answers.full, 0)], asked[0], asked[1]):
                     case, at = pack.least_of(goods)
-                    nodes = 1 + pack.fillings[at].nodes + sum([filling.nodes for filling in others])
-                    if (bits, results) not in out or out[(bits, results)].nodes > nodes:
+                    nodes = 1 + pack.fillings[at].cost + sum([filling.cost for filling in others])
+                    if (bits, results) not in out or out[(bits, results)].cost > nodes:
                         below = (*others[:main], pack.fillings[at], *others[main:])
                         out[(bits, results)] = Filling(nodes, (*cases[case], node[2], main), below)
         return out
@@ -158,7 +137,7 @@ class MainPack:
     """A Pack of the needs of some possible main parts, from the smallest to the greatest."""
 
     def __init__(self, bench, needs):
-        rows = sorted(list(needs.items()), key=lambda row: row[1].nodes)
+        rows = sorted(list(needs.items()), key=lambda row: row[1].cost)
         self.needs = [need for need, _ in rows]
         self.fillings = [filling for _, filling in rows]
         self.pack = Pack(bench, list(range(len(rows))), self.needs)
@@ -201,18 +180,18 @@ def wider_fillings(bench, sides, needs):
     looks = {}
     for need, filling in needs.items():
         look = look_of_record(bench, need)
-        if look not in looks or looks[look].nodes > filling.nodes:
+        if look not in looks or looks[look].cost > filling.cost:
             looks[look] = filling
     out = {}
     for (some, each), others in sides.items():
         for (more, every), filling in looks.items():
             side = (some | more, each & every)
             row = (*others, filling)
-            if side not in out or nodes_in(out[side]) > nodes_in(row):
+            if side not in out or cost_of(out[side]) > cost_of(row):
                 out[side] = row
     return out
 
 
-def nodes_in(fillings):
-    """The nodes of some Fillings together."""
-    return sum([filling.nodes for filling in fillings])
+def cost_of(fillings):
+    """The costs of some Fillings together."""
+    return sum([filling.cost for filling in fillings])

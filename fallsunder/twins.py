@@ -15,6 +15,7 @@ from fallsunder.growing import Grower
 from fallsunder.slimming import SlimSheet
 from fallsunder.stages import narrowed_row
 from fallsunder.surveys import Survey
+from fallsunder.unions import Unions
 
 
 class Layer:
@@ -49,7 +50,7 @@ class Twins:
         self._layers = [None]
         self._queue = []
         self._due = {}
-        self._tops = {}
+        self._unions = Unions()
 
     def good_of(self, number):
         """A least good of the part with this number."""
@@ -125,22 +126,7 @@ class Twins:
 
     def _join(self, kind, first, second):
         """Join two things of a kind; were they apart?"""
-        tops = (self._stands_for((*kind, first)), self._stands_for((*kind, second)))
-        if tops[0] == tops[1]:
-            return False
-        self._tops[tops[0]] = tops[1]
-        return True
-
-    def _stands_for(self, key):
-        """The one that stands for all that are joined with this one."""
-        top = key
-        while top in self._tops:
-            top = self._tops[top]
-        while key in self._tops:
-            follows = self._tops[key]
-            self._tops[key] = top
-            key = follows
-        return top
+        return self._unions.join((*kind, first), (*kind, second))
 
     def _plan_sides(self, cost, where, layer, looks):
         """Plan the rows of parts beside the main one of which one is a pair with these looks."""
