@@ -24,9 +24,14 @@ def all_answers(sheet, desks, good):
 
 def node_answers(sheet, desks, node, below):
     """The answers for one node, from those for its parts."""
+    return answers_in_state(sheet, desks, node, below, node.state)
+
+
+def answers_in_state(sheet, desks, node, below, state):
+    """The answers for a node as it would be in this state, from those for its parts."""
     values = [0 for _ in sheet.cells]
     for number, word, about in sheet.simple:
-        values[number] = simple_worth(word, about, node)
+        values[number] = simple_worth(word, about, node, state)
     for number in sheet.shares:
         values[number] = share_worth(sheet, number, node, below)
     for number, word, inner in sheet.looks:
@@ -41,8 +46,8 @@ def node_answers(sheet, desks, node, below):
     return (values, results)
 
 
-def simple_worth(word, about, node):
-    """The worth of a cell that looks at the node alone."""
+def simple_worth(word, about, node, state):
+    """The worth of a cell that looks at the node alone, in this state."""
     if word == "any":
         return 1
     if word == "mix":
@@ -50,7 +55,7 @@ def simple_worth(word, about, node):
     if word == "form":
         return 1 if node.root == about else 0
     if word == "state":
-        return 1 if node.state == about else 0
+        return 1 if state == about else 0
     if word == "parts":
         return 1 if node.many >= about else 0
     return 0

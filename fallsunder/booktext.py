@@ -27,18 +27,24 @@ def write_book(book):
 
 def read_book(stock, text):
     """The Book with this text."""
+    lines = text.split("\n")
+    rows = rows_of_book(lines)
+    if not rows["rules"]:
+        raise BadLine(len(lines), 0)
+    return Book(stock, rows["heading"], notes=rows["note"], rules=rows["rules"][0])
+
+
+def rows_of_book(lines):
+    """What the first lines of a book tell, by the first words of lines; they are as they must be by their form."""
     rows = {kind: [] for kind in KINDS}
     reached = "heading"
-    lines = text.split("\n")
     for number, line in enumerate(lines):
         words = cut_words(line, ")")
         if words[0] not in KINDS or rows["rules"] or KINDS.index(words[0]) < KINDS.index(reached):
             raise BadLine(number, 0)
         reached = words[0]
         rows[reached].append(row_of_line(number, words))
-    if not rows["rules"]:
-        raise BadLine(len(lines), 0)
-    return Book(stock, rows["heading"], notes=rows["note"], rules=rows["rules"][0])
+    return rows
 
 
 def row_of_line(number, words):

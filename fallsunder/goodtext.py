@@ -41,18 +41,23 @@ def parts_to_write(parts, behind):
 
 def read_good(stock, text):
     """The Good with this text."""
-    reader = GoodReader(words(text))
+    return Good(stock, plain_of_words(words(text), 0))
+
+
+def plain_of_words(pieces, start):
+    """The plain good whose words begin at this number and go on to the last one."""
+    reader = GoodReader(pieces, start)
     while reader.at < len(reader.pieces):
         reader.take()
-    return Good(stock, reader.whole())
+    return reader.whole()
 
 
 class GoodReader:
     """Reads the words of a good one by one; fresh is it where a good must begin."""
 
-    def __init__(self, pieces):
+    def __init__(self, pieces, start):
         self.pieces = pieces
-        self.at = 0
+        self.at = start
         self._fresh = True
         self._heads = []
         self._things = []
@@ -116,13 +121,19 @@ def write_stock(stock):
 
 def read_stock(text):
     """The Stock with this text."""
-    rows = [line.split(" ") for line in text.split("\n")]
-    for number, row in enumerate(rows):
-        check_line(number, row)
+    rows = rows_of_stock(text.split("\n"))
     if len(rows) <= len(LISTS):
         raise BadLine(len(rows), 0)
     forms = [(row[1], int(row[2]), int(row[3]), row[4:]) for row in rows[len(LISTS):]]
     return Stock(rows[0][1:], rows[1][1:], rows[2][1:], forms)
+
+
+def rows_of_stock(lines):
+    """The words of the first lines of a stock, which are as they must be by their form."""
+    rows = [line.split(" ") for line in lines]
+    for number, row in enumerate(rows):
+        check_line(number, row)
+    return rows
 
 
 def check_line(number, row):

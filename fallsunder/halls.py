@@ -1,5 +1,7 @@
 """Rooms of a Kit in which all that can stand there has a number, and the kinds of things are looked up by numbers."""
 
+from fallsunder.benches import look_of_record
+
 
 class Hall:
     """A Room with numbers for its main parts, its looks, and the sides of so many parts beside the main one."""
@@ -20,6 +22,10 @@ class Hall:
         """For each look the number of the side that one more part of this look makes of a side."""
         table = self.side_at[many + 1]
         return [table[(side[0] | some, side[1] & each)] for some, each in self.room.looks]
+
+    def look_of(self, kind):
+        """The number of the look of a Kind."""
+        return self.look_at[look_of_record(self.kit.bench, kind.record)]
 
     def kinds_beside(self, many, at):
         """For each case the numbers of the kinds of things with these parts beside each of the main parts."""

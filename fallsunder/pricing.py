@@ -6,7 +6,6 @@ other one, and that has no more nodes, stands for both: with it no good needs le
 """
 
 from fallsunder.ascents import Ascent
-from fallsunder.benches import look_of_record
 from fallsunder.growing import Grower
 from fallsunder.halls import halls_of
 
@@ -106,8 +105,8 @@ class Pricing(Ascent):
 
     def _spot_of(self, hall, kind):
         """The numbers of a kind as a main part and as a look."""
-        record = self._kit.kinds[kind].record
-        return (hall.main_at[record], hall.look_at[look_of_record(self._kit.bench, record)])
+        one = self._kit.kinds[kind]
+        return (hall.main_at[one.record], hall.look_of(one))
 
     def widen(self, nodes, stand, part, side):
         """Take up the side with one more part, unless one is known that stands for it."""

@@ -7,7 +7,6 @@ stays.
 
 from fallsunder.ascents import Ascent
 from fallsunder.balances import weights_within
-from fallsunder.benches import look_of_record
 from fallsunder.halls import halls_of
 from fallsunder.kits import Kit
 from fallsunder.weighing import Making
@@ -102,7 +101,7 @@ class Provenance(Ascent):
             for stand in self.stands:
                 if kind.top in stand.hall.takes:
                     hall = stand.hall
-                    at = (hall.main_at[kind.record], hall.look_at[look_of_record(self._kit.bench, kind.record)])
+                    at = (hall.main_at[kind.record], hall.look_of(kind))
                     part = Sourced(len(self.makings) - 1, nodes, at, self._results[number], tuple(origins))
                     self.put_part(stand, part)
 

@@ -56,7 +56,7 @@ class Striker:
         """The worths of all cells for a node, and its results with their choices."""
         values = [0 for _ in self._sheet.cells]
         for number, word, about in self._sheet.simple:
-            values[number] = self._full * simple_worth(word, about, node)
+            values[number] = self._full * simple_worth(word, about, node, node.state)
         for number in self._sheet.shares:
             values[number] = below[node.main][0][number] if below else self._share_worth(number, node)
         for number, word, inner in self._sheet.looks:

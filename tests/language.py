@@ -105,6 +105,10 @@ def is_property(node):
                for d in node.decorator_list)
 
 
+def is_setter(node):
+    return any(isinstance(d, ast.Attribute) for d in node.decorator_list)
+
+
 def yields(function):
     return any(isinstance(n, (ast.Yield, ast.YieldFrom)) and function_of(n) is function for n in ast.walk(function))
 
@@ -298,7 +302,8 @@ def check_function(package, name, node):
             package.say("L28", name, node, "__init__ returns something")
         if node.name == "__iter__":
             body = [n for n in node.body if not (isinstance(n, ast.Expr) and isinstance(n.value, ast.Constant))]
-            if len(body) != 1 or not re.fullmatch(r"return iter\(self\.\w+\)", ast.unparse(body[0])):
+            if len(body) != 1 or not re.fullmatch(r"return iter\(self\.\w+\)|raise TypeError\('[^']*'\)",
+                                                  ast.unparse(body[0])):
                 package.say("L5", name, node, "__iter__ of another form")
         if yields(node) and (node.name.startswith("__") or node.decorator_list):
             package.say("L23", name, node, "a generator that may not be one")
@@ -598,7 +603,8 @@ def check_classes(package):
     for name, tree in package.trees.items():
         for node in ast.walk(tree):
             if isinstance(node, ast.Attribute) and isinstance(node.ctx, ast.Load):
-                if node.attr not in stored and node.attr not in package.methods | METHODS | {"__init__"}:
+                known = package.methods | METHODS | {"__init__", "setter"}
+                if node.attr not in stored and node.attr not in known:
                     package.say("L18", name, node, f"no class assigns the attribute {node.attr}")
     for word, (name, node) in stored.items():
         if word in package.methods:
@@ -627,6 +633,8 @@ def check_pure(package):
     todo = []
     for word, rows in package.functions.items():
         for name, node in rows:
+            if is_setter(node):
+                continue
             if is_property(node) or (method_of(node) and word.startswith("__") and word not in NOT_OPERATORS):
                 todo.append((name, node))
     seen = []
