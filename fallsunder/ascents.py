@@ -31,26 +31,26 @@ class Ascent:
         while self._queue and not self.ended:
             nodes, turn = heappop(self._queue)
             word, stand, part, side = self._jobs.pop(turn)
-            if word == "join":
-                self.join(nodes, stand, part, side)
+            if word == "combine":
+                self.combine(nodes, stand, part, side)
             else:
                 self.widen(nodes, stand, part, side)
 
-    def join(self, nodes, stand, part, side):
+    def combine(self, nodes, stand, part, side):
         """Take up the things of a main part and a side."""
-        assert nodes > 0, (stand, part, side)
+        raise NotImplementedError("told by the class below")
 
     def widen(self, nodes, stand, part, side):
         """Take up the side with one more part."""
-        assert nodes > 0, (stand, part, side)
+        raise NotImplementedError("told by the class below")
 
     def may_join(self, stand, part, side):
         """Can something new come of a main part and a side?"""
-        return stand.hall.case_rows[side.beside] != [] and part is not None
+        return stand.hall.case_rows[side.beside] != []
 
     def may_widen(self, stand, part, side):
         """Can something new come of a side with one more part?"""
-        return side.beside < stand.hall.reach and part is not None
+        return side.beside < stand.hall.reach
 
     def put_part(self, stand, part):
         """Plan what can be made of a new part, and of all sides that are there."""
@@ -67,7 +67,7 @@ class Ascent:
     def _plan(self, stand, part, side):
         nodes = part.nodes + side.nodes
         if self.may_join(stand, part, side):
-            self._queue_up(nodes + 1, ("join", stand, part, side))
+            self._queue_up(nodes + 1, ("combine", stand, part, side))
         if self.may_widen(stand, part, side):
             self._queue_up(nodes, ("widen", stand, part, side))
 

@@ -80,11 +80,11 @@ class Changer:
     def _needs_of(self, table, root, depth):
         """What the thing above asks of a part that has this table, each with the cheapest Filling."""
         out = {}
-        for record, filling in table.items():
+        for record, filling in list(table.items()):
             need = self._levels.need_of(record, depth)
             if need not in out or out[need].cost > filling.cost:
                 out[need] = filling
-        for need, filling in self._offers_for(root, depth).items():
+        for need, filling in list(self._offers_for(root, depth).items()):
             if need not in out or out[need].cost > filling.cost:
                 out[need] = filling
         return out

@@ -91,7 +91,7 @@ class Counters:
         tables = [{0: [Offer(0, (), ())]}]
         for beside in range(hall.reach):
             table = {}
-            for at, sides in tables[beside].items():
+            for at, sides in list(tables[beside].items()):
                 for look, parts in looks.items():
                     to = hall.wider[beside][at][look]
                     for side in sides:

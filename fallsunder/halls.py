@@ -36,13 +36,14 @@ class Hall:
     def _kinds_of(self, many, side):
         wide = len(self.room.mains)
         flat = [0 for _ in range(wide * len(self.case_rows[many]))]
-        for goods, number in self.kit.groups_of(self.room, many, side) if flat else []:
+        groups = self.kit.groups_of(self.room, many, side) if self.case_rows[many] else []
+        for goods, number in groups:
             left = goods
             while left:
                 low = left & -left
                 flat[low.bit_length() - 1] = number
                 left = left ^ low
-        return [flat[at:at + wide] for at in range(0, len(flat), wide)] if wide > 0 else []
+        return [flat[at:at + wide] for at in range(0, len(flat), wide)]
 
 
 def halls_of(kit):

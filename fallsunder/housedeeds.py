@@ -13,7 +13,7 @@ LAST_DAY = 1000000000
 
 def check_deed(house, deed):
     """All that is asked of a deed before a house does it."""
-    check_form(deed, LENGTHS)
+    check_form(deed, dict(LENGTHS))
     last = house.rows[len(house.rows) - 1].deed[1] if house.rows else 0
     if not is_day(deed[1]) or deed[1] < last:
         raise BadDay(deed[1])

@@ -54,7 +54,7 @@ def read_journal(text):
     at = 1 + int(words[1])
     house = House(stock_of_lines(lines, at))
     while at < len(lines):
-        words = words_of_line(lines, at, LINES)
+        words = words_of_line(lines, at, dict(LINES))
         behind = at + 1 + (int(words[2]) if words[0] == "edition" else 0)
         house.do(deed_of_lines(house.stock, lines, at, behind, words))
         at = behind

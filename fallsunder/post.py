@@ -48,7 +48,7 @@ class Post:
             raise Unknown(office)
         if not is_number(number) or number < 1:
             raise BadNumber(number)
-        check_form(deed, {**LENGTHS, "close": CLOSE_LENGTH})
+        check_form(deed, {**dict(LENGTHS), "close": CLOSE_LENGTH})
         if not is_day(deed[1]):
             raise BadDay(deed[1])
         kept = tuple([copied(thing) for thing in deed])

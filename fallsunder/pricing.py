@@ -55,10 +55,10 @@ class Pricing(Ascent):
         self._sides = {}
         self._entered = {}
         self.ended = leaf not in [kind.results[0] for kind in kit.kinds]
-        for stand in self.stands:
+        for stand in list(self.stands):
             side = PricedSide(0, 0, 0, (), ((0,), ()))
             self.put_side(stand, side)
-        for number, kind in enumerate(kit.kinds):
+        for number, kind in enumerate(list(kit.kinds)):
             if kind.top == "mix" and not self.ended:
                 self._take(1, number, {number: 0}, kind.making)
         self.run()
@@ -82,7 +82,7 @@ class Pricing(Ascent):
         if not any([is_dearer(other, cheap, limit) for other in known]):
             known.append(cheap)
             self.makings.append((nodes, making))
-            for stand in self.stands:
+            for stand in list(self.stands):
                 if self._kit.kinds[number].top in stand.hall.takes:
                     self._enter(stand, self._priced(stand.hall, nodes, number, cheap))
 
@@ -112,13 +112,13 @@ class Pricing(Ascent):
         """Take up the side with one more part, unless one is known that stands for it."""
         hall = stand.hall
         kept = [None for _ in hall.side_at[side.beside + 1]]
-        for at, price in enumerate(side.steady):
-            for look, to in enumerate(hall.wider[side.beside][at]):
+        for at, price in enumerate(list(side.steady)):
+            for look, to in enumerate(list(hall.wider[side.beside][at])):
                 both = price + part.looks[look]
                 if kept[to] is None or both < kept[to]:
                     kept[to] = both
         turned = turned_with(hall, side, part)
-        for at, price in enumerate(side.steady):
+        for at, price in enumerate(list(side.steady)):
             turned[at] = cheapest_of(turned[at], [price + main for main in part.mains])
         at = hall.wider[side.beside][side.at][part.look_at]
         known = self._sides.setdefault((stand.number, side.beside + 1, at), [])
@@ -128,13 +128,13 @@ class Pricing(Ascent):
             numbers = (*side.numbers, part.number)
             self.put_side(stand, PricedSide(side.beside + 1, nodes, at, numbers, (kept, turned)))
 
-    def join(self, nodes, stand, part, side):
+    def combine(self, nodes, stand, part, side):
         """Take up the things of a main part and a side."""
         hall = stand.hall
         cases = hall.case_rows[side.beside]
         tables = [{} for _ in cases]
         turned = turned_with(hall, side, part)
-        for at, kept in enumerate(side.steady):
+        for at, kept in enumerate(list(side.steady)):
             row = [kept + main for main in part.mains]
             if side.beside > 0:
                 row = cheapest_of(row, [self._prices.reweigh + price for price in turned[at]])
@@ -163,8 +163,8 @@ def restated(cases, tables, number, price):
 def turned_with(hall, side, part):
     """For each side that all parts but one of a side make with one more, the prices of that one as main part."""
     out = [None for _ in hall.side_at[side.beside]]
-    for at, row in enumerate(side.turned):
-        for look, to in enumerate(hall.wider[side.beside - 1][at]):
+    for at, row in enumerate(list(side.turned)):
+        for look, to in enumerate(list(hall.wider[side.beside - 1][at])):
             out[to] = cheapest_of(out[to], [price + part.looks[look] for price in row])
     return out
 

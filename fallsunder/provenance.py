@@ -71,13 +71,13 @@ class Provenance(Ascent):
         self.run()
 
     def _begin(self):
-        for stand in self.stands:
+        for stand in list(self.stands):
             forms = [row[0] for row in stand.hall.room.taking.forms]
             results = {self._results[at]: True for at, kind in enumerate(self._kit.kinds) if kind.top in forms}
             for target in targets_of(self._rules, self.stock.lands, list(results)):
                 self._enter_side(0, stand, target, 0, ())
-        for number, kind in enumerate(self._kit.kinds):
-            for land in self.stock.lands if kind.top == "mix" else []:
+        for number, kind in enumerate(list(self._kit.kinds)):
+            for land in list(self.stock.lands) if kind.top == "mix" else []:
                 if not self.ended:
                     making = Making(("mix", land), (), kind.making[0], ())
                     self._take(1, number, (land, [land for _ in self._rules], [True for _ in self._rules]), making)
@@ -98,7 +98,7 @@ class Provenance(Ascent):
             self._met[key] = True
             self.makings.append(making)
             kind = self._kit.kinds[number]
-            for stand in self.stands:
+            for stand in list(self.stands):
                 if kind.top in stand.hall.takes:
                     hall = stand.hall
                     at = (hall.main_at[kind.record], hall.look_of(kind))
@@ -146,15 +146,16 @@ class Provenance(Ascent):
             self._met[key] = True
             self._enter_side(nodes, stand, side.target, at, rows)
 
-    def join(self, nodes, stand, part, side):
+    def combine(self, nodes, stand, part, side):
         """Take up the things of a main part and a side that have the results of the target."""
         signs = (self._sign_of(part, side.target), *[sign for sign, _ in side.rows])
         numbers = (part.number, *[number for _, number in side.rows])
         cases = stand.hall.case_rows[side.beside]
         for case, row in zip(cases, stand.hall.kinds_beside(side.beside, side.at)):
             kind = row[part.main_at]
-            for gained, weights, rows in self._outcomes_of(signs) if self._results[kind] == side.target.results else []:
-                for land in side.target.lands:
+            fits = self._results[kind] == side.target.results
+            for gained, weights, rows in list(self._outcomes_of(signs)) if fits else []:
+                for land in list(side.target.lands):
                     if not self.ended:
                         origins = [land if own else part.origins[k] for k, own in enumerate(gained)]
                         making = Making((*case, land), numbers, weights, rows)

@@ -90,7 +90,7 @@ class Sounding:
     def _hole_pairs(self, number):
         """For each bay of a floor pairs that join all parts that can be there: rows (layer, first, second)."""
         out = []
-        for bay in self._floors[number].bays:
+        for bay in list(self._floors[number].bays):
             mains = [main for rows in bay.taking.mains.values() for row in rows for main in row[3].values()]
             pairs = []
             for other in mains[1:]:
@@ -103,13 +103,13 @@ class Sounding:
         """For each bay of a floor the pairs that are told of its parts, rows (layer, root, asked, first, second)."""
         floor = self._floors[number]
         out = []
-        for bay in floor.bays:
+        for bay in list(floor.bays):
             unions = Unions()
             pairs = []
             for layer, root, asked, first, second in told:
                 if root in bay.taking.takes:
                     both = [narrowed_row(asked, floor.bench, *row) for row in (first, second)]
-                    if unions.join(both[0], both[1]):
+                    if unions.unite(both[0], both[1]):
                         pairs.append((layer, both[0], both[1]))
             out.append(pairs)
         return out
@@ -123,7 +123,7 @@ class Sounding:
             answers, cases, pack, numbers, holes = work
             starts = starts_by([self._roots.index(case[0]) for case in cases], len(pack.ids))
             for goods, tag, first, second in paired_rows(answers, starts, *floor.telling):
-                if unions.join((tag, first), (tag, second)):
+                if unions.unite((tag, first), (tag, second)):
                     self._layers.append(layer_at(goods, cases, pack, numbers, holes))
                     out.append((len(self._layers) - 1, self._roots[tag], floor.telling, first, second))
         return out
@@ -158,15 +158,24 @@ def main_works(floor, bay, pairs):
 
 def side_works(floor, bay, pairs):
     """The things with one of the pairs beside their main part."""
-    looks = Unions()
+    met = Unions()
     unions = Unions()
     for layer, first, second in pairs:
-        look = look_of_record(floor.bench, first)
-        other = look_of_record(floor.bench, second)
-        for many, sides in enumerate(bay.sides[:-1] if looks.join(look, other) else []):
-            cases = floor.cases(bay, many + 2)
-            for some, each, _, numbers in sides if cases else []:
-                both = [(some | look[0], each & look[1]), (some | other[0], each & other[1])]
-                for pack in list(bay.packs.values()) if unions.join((many, both[0]), (many, both[1])) else []:
-                    answers = [floor.bench.things(cases, many + 2, pack, one) for one in both]
-                    yield answers, cases, pack, numbers, (layer,)
+        looks = (look_of_record(floor.bench, first), look_of_record(floor.bench, second))
+        if met.unite(looks[0], looks[1]):
+            for many, some, each, numbers in rows_beside(floor, bay):
+                both = [(some | look[0], each & look[1]) for look in looks]
+                if unions.unite((many, both[0]), (many, both[1])):
+                    cases = floor.cases(bay, many + 2)
+                    for pack in list(bay.packs.values()):
+                        answers = [floor.bench.things(cases, many + 2, pack, one) for one in both]
+                        yield answers, cases, pack, numbers, (layer,)
+
+
+def rows_beside(floor, bay):
+    """The rows of parts beside a main part that leave room for one more: rows (their number, some, each, numbers)."""
+    out = []
+    for many, sides in enumerate(list(bay.sides[:-1])):
+        if floor.cases(bay, many + 2):
+            out.extend([(many, some, each, numbers) for some, each, _, numbers in sides])
+    return out

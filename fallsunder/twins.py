@@ -126,7 +126,7 @@ class Twins:
 
     def _join(self, kind, first, second):
         """Join two things of a kind; were they apart?"""
-        return self._unions.join((*kind, first), (*kind, second))
+        return self._unions.unite((*kind, first), (*kind, second))
 
     def _plan_sides(self, cost, where, layer, looks):
         """Plan the rows of parts beside the main one of which one is a pair with these looks."""

@@ -7,7 +7,7 @@ class Unions:
     def __init__(self):
         self._tops = {}
 
-    def join(self, first, second):
+    def unite(self, first, second):
         """Join two things; were they apart?"""
         tops = (self._stands_for(first), self._stands_for(second))
         if tops[0] == tops[1]:

@@ -45,7 +45,7 @@ class Weigher:
 
     def _factors_of(self, making):
         """By what the parts are multiplied."""
-        for number in making.parts:
+        for number in list(making.parts):
             if number not in self._loads:
                 self._weigh(number)
         loads = [self._loads[number] for number in making.parts]

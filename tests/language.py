@@ -19,7 +19,7 @@ LIBRARY = {
 }
 BUILTINS = set("""len range enumerate zip min max sum abs sorted reversed int str bool list tuple dict set isinstance
 ord repr any all divmod ValueError TypeError KeyError IndexError LookupError ZeroDivisionError iter next
-NotImplemented super property staticmethod""".split())
+NotImplemented NotImplementedError super property staticmethod""".split())
 METHODS = set("""append clear copy count endswith extend find get index insert isalnum isalpha isdigit islower isspace
 isupper items join keys ljust lower lstrip partition pop remove replace reverse rfind rjust rpartition rsplit rstrip
 setdefault split splitlines startswith strip update upper values zfill bit_length title capitalize removeprefix
