@@ -15,16 +15,21 @@ class Job:
 
 
 class Congruence:
-    """The classes of kinds: at first those with the same root and result, then they are parted as long as they can."""
+    """The classes of kinds: at first those with the same root and label, then they are parted as long as they can."""
 
-    def __init__(self, kit):
+    def __init__(self, kit, labels):
         self._kit = kit
         self._jobs = [self._jobs_of(room) for room in kit.rooms]
-        self._classes = numbered([(kind.top, kind.results) for kind in kit.kinds])
+        self._classes = numbered([(kind.top, label) for kind, label in zip(kit.kinds, labels)])
         many = 0
         while many < max(self._classes) + 1:
             many = max(self._classes) + 1
             self._classes = numbered(self._all_signs())
+
+    def least_of_all(self):
+        """For each kind the number of a least kind of its class."""
+        least = {}
+        return [least.setdefault(name, number) for number, name in enumerate(self._classes)]
 
     def least_kinds(self):
         """The number of a least kind of each class."""

@@ -8,6 +8,7 @@ from fallsunder.balances import multiples_near, weights_within
 from fallsunder.goods import sound_good
 from fallsunder.halls import halls_of
 from fallsunder.kits import Kit
+from fallsunder.quotients import Quotient
 
 
 class Offer:
@@ -19,66 +20,80 @@ class Offer:
         self.rates = rates
 
 
-class Thing:
-    """A thing of a case and a kind, with its main part and the other ones; finished is the rate in its best state."""
+class Stall:
+    """Things of a case with one rate: the bits of their main parts, and the Offers of parts beside them.
 
-    def __init__(self, case, kind, main, others, finished):
+    Mains are for each rate of a main part the Offers of such, rows (bit, Offer), the smallest first. Mates are rows
+    (rate, bits) for the same things in all states.
+    """
+
+    def __init__(self, case, rate, bits, sides):
         self.case = case
-        self.kind = kind
-        self.nodes = 1 + main.nodes + others.nodes
-        self.numbers = (*main.numbers, *others.numbers)
-        self.main_rate = main.rates[0]
-        self.other_rates = others.rates
-        self.finished = finished
+        self.rate = rate
+        self.bits = bits
+        self.sides = sides
+        self.mains = {}
+        self.mates = []
+
+
+class Thing:
+    """A thing that has a cheaper way, by a rate that its parts must stay below in the mean, None if it is finished."""
+
+    def __init__(self, case, main, side, limit):
+        self.case = case
+        self.nodes = 1 + main.nodes + side.nodes
+        self.numbers = (*main.numbers, *side.numbers)
+        self.rates = (*main.rates, *side.rates)
+        self.limit = limit
 
 
 class Counters:
     """All things that matter for the prices of a book's goods by some Rates."""
 
     def __init__(self, rates):
-        book = rates.book
-        self._kit = Kit([book])
-        self._forms = [row[0] for row in book.stock.forms]
-        prices = [*rates.price_rows(), *([] if rates.finishing is None else [rates.finishing])]
+        forms = [row[0] for row in rates.book.stock.forms]
         scale = 1
-        for price in prices:
+        for price in [*rates.price_rows(), *([] if rates.finishing is None else [rates.finishing])]:
             scale = lcm(scale, price.bottom)
         self.scale = scale
-        results = {kind.results[0]: True for kind in self._kit.kinds}
-        self._rates = {name: scaled(rates[name], scale) for name in results}
-        self._joins = {form: scaled(rates.join_price(form), scale) for form in self._forms}
+        kit = Kit([rates.book])
+        self._rates = {name: scaled(rates[name], scale) for name in {kind.results[0]: True for kind in kit.kinds}}
+        self._kit = Quotient(kit, [self._rates[kind.results[0]] for kind in kit.kinds])
+        self._joins = {form: scaled(rates.join_price(form), scale) for form in forms}
         self._finishing = None if rates.finishing is None else scaled(rates.finishing, scale)
 
-    def rate_of(self, kind):
-        """The rate of the goods of a kind."""
-        return self._rates[self._kit.kinds[kind].results[0]]
-
-    def all_things(self):
-        """All things that may be the least that have a cheaper way."""
+    def all_stalls(self):
+        """All Stalls."""
         for hall in halls_of(self._kit):
-            offers = self._offers_in(hall)
+            mains = self._mains_in(hall)
             for beside, table in enumerate(self._sides_in(hall)):
                 for at, sides in list(table.items()) if hall.case_rows[beside] else []:
-                    yield from self._things_beside(hall, beside, at, sides, offers)
+                    for stall in self._stalls_beside(hall, beside, at, sides):
+                        stall.mains = mains
+                        yield stall
 
-    def _things_beside(self, hall, beside, at, sides, offers):
-        """The things with one of these rows of parts beside a main part."""
+    def _stalls_beside(self, hall, beside, at, sides):
+        """The Stalls with these Offers beside a main part."""
         cases = hall.case_rows[beside]
-        for spot, mains in offers.items():
-            kinds = [row[spot] for row in hall.kinds_beside(beside, at)]
-            for case, kind in zip(cases, kinds):
-                mates = [self.rate_of(mate) for other, mate in zip(cases, kinds) if other[0] == case[0]]
-                for main in mains:
-                    for side in sides:
-                        yield Thing(case, kind, main, side, min(mates))
+        wide = len(hall.room.mains)
+        stalls = []
+        for goods, result in self._kit.results_beside(hall.room, beside, hall.room.sides[beside][at]):
+            for k, case in enumerate(cases):
+                bits = goods >> k * wide & (1 << wide) - 1
+                if bits:
+                    stalls.append(Stall(case, self._rates[result], bits, sides))
+        for stall in list(stalls):
+            stall.mates = [(mate.rate, mate.bits) for mate in stalls if mate.case[0] == stall.case[0]]
+        return stalls
 
-    def _offers_in(self, hall):
-        """For each main part of a hall the Offers of one part that may matter."""
+    def _mains_in(self, hall):
+        """For each rate the Offers of single parts with this rate, rows (bit as a main part, Offer), by their nodes."""
         out = {}
         for number, kind in enumerate(self._kit.kinds):
             if kind.top in hall.takes:
-                spot = hall.main_at[kind.record]
-                out[spot] = with_offer(out.get(spot, []), Offer(kind.nodes, (number,), (self.rate_of(number),)))
+                rate = self._rates[kind.results[0]]
+                offer = Offer(kind.nodes, (number,), (rate,))
+                out[rate] = [*out.get(rate, []), (1 << hall.main_at[kind.record], offer)]
         return out
 
     def _sides_in(self, hall):
@@ -87,7 +102,8 @@ class Counters:
         for number, kind in enumerate(self._kit.kinds):
             if kind.top in hall.takes:
                 look = hall.look_of(kind)
-                looks[look] = with_offer(looks.get(look, []), Offer(kind.nodes, (number,), (self.rate_of(number),)))
+                offer = Offer(kind.nodes, (number,), (self._rates[kind.results[0]],))
+                looks[look] = with_offer(looks.get(look, []), offer)
         tables = [{0: [Offer(0, (), ())]}]
         for beside in range(hall.reach):
             table = {}
@@ -100,21 +116,27 @@ class Counters:
             tables.append(table)
         return tables
 
-    def is_cheaper(self, thing):
-        """Has a thing, its parts having weights that suit, a cheaper way than to be brought in as it is?"""
-        rate = self.rate_of(thing.kind)
-        if self._finishing is not None and thing.finished + self._finishing < rate:
-            return True
-        total, many = average_of(thing.main_rate, thing.other_rates)
-        return total + self._joins[thing.case[0]] * many < rate * many
+    def cheaper_things(self, stall):
+        """The Things of a Stall that have a cheaper way, some of them: a smallest one is among them."""
+        out = []
+        if self._finishing is not None:
+            for rate, bits in stall.mates:
+                if rate + self._finishing < stall.rate and bits & stall.bits:
+                    main = smallest(list(stall.mains.values()), bits & stall.bits)
+                    out.extend([Thing(stall.case, main, side, None) for side in stall.sides])
+        limit = stall.rate - self._joins[stall.case[0]]
+        for rate, mains in stall.mains.items():
+            fitting = [side for side in stall.sides if is_below(rate, side.rates, limit)]
+            main = smallest([mains], stall.bits) if fitting else None
+            if main is not None:
+                out.extend([Thing(stall.case, main, side, limit) for side in fitting])
+        return out
 
     def good_of(self, thing):
-        """The Good of a thing that has a cheaper way."""
-        rate = self.rate_of(thing.kind)
+        """The Good of a Thing that has a cheaper way."""
         rows = []
-        if self._finishing is None or thing.finished + self._finishing >= rate:
-            limit = rate - self._joins[thing.case[0]]
-            rows = [(tuple([price - limit for price in (thing.main_rate, *thing.other_rates)]), True)]
+        if thing.limit is not None:
+            rows = [(tuple([rate - thing.limit for rate in thing.rates]), True)]
         goods = [self._kit.good_of(number) for number in thing.numbers]
         factors = multiples_near([good.weight for good in goods], weights_within(rows, len(goods)), rows)
         parts = tuple([(good * factor).plain for good, factor in zip(goods, factors)])
@@ -126,8 +148,18 @@ def scaled(ratio, scale):
     return ratio.top * (scale // ratio.bottom)
 
 
+def smallest(tables, bits):
+    """The smallest Offer whose bit is among some bits, from tables of rows (bit, Offer), None if there is none."""
+    least = None
+    for rows in tables:
+        found = [offer for bit, offer in rows if bit & bits]
+        if found and (least is None or found[0].nodes < least.nodes):
+            least = found[0]
+    return least
+
+
 def average_of(main_rate, other_rates):
-    """The least that a gram of the parts can cost, or come near to: rows (sum of rates, their number).
+    """The least that a gram of the parts can cost, or come near to: (sum of rates, their number).
 
     No part is heavier than the main one, so that parts with lesser rates are as heavy as it is, and others very light.
     """
@@ -138,6 +170,12 @@ def average_of(main_rate, other_rates):
             total = total + rate
             many = many + 1
     return (total, many)
+
+
+def is_below(main_rate, other_rates, limit):
+    """Can a gram of the parts cost less than the limit?"""
+    total, many = average_of(main_rate, other_rates)
+    return total < limit * many
 
 
 def joined_offer(side, part):

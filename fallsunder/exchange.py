@@ -89,4 +89,5 @@ def is_multiple(good, other):
 def full_set(book):
     """Goods of which no two with the same root are exchangeable, one for each good of the stock."""
     kit = Kit([book])
-    return tuple([kit.good_of(number) for number in Congruence(kit).least_kinds()])
+    labels = [kind.results for kind in kit.kinds]
+    return tuple([kit.good_of(number) for number in Congruence(kit, labels).least_kinds()])

@@ -3,6 +3,7 @@
 from fallsunder.errors import NoHeading
 from fallsunder.kits import Kit
 from fallsunder.pricing import Pricing
+from fallsunder.quotients import Quotient
 
 
 def far_price(book, leaf, heading, prices):
@@ -11,7 +12,10 @@ def far_price(book, leaf, heading, prices):
         raise NoHeading(leaf)
     if heading not in book:
         raise NoHeading(heading)
-    pricing = Pricing(Kit([book]), leaf, book.beneath(heading), prices)
+    wanted = book.beneath(heading)
+    kit = Kit([book])
+    labels = [(kind.results[0] == leaf, kind.results[0] in wanted) for kind in kit.kinds]
+    pricing = Pricing(Quotient(kit, labels), leaf, wanted, prices)
     if pricing.best is None:
         return None
     return (pricing.best[0], pricing.good_of_best())

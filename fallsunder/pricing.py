@@ -8,10 +8,11 @@ other one, and that has no more nodes, stands for both: with it no good needs le
 from fallsunder.ascents import Ascent
 from fallsunder.growing import Grower
 from fallsunder.halls import halls_of
+from fallsunder.tariffs import is_as_dear, least_price, lesser, raised, tariff_of
 
 
 class Priced:
-    """A part in a hall: its numbers there, and the price for which it is each main part and each look."""
+    """A part in a hall: its numbers there, its tariff as a main part, and the price of each look."""
 
     def __init__(self, number, nodes, at, mains, looks):
         self.number = number
@@ -25,15 +26,16 @@ class PricedSide:
     """Parts beside a main part: the number of their side, and prices.
 
     Steady is the price for each side that they can be changed into. Turned is, for each side of all but one of them,
-    the price for which that one is each main part.
+    the tariff of that one as the main part.
     """
 
-    def __init__(self, beside, nodes, at, numbers, prices):
-        self.beside = beside
+    def __init__(self, nodes, at, numbers, steady, turned):
+        self.beside = len(numbers)
         self.nodes = nodes
         self.at = at
         self.numbers = numbers
-        self.steady, self.turned = prices
+        self.steady = steady
+        self.turned = turned
 
 
 class Pricing(Ascent):
@@ -51,57 +53,54 @@ class Pricing(Ascent):
         self._leaf = leaf
         self._wanted = [kind.results[0] in wanted for kind in kit.kinds]
         self._prices = prices
-        self._tables = {}
-        self._sides = {}
-        self._entered = {}
+        self._known = {}
+        self._hits = {}
         self.ended = leaf not in [kind.results[0] for kind in kit.kinds]
         for stand in list(self.stands):
-            side = PricedSide(0, 0, 0, (), ((0,), ()))
-            self.put_side(stand, side)
+            self.put_side(stand, PricedSide(0, 0, (), [0], []))
         for number, kind in enumerate(list(kit.kinds)):
             if kind.top == "mix" and not self.ended:
-                self._take(1, number, {number: 0}, kind.making)
+                price = 0 if self._wanted[number] else None
+                self._take(1, number, {number: 0} if prices.exchange > 0 else {}, price, kind.making)
         self.run()
 
     def good_of_best(self):
         """The good that needs the greatest price."""
         return Grower(self).good_of(self.best[1])
 
-    def _take(self, nodes, number, table, making):
-        """Take up a good of a kind that can be changed into the kinds of a table."""
-        if self._kit.kinds[number].results[0] == self._leaf:
-            ways = [price for kind, price in table.items() if self._wanted[kind]]
-            price = min(ways) if ways else None
+    def _take(self, nodes, number, cheap, price, making):
+        """Take up a good of a kind that needs a price, with the kinds that it can be changed into cheaply."""
+        kind = self._kit.kinds[number]
+        if kind.results[0] == self._leaf:
             if price is None or self.best is None or price > self.best[0]:
                 self.best = (price, making)
             # where the leaf itself is wanted, no good needs anything
             self.ended = price is None or self._wanted[number]
-        limit = self._prices.exchange
-        cheap = {kind: price for kind, price in table.items() if price < limit}
-        known = self._tables.setdefault(number, [])
-        if not any([is_dearer(other, cheap, limit) for other in known]):
+        known = self._known.setdefault(("kind", number), [])
+        if not any([is_dearer(other, cheap, self._prices.exchange) for other in known]):
             known.append(cheap)
             self.makings.append((nodes, making))
             for stand in list(self.stands):
-                if self._kit.kinds[number].top in stand.hall.takes:
+                if kind.top in stand.hall.takes:
                     self._enter(stand, self._priced(stand.hall, nodes, number, cheap))
 
     def _enter(self, stand, part):
         """Put a part into a hall, unless one is there that stands for it."""
-        known = self._entered.setdefault((stand.number, part.main_at, part.look_at), [])
+        known = self._known.setdefault(("part", stand.number, part.main_at, part.look_at), [])
         if not any([is_as_dear(other, part.mains) for other in known]):
             known.append(part.mains)
             self.put_part(stand, part)
 
     def _priced(self, hall, nodes, number, cheap):
+        """A part as it is in a hall."""
         limit = self._prices.exchange
-        mains = [limit for _ in hall.main_at]
         looks = [limit for _ in hall.look_at]
+        rows = [(limit, (1 << len(hall.main_at)) - 1)]
         for kind, price in cheap.items():
             main, look = self._spot_of(hall, kind)
-            mains[main] = min(mains[main], price)
+            rows.append((price, 1 << main))
             looks[look] = min(looks[look], price)
-        return Priced(len(self.makings) - 1, nodes, self._spot_of(hall, number), mains, looks)
+        return Priced(len(self.makings) - 1, nodes, self._spot_of(hall, number), tariff_of(rows), looks)
 
     def _spot_of(self, hall, kind):
         """The numbers of a kind as a main part and as a look."""
@@ -111,69 +110,93 @@ class Pricing(Ascent):
     def widen(self, nodes, stand, part, side):
         """Take up the side with one more part, unless one is known that stands for it."""
         hall = stand.hall
-        kept = [None for _ in hall.side_at[side.beside + 1]]
+        steady = [None for _ in hall.side_at[side.beside + 1]]
         for at, price in enumerate(list(side.steady)):
             for look, to in enumerate(list(hall.wider[side.beside][at])):
-                both = price + part.looks[look]
-                if kept[to] is None or both < kept[to]:
-                    kept[to] = both
-        turned = turned_with(hall, side, part)
-        for at, price in enumerate(list(side.steady)):
-            turned[at] = cheapest_of(turned[at], [price + main for main in part.mains])
+                steady[to] = lesser(steady[to], price + part.looks[look])
+        rows = turned_rows(hall, side, part)
+        turned = [tariff_of([*rows[at], *raised(part.mains, price)]) for at, price in enumerate(side.steady)]
         at = hall.wider[side.beside][side.at][part.look_at]
-        known = self._sides.setdefault((stand.number, side.beside + 1, at), [])
-        flat = [*kept, *[price for row in turned for price in row]]
-        if not any([is_as_dear(other, flat) for other in known]):
-            known.append(flat)
-            numbers = (*side.numbers, part.number)
-            self.put_side(stand, PricedSide(side.beside + 1, nodes, at, numbers, (kept, turned)))
+        known = self._known.setdefault(("side", stand.number, side.beside + 1, at), [])
+        new = PricedSide(nodes, at, (*side.numbers, part.number), steady, turned)
+        if not any([is_dearer_side(other, new) for other in known]):
+            known.append(new)
+            self.put_side(stand, new)
 
     def combine(self, nodes, stand, part, side):
         """Take up the things of a main part and a side."""
         hall = stand.hall
+        rows = turned_rows(hall, side, part)
+        tariffs = []
+        for at, price in enumerate(list(side.steady)):
+            tariffs.append(tariff_of([*raised(part.mains, price), *raised(rows[at], self._prices.reweigh)]))
         cases = hall.case_rows[side.beside]
-        tables = [{} for _ in cases]
-        turned = turned_with(hall, side, part)
-        for at, kept in enumerate(list(side.steady)):
-            row = [kept + main for main in part.mains]
-            if side.beside > 0:
-                row = cheapest_of(row, [self._prices.reweigh + price for price in turned[at]])
-            for table, kinds in zip(tables, hall.kinds_beside(side.beside, at)):
-                for kind, price in zip(kinds, row):
-                    if kind not in table or price < table[kind]:
-                        table[kind] = price
+        tables = self._cheap_tables(hall, side.beside, tariffs)
         own = [kinds[part.main_at] for kinds in hall.kinds_beside(side.beside, side.at)]
+        leads = [None for _ in cases]
+        if self._leaf in [self._kit.kinds[kind].results[0] for kind in own]:
+            leads = [self._lead_of(stand, side.beside, tariffs, k) for k in range(len(cases))]
         for number, case in enumerate(cases):
             if not self.ended:
-                table = restated(cases, tables, number, self._prices.restate)
-                self._take(nodes, own[number], table, (*case, part.number, side.numbers))
+                cheap = dict(tables[number])
+                price = leads[number]
+                for mate, table, lead in zip(cases, tables, leads):
+                    if mate[0] == case[0]:
+                        self._take_restated(cheap, table)
+                        price = lesser(price, None if lead is None else lead + self._prices.restate)
+                self._take(nodes, own[number], cheap, price, (*case, part.number, side.numbers))
+
+    def _take_restated(self, cheap, table):
+        """Take up the kinds that a thing can be changed into cheaply once it is restated."""
+        for kind, first in table.items():
+            price = first + self._prices.restate
+            if price < self._prices.exchange and (kind not in cheap or price < cheap[kind]):
+                cheap[kind] = price
+
+    def _cheap_tables(self, hall, beside, tariffs):
+        """For each case the kinds that cost less than an exchange, with their prices."""
+        tables = [{} for _ in hall.case_rows[beside]]
+        for at, tariff in enumerate(tariffs):
+            for price, bits in tariff:
+                spots = numbers_of(bits) if price < self._prices.exchange else []
+                for table, kinds in list(zip(tables, hall.kinds_beside(beside, at))) if spots else []:
+                    for spot in spots:
+                        table[kinds[spot]] = min(price, table.get(kinds[spot], price))
+        return tables
+
+    def _lead_of(self, stand, beside, tariffs, number):
+        """The least price of a kind of a case that has a wanted result, None if there is none."""
+        least = None
+        for at, tariff in enumerate(tariffs):
+            least = lesser(least, least_price(tariff, self._hits_at(stand, beside, at)[number]))
+        return least
+
+    def _hits_at(self, stand, beside, at):
+        """For each case the main parts with which things beside a side have a wanted result."""
+        key = (stand.number, beside, at)
+        if key not in self._hits:
+            rows = stand.hall.kinds_beside(beside, at)
+            self._hits[key] = [sum([1 << k for k, kind in enumerate(kinds) if self._wanted[kind]]) for kinds in rows]
+        return self._hits[key]
 
 
-def restated(cases, tables, number, price):
-    """The prices for which a thing of one of the cases becomes each kind, its state being changed where that helps."""
-    out = dict(tables[number])
-    for case, table in zip(cases, tables):
-        if case[0] == cases[number][0]:
-            for kind, first in table.items():
-                if kind not in out or first + price < out[kind]:
-                    out[kind] = first + price
-    return out
-
-
-def turned_with(hall, side, part):
-    """For each side that all parts but one of a side make with one more, the prices of that one as main part."""
-    out = [None for _ in hall.side_at[side.beside]]
-    for at, row in enumerate(list(side.turned)):
+def turned_rows(hall, side, part):
+    """For each side that all parts but one of a side make with one more, rows (price, bits) for that one as main."""
+    rows = [[] for _ in hall.side_at[side.beside]]
+    for at, tariff in enumerate(list(side.turned)):
         for look, to in enumerate(list(hall.wider[side.beside - 1][at])):
-            out[to] = cheapest_of(out[to], [price + part.looks[look] for price in row])
+            rows[to].extend(raised(tariff, part.looks[look]))
+    return rows
+
+
+def numbers_of(bits):
+    """The numbers of the bits that are set."""
+    out = []
+    while bits:
+        low = bits & -bits
+        out.append(low.bit_length() - 1)
+        bits = bits ^ low
     return out
-
-
-def cheapest_of(row, other):
-    """The lesser one of each two prices; the first row may be None."""
-    if row is None:
-        return other
-    return [price if price < another else another for price, another in zip(row, other)]
 
 
 def is_dearer(known, cheap, limit):
@@ -181,6 +204,8 @@ def is_dearer(known, cheap, limit):
     return all([cheap.get(kind, limit) <= price for kind, price in known.items()])
 
 
-def is_as_dear(known, prices):
-    """Is each known price at least as great as the other one?"""
-    return all([other <= price for price, other in zip(known, prices)])
+def is_dearer_side(known, side):
+    """Is each price of a known side at least as great as that of another one?"""
+    if not all([price >= other for price, other in zip(known.steady, side.steady)]):
+        return False
+    return all([is_as_dear(tariff, other) for tariff, other in zip(known.turned, side.turned)])

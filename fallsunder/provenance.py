@@ -9,6 +9,7 @@ from fallsunder.ascents import Ascent
 from fallsunder.balances import weights_within
 from fallsunder.halls import halls_of
 from fallsunder.kits import Kit
+from fallsunder.quotients import quotient_by_results
 from fallsunder.weighing import Making
 
 
@@ -16,6 +17,7 @@ class Target:
     """Results of a thing by each rule, and lands whose things have the same parts that stay."""
 
     def __init__(self, results, heads, lands):
+        self.number = -1
         self.results = results
         self.heads = heads
         self.lands = lands
@@ -37,6 +39,7 @@ class SourcedSide:
 
     def __init__(self, name, nodes, target, at, rows):
         self.name = name
+        self.signs = tuple([sign for sign, _ in rows])
         self.beside = len(rows)
         self.nodes = nodes
         self.target = target
@@ -53,7 +56,7 @@ class Provenance(Ascent):
 
     def __init__(self, rules, sought):
         books = [rules[0].book] if rules[0].book == rules[len(rules) - 1].book else [rule.book for rule in rules]
-        kit = Kit(books)
+        kit = quotient_by_results(Kit(books))
         super().__init__(halls_of(kit))
         self.stock = kit.stock
         self.makings = []
@@ -66,6 +69,9 @@ class Provenance(Ascent):
         self._all_zero = all([rule.tolerance.top == 0 for rule in rules])
         self._outcomes = {}
         self._met = {}
+        self._targets = []
+        self._signs = {}
+        self._spots = {}
         self._sides = 0
         self._begin()
         self.run()
@@ -75,6 +81,8 @@ class Provenance(Ascent):
             forms = [row[0] for row in stand.hall.room.taking.forms]
             results = {self._results[at]: True for at, kind in enumerate(self._kit.kinds) if kind.top in forms}
             for target in targets_of(self._rules, self.stock.lands, list(results)):
+                target.number = len(self._targets)
+                self._targets.append(target)
                 self._enter_side(0, stand, target, 0, ())
         for number, kind in enumerate(list(self._kit.kinds)):
             for land in list(self.stock.lands) if kind.top == "mix" else []:
@@ -111,20 +119,46 @@ class Provenance(Ascent):
 
     def _sign_of(self, part, target):
         """A bit for each rule by which the part stays in things of a target."""
-        sign = 0
-        for k, rule in enumerate(self._rules):
-            if part.results[k] == target.results[k] and rule.head_of_land(part.origins[k]) != target.heads[k]:
-                sign = sign | 1 << k
-        return sign
+        key = (part.number, target.number)
+        if key not in self._signs:
+            sign = 0
+            for k, rule in enumerate(self._rules):
+                if part.results[k] == target.results[k] and rule.head_of_land(part.origins[k]) != target.heads[k]:
+                    sign = sign | 1 << k
+            self._signs[key] = sign
+        return self._signs[key]
 
     def may_join(self, stand, part, side):
-        """Does a case give the results of the target, and is it not so with a smaller part that is as good?"""
-        key = ("main", side.name, part.main_at, self._sign_of(part, side.target), part.origins)
+        """Does a case give the results of the target, and is it not so with parts that are as good and no larger?"""
+        if side.target.results not in self._results_at(stand, side)[part.main_at]:
+            return False
+        sign = self._sign_of(part, side.target)
+        key = ("main", side.name, part.main_at, sign, part.origins)
         if key in self._met:
             return False
         self._met[key] = True
-        kinds = [row[part.main_at] for row in stand.hall.kinds_beside(side.beside, side.at)]
-        return side.target.results in [self._results[kind] for kind in kinds]
+        return self._fresh_cases(stand, part, side) != []
+
+    def _results_at(self, stand, side):
+        """For each main part the results of the things that it makes with parts like these beside it."""
+        key = (stand.number, side.beside, side.at)
+        if key not in self._spots:
+            rows = stand.hall.kinds_beside(side.beside, side.at)
+            self._spots[key] = [[self._results[kind] for kind in kinds] for kinds in zip(*rows)]
+            if not rows:
+                self._spots[key] = [[] for _ in stand.hall.main_at]
+        return self._spots[key]
+
+    def _fresh_cases(self, stand, part, side):
+        """Rows (case, kind, key) of the things with the results of the target that may bring something new."""
+        sign = self._sign_of(part, side.target)
+        out = []
+        for case, row in zip(stand.hall.case_rows[side.beside], stand.hall.kinds_beside(side.beside, side.at)):
+            kind = row[part.main_at]
+            key = ("thing", kind, sign, side.signs, side.target.heads, part.origins)
+            if self._results[kind] == side.target.results and key not in self._met:
+                out.append((case, kind, key))
+        return out
 
     def may_widen(self, stand, part, side):
         """May one more part stand there, and is it not so with a smaller one that is as good?"""
@@ -141,20 +175,19 @@ class Provenance(Ascent):
         signs = [sign for sign, _ in rows]
         # where nothing is tolerated, it matters alone whether some part stays
         shown = joined_bits(signs) if self._all_zero else tuple(signs)
-        key = ("side", stand.number, side.target.results, side.target.heads, len(rows), at, shown)
+        key = ("side", side.target.number, len(rows), at, shown)
         if key not in self._met:
             self._met[key] = True
             self._enter_side(nodes, stand, side.target, at, rows)
 
     def combine(self, nodes, stand, part, side):
         """Take up the things of a main part and a side that have the results of the target."""
-        signs = (self._sign_of(part, side.target), *[sign for sign, _ in side.rows])
+        signs = (self._sign_of(part, side.target), *side.signs)
         numbers = (part.number, *[number for _, number in side.rows])
-        cases = stand.hall.case_rows[side.beside]
-        for case, row in zip(cases, stand.hall.kinds_beside(side.beside, side.at)):
-            kind = row[part.main_at]
-            fits = self._results[kind] == side.target.results
-            for gained, weights, rows in list(self._outcomes_of(signs)) if fits else []:
+        for case, kind, key in self._fresh_cases(stand, part, side):
+            # whatever is of this kind later on, with such parts, brings nothing new
+            self._met[key] = True
+            for gained, weights, rows in list(self._outcomes_of(signs)):
                 for land in list(side.target.lands):
                     if not self.ended:
                         origins = [land if own else part.origins[k] for k, own in enumerate(gained)]

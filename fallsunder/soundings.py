@@ -7,7 +7,7 @@ two of a pair are joined; a pair of those that are joined already, by way of oth
 
 from fallsunder.benches import look_of_record, paired_rows, starts_by
 from fallsunder.desks import Desk
-from fallsunder.floors import floors_of
+from fallsunder.floors import floors_of, main_pack
 from fallsunder.growing import Grower
 from fallsunder.slimming import SlimSheet
 from fallsunder.stages import narrowed_row
@@ -34,6 +34,8 @@ class Sounding:
         self._survey = survey
         self._grower = Grower(survey)
         self._floors = floors_of(survey.stages)
+        # for each bay of each floor all main parts in one Pack
+        self._packs = [[main_pack(floor.bench, rows_of_mains(bay)) for bay in floor.bays] for floor in self._floors]
         self._roots = ["mix", *[row[0] for row in book.stock.forms]]
         self._layers = []
 
@@ -91,7 +93,7 @@ class Sounding:
         """For each bay of a floor pairs that join all parts that can be there: rows (layer, first, second)."""
         out = []
         for bay in list(self._floors[number].bays):
-            mains = [main for rows in bay.taking.mains.values() for row in rows for main in row[3].values()]
+            mains = [main for row in rows_of_mains(bay) for main in row[3].values()]
             pairs = []
             for other in mains[1:]:
                 self._layers.append(Hole(mains[0][0], other[0]))
@@ -121,8 +123,10 @@ class Sounding:
         out = []
         for work in self._works(number, pairs):
             answers, cases, pack, numbers, holes = work
-            starts = starts_by([self._roots.index(case[0]) for case in cases], len(pack.ids))
-            for goods, tag, first, second in paired_rows(answers, starts, *floor.telling):
+            apart = goods_apart(answers, *floor.telling)
+            starts = starts_by([self._roots.index(case[0]) for case in cases], len(pack.ids)) if apart else []
+            starts = [(goods & apart, tag) for goods, tag in starts if goods & apart]
+            for goods, tag, first, second in paired_rows(answers, starts, *floor.telling) if starts else []:
                 if unions.unite((tag, first), (tag, second)):
                     self._layers.append(layer_at(goods, cases, pack, numbers, holes))
                     out.append((len(self._layers) - 1, self._roots[tag], floor.telling, first, second))
@@ -139,10 +143,26 @@ class Sounding:
     def _works(self, number, pairs):
         """All things around pairs on a floor: rows (answers for the first and the second ones, cases, pack, ..)."""
         floor = self._floors[number]
-        for bay, mine in zip(floor.bays, pairs):
+        for bay, pack, mine in zip(floor.bays, self._packs[number], pairs):
             if mine:
                 yield from main_works(floor, bay, mine)
-                yield from side_works(floor, bay, mine)
+                yield from side_works(floor, bay, pack, mine)
+
+
+def rows_of_mains(bay):
+    """The rows of all main parts that its Taking keeps."""
+    return [row for rows in bay.taking.mains.values() for row in rows]
+
+
+def goods_apart(answers, cells, owners):
+    """The goods that two Answers tell apart by some cells or by the results for some owners."""
+    first, second = answers
+    out = 0
+    for cell in cells:
+        out = out | (first.worths[cell] ^ second.worths[cell])
+    for owner in owners:
+        out = out | parting_bits(first.groups[owner], second.groups[owner])
+    return out
 
 
 def main_works(floor, bay, pairs):
@@ -156,7 +176,7 @@ def main_works(floor, bay, pairs):
             yield answers, cases, pack, numbers, ()
 
 
-def side_works(floor, bay, pairs):
+def side_works(floor, bay, pack, pairs):
     """The things with one of the pairs beside their main part."""
     met = Unions()
     unions = Unions()
@@ -167,9 +187,8 @@ def side_works(floor, bay, pairs):
                 both = [(some | look[0], each & look[1]) for look in looks]
                 if unions.unite((many, both[0]), (many, both[1])):
                     cases = floor.cases(bay, many + 2)
-                    for pack in list(bay.packs.values()):
-                        answers = [floor.bench.things(cases, many + 2, pack, one) for one in both]
-                        yield answers, cases, pack, numbers, (layer,)
+                    answers = [floor.bench.things(cases, many + 2, pack, one) for one in both]
+                    yield answers, cases, pack, numbers, (layer,)
 
 
 def rows_beside(floor, bay):
