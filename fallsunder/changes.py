@@ -28,7 +28,7 @@ def least_change(book, good, heading, prices):
         return Change(0, good, ())
     sheet = SlimSheet()
     levels = Levels(book.stock, sheet, {0: Desk(sheet, 0, book)}, ((), (0,)))
-    changer = Changer(levels, good, prices)
+    changer = Changer(levels, good, prices, False)
     best = None
     for (_, results), filling in changer.tables[0].items():
         if results[0] in leaves and (best is None or filling.cost < best.cost):

@@ -24,12 +24,14 @@ class Exchange:
 class Changer:
     """The tables of the nodes of a good: for each record a Filling whose cost is the least price.
 
-    The maker of a Filling is an Exchange, `()` for a mix, or `(state, number of the main part)` for a thing.
+    The maker of a Filling is an Exchange, `()` for a mix, or `(state, number of the main part)` for a thing. If the
+    tables of parts need not be whole, what costs as much as an exchange of the part is left out.
     """
 
-    def __init__(self, levels, good, prices):
+    def __init__(self, levels, good, prices, are_whole):
         self._levels = levels
         self._prices = prices
+        self._are_whole = are_whole
         self._surveys = {}
         self._offers = {}
         self._known = {}
@@ -115,22 +117,33 @@ class Changer:
     def _take_mains(self, out, node, depth, needs, main):
         """Take up the things whose main part has this number."""
         bench = self._levels.bench_at(depth)
-        asked = self._levels.asked_at(depth)
         turned = 0 if main == node.main else self._prices.reweigh
         others = [state for state in self._levels.stock.states if state != node.state]
         pack = MainPack(bench, needs[main])
         turns = [([(node.root, node.state)], turned)]
         if others:
             turns.append(([(node.root, state) for state in others], turned + self._prices.restate))
-        for side, row in sides_beside(bench, needs, (main,)).items():
+        sides = [(cost_of(row), side, row) for side, row in sides_beside(bench, needs, (main,)).items()]
+        for cost, side, row in sorted(sides, key=lambda entry: entry[0]):
             for cases, price in turns:
-                answers = bench.things(cases, len(needs), pack.pack, side)
-                for goods, bits, results in parted_answers(answers, [(answers.full, 0)], asked[0], asked[1]):
+                least = cost + price + pack.fillings[0].cost
+                for goods, bits, results in self._rows_above(out, depth, least, (cases, pack, side, len(needs))):
                     case, at = pack.least_of(goods)
-                    cost = price + pack.fillings[at].cost + cost_of(row)
-                    if (bits, results) not in out or out[(bits, results)].cost > cost:
+                    total = cost + price + pack.fillings[at].cost
+                    if (bits, results) not in out or out[(bits, results)].cost > total:
                         below = (*row[:main], pack.fillings[at], *row[main:])
-                        out[(bits, results)] = Filling(cost, (cases[case][1], main), below)
+                        out[(bits, results)] = Filling(total, (cases[case][1], main), below)
+
+    def _rows_above(self, out, depth, least, things):
+        """The rows (goods, bits, results) of things that cost at least this, for which a table tells no such price."""
+        if depth > 0 and not self._are_whole and least >= max(1, self._prices.exchange):
+            return []
+        bench = self._levels.bench_at(depth)
+        cells, owners = self._levels.asked_at(depth)
+        cases, pack, side, many = things
+        answers = bench.things(cases, many, pack.pack, side)
+        rows = parted_answers(answers, [(answers.full, 0)], cells, owners)
+        return [row for row in rows if row[1:] not in out or out[row[1:]].cost > least]
 
 
 def changed(changer, filling):

@@ -38,7 +38,7 @@ def price_table(book, good, prices):
         raise OtherStock(1)
     watch = Watch(book.stock, [book], Sheet())
     cells = mark_cells(watch)
-    changer = Changer(EvenLevels(book.stock, watch.sheet, watch.desks, (cells, (0,))), good, prices)
+    changer = Changer(EvenLevels(book.stock, watch.sheet, watch.desks, (cells, (0,))), good, prices, True)
     out = []
     for place, node, table in zip(changer.spots, changer.nodes, changer.tables):
         rows = [(kind_row((node.root, *record), len(cells)), filling.cost) for record, filling in table.items()]
