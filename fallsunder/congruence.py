@@ -15,7 +15,10 @@ class Job:
 
 
 class Congruence:
-    """The classes of kinds: at first those with the same root and label, then they are parted as long as they can."""
+    """The classes of kinds: at first those with the same root and label, then they are parted as long as they can.
+
+    Numbers behind those of the kinds stand for what else things are told as, and are classes of their own.
+    """
 
     def __init__(self, kit, labels):
         self._kit = kit
@@ -66,7 +69,7 @@ class Congruence:
         """For each class the things of a job that are in it, ascending by the classes."""
         out = {}
         for goods, number in job.groups:
-            name = self._classes[number]
+            name = self._classes[number] if number < len(self._classes) else len(self._classes) - 1 - number
             out[name] = out.get(name, 0) | goods
         return tuple([(name, out[name]) for name in sorted(out)])
 

@@ -5,10 +5,16 @@ Rates and prices are told as integers, all multiplied by one scale.
 
 from math import lcm
 from fallsunder.balances import multiples_near, weights_within
+from fallsunder.books import RESULTS
+from fallsunder.desks import Desk
+from fallsunder.excerpts import bench_for
 from fallsunder.goods import sound_good
+from fallsunder.growing import Grower
 from fallsunder.halls import halls_of
-from fallsunder.kits import Kit
-from fallsunder.quotients import Quotient
+from fallsunder.kits import Kind
+from fallsunder.slimming import SlimSheet
+from fallsunder.stories import Story
+from fallsunder.surveys import Survey
 
 
 class Offer:
@@ -47,6 +53,18 @@ class Thing:
         self.limit = limit
 
 
+def story_of_parts(book):
+    """The Story of the parts of goods, whose kinds tell the results of the parts, too, and a Grower for these."""
+    sheet = SlimSheet()
+    desks = {0: Desk(sheet, 0, book)}
+    bench = bench_for(book.stock, sheet, desks, ((), (0,)))
+    survey = Survey(book.stock, sheet, desks, (tuple(bench.cells), (0,)), rooted=True)
+    kinds = []
+    for (root, bits, results), found in survey.rows.items():
+        kinds.append(Kind(root, (bits, results if bench.keepers else ()), results, found))
+    return (Story(0, bench, kinds), Grower(survey))
+
+
 class Counters:
     """All things that matter for the prices of a book's goods by some Rates."""
 
@@ -56,15 +74,14 @@ class Counters:
         for price in [*rates.price_rows(), *([] if rates.finishing is None else [rates.finishing])]:
             scale = lcm(scale, price.bottom)
         self.scale = scale
-        kit = Kit([rates.book])
-        self._rates = {name: scaled(rates[name], scale) for name in {kind.results[0]: True for kind in kit.kinds}}
-        self._kit = Quotient(kit, [self._rates[kind.results[0]] for kind in kit.kinds])
+        self._below, self._grower = story_of_parts(rates.book)
+        self._rates = {name: scaled(rates[name], scale) for name in [*rates.book.leaves, *RESULTS]}
         self._joins = {form: scaled(rates.join_price(form), scale) for form in forms}
         self._finishing = None if rates.finishing is None else scaled(rates.finishing, scale)
 
     def all_stalls(self):
         """All Stalls."""
-        for hall in halls_of(self._kit):
+        for hall in halls_of(self._below):
             mains = self._mains_in(hall)
             for beside, table in enumerate(self._sides_in(hall)):
                 for at, sides in list(table.items()) if hall.case_rows[beside] else []:
@@ -77,7 +94,8 @@ class Counters:
         cases = hall.case_rows[beside]
         wide = len(hall.room.mains)
         stalls = []
-        for goods, result in self._kit.results_beside(hall.room, beside, hall.room.sides[beside][at]):
+        answers = self._below.answers_beside(hall.room, beside, hall.room.sides[beside][at])
+        for goods, result in answers.groups[0]:
             for k, case in enumerate(cases):
                 bits = goods >> k * wide & (1 << wide) - 1
                 if bits:
@@ -89,17 +107,17 @@ class Counters:
     def _mains_in(self, hall):
         """For each rate the Offers of single parts with this rate, rows (bit as a main part, Offer), by their nodes."""
         out = {}
-        for number, kind in enumerate(self._kit.kinds):
+        for number, kind in enumerate(list(self._below.kinds)):
             if kind.top in hall.takes:
                 rate = self._rates[kind.results[0]]
                 offer = Offer(kind.nodes, (number,), (rate,))
-                out[rate] = [*out.get(rate, []), (1 << hall.main_at[kind.record], offer)]
+                out.setdefault(rate, []).append((1 << hall.main_at[kind.record], offer))
         return out
 
     def _sides_in(self, hall):
         """For each number of parts beside the main one, for each side, the Offers of parts that may matter."""
         looks = {}
-        for number, kind in enumerate(self._kit.kinds):
+        for number, kind in enumerate(list(self._below.kinds)):
             if kind.top in hall.takes:
                 look = hall.look_of(kind)
                 offer = Offer(kind.nodes, (number,), (self._rates[kind.results[0]],))
@@ -137,10 +155,10 @@ class Counters:
         rows = []
         if thing.limit is not None:
             rows = [(tuple([rate - thing.limit for rate in thing.rates]), True)]
-        goods = [self._kit.good_of(number) for number in thing.numbers]
+        goods = [self._grower.good_of(self._below.kinds[number].making) for number in thing.numbers]
         factors = multiples_near([good.weight for good in goods], weights_within(rows, len(goods)), rows)
         parts = tuple([(good * factor).plain for good, factor in zip(goods, factors)])
-        return sound_good(self._kit.stock, (*thing.case, self._kit.stock.lands[0], parts))
+        return sound_good(self._below.stock, (*thing.case, self._below.stock.lands[0], parts))
 
 
 def scaled(ratio, scale):

@@ -1,9 +1,8 @@
 """The greatest price that goods of a leaf need to fall under a heading."""
 
 from fallsunder.errors import NoHeading
-from fallsunder.kits import Kit
 from fallsunder.pricing import Pricing
-from fallsunder.quotients import Quotient
+from fallsunder.stories import Tower
 
 
 def far_price(book, leaf, heading, prices):
@@ -12,10 +11,7 @@ def far_price(book, leaf, heading, prices):
         raise NoHeading(leaf)
     if heading not in book:
         raise NoHeading(heading)
-    wanted = book.beneath(heading)
-    kit = Kit([book])
-    labels = [(kind.results[0] == leaf, kind.results[0] in wanted) for kind in kit.kinds]
-    pricing = Pricing(Quotient(kit, labels), leaf, wanted, prices)
+    pricing = Pricing(Tower(book, leaf, book.beneath(heading)), leaf, prices)
     if pricing.best is None:
         return None
     return (pricing.best[0], pricing.good_of_best())

@@ -72,10 +72,6 @@ class Kit:
         """The forms and states of things of so many parts in a room."""
         return room.taking.cases(many, self.states)
 
-    def results_beside(self, room, beside, side):
-        """The results by the first book of things beside a side of so many parts, as below: rows (goods, result)."""
-        return self.bench.things(self.cases(room, beside + 1), beside + 1, room.pack, side).groups[0]
-
     def groups_of(self, room, beside, side):
         """The things of a room beside a side of so many parts, by their kinds: rows (goods, number of the kind).
 

@@ -1,13 +1,13 @@
 """The greatest least price of changes that goods of a leaf need, found for all goods in ascending order of nodes.
 
-Of a part it matters what kind it is, and for which prices it can be changed into other kinds; what costs as much as an
-exchange is as good as an exchange. Of two parts of one kind, the one all of whose prices are as great as those of the
-other one, and that has no more nodes, stands for both: with it no good needs less.
+Of a part it matters what kind it is in its story, and for which prices it can be changed into other kinds; what costs
+as much as an exchange is as good as an exchange. Of two parts of one kind, the one all of whose prices are as great as
+those of the other one, and that has no more nodes, stands for both: with it no good needs less.
 """
 
 from fallsunder.ascents import Ascent
 from fallsunder.growing import Grower
-from fallsunder.halls import halls_of
+from fallsunder.halls import Hall
 from fallsunder.tariffs import is_as_dear, least_price, lesser, raised, tariff_of
 
 
@@ -39,50 +39,54 @@ class PricedSide:
 
 
 class Pricing(Ascent):
-    """Finds the good of a leaf that needs the greatest price to come to one of some results.
+    """Finds the good of a leaf that needs the greatest price to come to one of the wanted results of a Tower.
 
     Best is `(price, making)`, the price None if there is no way; it is None itself if no good has the leaf.
     """
 
-    def __init__(self, kit, leaf, wanted, prices):
-        super().__init__(halls_of(kit))
-        self.stock = kit.stock
+    def __init__(self, tower, leaf, prices):
+        tellings = tower.tellings
+        super().__init__([Hall(one, room) for one in tellings for room in one.story.rooms if room.mains])
+        self.stock = tower.stock
         self.makings = []
         self.best = None
-        self._kit = kit
-        self._leaf = leaf
-        self._wanted = [kind.results[0] in wanted for kind in kit.kinds]
+        self._tower = tower
         self._prices = prices
         self._known = {}
         self._hits = {}
-        self.ended = leaf not in [kind.results[0] for kind in kit.kinds]
+        self.ended = leaf not in tower.results
         for stand in list(self.stands):
             self.put_side(stand, PricedSide(0, 0, (), [0], []))
-        for number, kind in enumerate(list(kit.kinds)):
-            if kind.top == "mix" and not self.ended:
-                price = 0 if self._wanted[number] else None
-                self._take(1, number, {number: 0} if prices.exchange > 0 else {}, price, kind.making)
+        for label, making in tower.mix_rows:
+            self._judge(label, 0 if label & 1 else None, making)
+        for story in list(tower.stories):
+            for number, kind in enumerate(list(story.kinds)):
+                if kind.top == "mix":
+                    self._take(story, 1, number, {number: 0} if prices.exchange > 0 else {}, kind.making)
         self.run()
 
     def good_of_best(self):
         """The good that needs the greatest price."""
         return Grower(self).good_of(self.best[1])
 
-    def _take(self, nodes, number, cheap, price, making):
-        """Take up a good of a kind that needs a price, with the kinds that it can be changed into cheaply."""
-        kind = self._kit.kinds[number]
-        if kind.results[0] == self._leaf:
+    def _judge(self, label, price, making):
+        """Take up a whole good with a label, which needs a price."""
+        if label & 2 and not self.ended:
             if price is None or self.best is None or price > self.best[0]:
                 self.best = (price, making)
             # where the leaf itself is wanted, no good needs anything
-            self.ended = price is None or self._wanted[number]
-        known = self._known.setdefault(("kind", number), [])
+            self.ended = price is None or label == 3
+
+    def _take(self, story, nodes, number, cheap, making):
+        """Take up a part of a story, with the kinds that it can be changed into cheaply."""
+        known = self._known.setdefault(("kind", story.number, number), [])
         if not any([is_dearer(other, cheap, self._prices.exchange) for other in known]):
             known.append(cheap)
             self.makings.append((nodes, making))
             for stand in list(self.stands):
-                if kind.top in stand.hall.takes:
-                    self._enter(stand, self._priced(stand.hall, nodes, number, cheap))
+                hall = stand.hall
+                if hall.kit.story.number == story.number and story.kinds[number].top in hall.takes:
+                    self._enter(stand, self._priced(hall, nodes, number, cheap))
 
     def _enter(self, stand, part):
         """Put a part into a hall, unless one is there that stands for it."""
@@ -104,7 +108,7 @@ class Pricing(Ascent):
 
     def _spot_of(self, hall, kind):
         """The numbers of a kind as a main part and as a look."""
-        one = self._kit.kinds[kind]
+        one = hall.kit.kinds[kind]
         return (hall.main_at[one.record], hall.look_of(one))
 
     def widen(self, nodes, stand, part, side):
@@ -130,21 +134,33 @@ class Pricing(Ascent):
         tariffs = []
         for at, price in enumerate(list(side.steady)):
             tariffs.append(tariff_of([*raised(part.mains, price), *raised(rows[at], self._prices.reweigh)]))
+        own = [kinds[part.main_at] for kinds in hall.kinds_beside(side.beside, side.at)]
+        if hall.kit.up < 0:
+            self._judge_things(stand, part, side, tariffs, own)
+        else:
+            self._take_things(nodes, hall, part, side, tariffs, own)
+
+    def _judge_things(self, stand, part, side, tariffs, own):
+        """Judge the whole goods of a main part and a side; own are their labels."""
+        cases = stand.hall.case_rows[side.beside]
+        leads = [self._lead_of(stand, side.beside, tariffs, k) for k in range(len(cases)) if max(own) > 1]
+        for case, label, lead in zip(cases, own, leads):
+            price = lead
+            for mate, other in zip(cases, leads):
+                if mate[0] == case[0]:
+                    price = lesser(price, None if other is None else other + self._prices.restate)
+            self._judge(label, price, (*case, part.number, side.numbers))
+
+    def _take_things(self, nodes, hall, part, side, tariffs, own):
+        """Take up the things of a main part and a side as parts of the story that tells them."""
         cases = hall.case_rows[side.beside]
         tables = self._cheap_tables(hall, side.beside, tariffs)
-        own = [kinds[part.main_at] for kinds in hall.kinds_beside(side.beside, side.at)]
-        leads = [None for _ in cases]
-        if self._leaf in [self._kit.kinds[kind].results[0] for kind in own]:
-            leads = [self._lead_of(stand, side.beside, tariffs, k) for k in range(len(cases))]
-        for number, case in enumerate(cases):
-            if not self.ended:
-                cheap = dict(tables[number])
-                price = leads[number]
-                for mate, table, lead in zip(cases, tables, leads):
-                    if mate[0] == case[0]:
-                        self._take_restated(cheap, table)
-                        price = lesser(price, None if lead is None else lead + self._prices.restate)
-                self._take(nodes, own[number], cheap, price, (*case, part.number, side.numbers))
+        for case, number, table in zip(cases, own, tables):
+            cheap = dict(table)
+            for mate, other in zip(cases, tables):
+                if mate[0] == case[0]:
+                    self._take_restated(cheap, other)
+            self._take(self._tower.stories[hall.kit.up], nodes, number, cheap, (*case, part.number, side.numbers))
 
     def _take_restated(self, cheap, table):
         """Take up the kinds that a thing can be changed into cheaply once it is restated."""
@@ -176,7 +192,7 @@ class Pricing(Ascent):
         key = (stand.number, beside, at)
         if key not in self._hits:
             rows = stand.hall.kinds_beside(beside, at)
-            self._hits[key] = [sum([1 << k for k, kind in enumerate(kinds) if self._wanted[kind]]) for kinds in rows]
+            self._hits[key] = [sum([1 << k for k, label in enumerate(labels) if label & 1]) for labels in rows]
         return self._hits[key]
 
 

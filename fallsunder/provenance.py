@@ -9,7 +9,7 @@ from fallsunder.ascents import Ascent
 from fallsunder.balances import weights_within
 from fallsunder.halls import halls_of
 from fallsunder.kits import Kit
-from fallsunder.quotients import quotient_by_results
+from fallsunder.quotients import Quotient
 from fallsunder.weighing import Making
 
 
@@ -56,7 +56,7 @@ class Provenance(Ascent):
 
     def __init__(self, rules, sought):
         books = [rules[0].book] if rules[0].book == rules[len(rules) - 1].book else [rule.book for rule in rules]
-        kit = quotient_by_results(Kit(books))
+        kit = Quotient(Kit(books))
         super().__init__(halls_of(kit))
         self.stock = kit.stock
         self.makings = []
@@ -73,8 +73,16 @@ class Provenance(Ascent):
         self._signs = {}
         self._spots = {}
         self._sides = 0
+        self._most = self._most_rows()
         self._begin()
         self.run()
+
+    def _most_rows(self):
+        """How many rows there can be by one rule: mixes have their own land as their origin."""
+        lands = len(self.stock.lands)
+        things = {self._results[at]: True for at, kind in enumerate(self._kit.kinds) if kind.top != "mix"}
+        mixes = {names: True for names in self._results if names not in things}
+        return len(things) * lands * lands + len(mixes) * lands
 
     def _begin(self):
         for stand in list(self.stands):
@@ -101,6 +109,8 @@ class Provenance(Ascent):
             self.found = making
             return
         self.rows.setdefault((self._results[number], land, tuple(origins)), making)
+        if self._sought == "" and len(self.rows) == self._most:
+            self.ended = True
         key = ("part", number, tuple(origins))
         if key not in self._met:
             self._met[key] = True

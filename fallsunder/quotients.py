@@ -7,11 +7,11 @@ from fallsunder.kits import Room
 class Quotient:
     """What a Kit tells of goods, by classes: with parts of the same classes a thing is of the same class.
 
-    At first the kinds with one root and one label are in a class. For each class its least kind is kept.
+    All kinds of a class have one root and the same results. For each class its least kind is kept.
     """
 
-    def __init__(self, kit, labels):
-        least = Congruence(kit, labels).least_of_all()
+    def __init__(self, kit):
+        least = Congruence(kit, [kind.results for kind in kit.kinds]).least_of_all()
         kept = sorted(set(least))
         self.stock = kit.stock
         self.bench = kit.bench
@@ -30,15 +30,6 @@ class Quotient:
         """The forms and states of things of so many parts in a room."""
         return self._kit.cases(room, many)
 
-    def results_beside(self, room, beside, side):
-        """The results of things beside a side of so many parts, as a Kit tells them."""
-        return self._kit.results_beside(room, beside, side)
-
     def groups_of(self, room, beside, side):
         """The classes of things beside a side of so many parts: rows (goods, number of the class)."""
         return [(goods, self._spots[number]) for goods, number in self._kit.groups_of(room, beside, side)]
-
-
-def quotient_by_results(kit):
-    """The Quotient in which classes have one result by each book."""
-    return Quotient(kit, [kind.results for kind in kit.kinds])

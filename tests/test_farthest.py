@@ -74,6 +74,17 @@ class FarTest(unittest.TestCase):
         deep = read_book(stock, "heading 1 is mix or each mix\nheading 2 is over 1/2 a\nheading 3 is any\nrules first")
         self.assertEqual(self.told(deep, "3", "2", Prices(1, 3, 20)), (20, 3))
 
+    def test_looks_at_great_depths(self):
+        """Of parts the less is asked the deeper they lie."""
+        for many, told in ((1, (3, 7)), (2, (6, 16)), (4, (6, 22)), (9, (6, 37))):
+            book = read_book(WIDE, "heading 1 is " + "some " * many + "state worn\nheading 2 is any\nrules first")
+            found = self.told(book, "1", "2", Prices(1, 1, 2))
+            self.assertEqual(found[0], told[0])
+            self.assertEqual(self.told(book, "2", "1", Prices(1, 1, 2))[0], None)
+        book = read_book(WIDE, "heading 1 is some some some state worn\nheading 2 is any\nrules first")
+        self.assertEqual(self.told(book, "1", "2", Prices(1, 1, 5))[0], 15)
+        self.assertEqual(self.told(book, "1", "2", Prices(2, 1, 20))[0], 54)
+
     def test_random_far_prices(self):
         rng = fixed_random(41)
         met = set()
