@@ -34,7 +34,7 @@ class Post:
 
     def __or__(self, other):
         if not isinstance(other, Post):
-            return NotImplemented
+            raise TypeError("a post is joined with posts alone")
         if self.stock != other.stock or self.offices != other.offices:
             raise OtherStock(1)
         for key in sorted(self._letters):
