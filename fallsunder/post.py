@@ -40,7 +40,8 @@ class Post:
         for key in sorted(self._letters):
             if key in other._letters and not same_things(self._letters[key], other._letters[key]):
                 raise Forged(key[0], key[1])
-        return Post(self.stock, self.offices, known={**self._letters, **other._letters})
+        both = {key: deed for letters in (self._letters, other._letters) for key, deed in letters.items()}
+        return Post(self.stock, self.offices, known=both)
 
     def take(self, office, number, deed):
         """Take a letter; is it new?"""

@@ -130,25 +130,56 @@ class Pricing(Ascent):
     def combine(self, nodes, stand, part, side):
         """Take up the things of a main part and a side."""
         hall = stand.hall
-        rows = turned_rows(hall, side, part)
-        tariffs = []
-        for at, price in enumerate(list(side.steady)):
-            tariffs.append(tariff_of([*raised(part.mains, price), *raised(rows[at], self._prices.reweigh)]))
         own = [kinds[part.main_at] for kinds in hall.kinds_beside(side.beside, side.at)]
+        tariffs = [raised(part.mains, price) for price in side.steady]
         if hall.kit.up < 0:
-            self._judge_things(stand, part, side, tariffs, own)
-        else:
-            self._take_things(nodes, hall, part, side, tariffs, own)
+            if self._may_need_more(stand, side, tariffs, own):
+                self._judge_things(stand, part, side, self._turned_too(hall, part, side, tariffs), own)
+        elif self._may_be_new(hall, side, own):
+            self._take_things(nodes, hall, part, side, self._turned_too(hall, part, side, tariffs), own)
 
-    def _judge_things(self, stand, part, side, tariffs, own):
-        """Judge the whole goods of a main part and a side; own are their labels."""
+    def _turned_too(self, hall, part, side, tariffs):
+        """The tariffs of things beside each side, also for those of which another part becomes the main one."""
+        rows = turned_rows(hall, side, part)
+        return [tariff_of([*tariff, *raised(rows[at], self._prices.reweigh)]) for at, tariff in enumerate(tariffs)]
+
+    def _may_need_more(self, stand, side, tariffs, own):
+        """May whole goods with these labels need more than the best one? Further ways to change them cost no more."""
+        if max(own) < 2 or self.best is None:
+            return max(own) > 1
+        prices = self._prices_of(stand, side, tariffs)
+        return any([label > 1 and (price is None or price > self.best[0]) for label, price in zip(own, prices)])
+
+    def _may_be_new(self, hall, side, own):
+        """May things of these kinds, one for each case, be parts for which no others stand?"""
+        cases = hall.case_rows[side.beside]
+        limit = self._prices.exchange
+        for case, number in zip(cases, own):
+            # into these kinds a thing can be changed at least
+            cheap = {mate: self._prices.restate for other, mate in zip(cases, own) if other[0] == case[0]}
+            cheap[number] = 0
+            known = self._known.get(("kind", hall.kit.up, number), [])
+            if not any([is_dearer(other, cheap, limit) for other in known]):
+                return True
+        return False
+
+    def _prices_of(self, stand, side, tariffs):
+        """For each case the least price after which a thing has a wanted result, None if there is no way."""
         cases = stand.hall.case_rows[side.beside]
-        leads = [self._lead_of(stand, side.beside, tariffs, k) for k in range(len(cases)) if max(own) > 1]
-        for case, label, lead in zip(cases, own, leads):
+        leads = [self._lead_of(stand, side.beside, tariffs, k) for k in range(len(cases))]
+        out = []
+        for case, lead in zip(cases, leads):
             price = lead
             for mate, other in zip(cases, leads):
                 if mate[0] == case[0]:
                     price = lesser(price, None if other is None else other + self._prices.restate)
+            out.append(price)
+        return out
+
+    def _judge_things(self, stand, part, side, tariffs, own):
+        """Judge the whole goods of a main part and a side; own are their labels."""
+        prices = self._prices_of(stand, side, tariffs)
+        for case, label, price in zip(stand.hall.case_rows[side.beside], own, prices):
             self._judge(label, price, (*case, part.number, side.numbers))
 
     def _take_things(self, nodes, hall, part, side, tariffs, own):
