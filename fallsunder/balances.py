@@ -20,8 +20,8 @@ def weights_within(rows, many):
     bounds = bounds_of(rows, many)
     corners = [corner for corner in corners_of(bounds, many - 1) if is_inside(bounds, corner)]
     whole = 1
-    for _, bottom in corners:
-        whole = lcm(whole, bottom)
+    for _, lowest in corners:
+        whole = lcm(whole, lowest)
     sums = [sum([tops[k] * (whole // bottom) for tops, bottom in corners]) for k in range(many - 1)]
     weights = [whole * len(corners), *sums]
     by = 0
