@@ -5,7 +5,7 @@ thing above it takes, so that all that is asked of such goods is there for the p
 """
 
 from fallsunder.answering import answers_of
-from fallsunder.benches import parted_answers
+from fallsunder.benches import lowest, parted_answers
 from fallsunder.fillings import Filling, MainPack, cost_of, sides_beside
 from fallsunder.goods import good_nodes
 from fallsunder.growing import Grower
@@ -119,20 +119,29 @@ class Changer:
         bench = self._levels.bench_at(depth)
         turned = 0 if main == node.main else self._prices.reweigh
         others = [state for state in self._levels.stock.states if state != node.state]
+        cases = [(node.root, state) for state in [node.state, *others]]
         pack = MainPack(bench, needs[main])
-        turns = [([(node.root, node.state)], turned)]
-        if others:
-            turns.append(([(node.root, state) for state in others], turned + self._prices.restate))
-        sides = [(cost_of(row), side, row) for side, row in sides_beside(bench, needs, (main,)).items()]
+        sides = [(turned + cost_of(row), side, row) for side, row in sides_beside(bench, needs, (main,)).items()]
         for cost, side, row in sorted(sides, key=lambda entry: entry[0]):
-            for cases, price in turns:
-                least = cost + price + pack.fillings[0].cost
-                for goods, bits, results in self._rows_above(out, depth, least, (cases, pack, side, len(needs))):
-                    case, at = pack.least_of(goods)
-                    total = cost + price + pack.fillings[at].cost
-                    if (bits, results) not in out or out[(bits, results)].cost > total:
-                        below = (*row[:main], pack.fillings[at], *row[main:])
-                        out[(bits, results)] = Filling(total, (cases[case][1], main), below)
+            least = cost + pack.fillings[0].cost
+            for goods, bits, results in self._rows_above(out, depth, least, (cases, pack, side, len(needs))):
+                case, at, price = self._cheapest_of(pack, goods)
+                if (bits, results) not in out or out[(bits, results)].cost > cost + price:
+                    below = (*row[:main], pack.fillings[at], *row[main:])
+                    out[(bits, results)] = Filling(cost + price, (cases[case][1], main), below)
+
+    def _cheapest_of(self, pack, goods):
+        """The case and the main part of the cheapest of some things, and its price; the own state is the first case."""
+        wide = len(pack.needs)
+        own = goods & (1 << wide) - 1
+        case, at = (0, lowest(own)) if own else (-1, -1)
+        price = pack.fillings[at].cost
+        if own != goods:
+            other, spot = pack.least_of(goods >> wide)
+            more = pack.fillings[spot].cost + self._prices.restate
+            if case < 0 or more < price:
+                return (other + 1, spot, more)
+        return (case, at, price)
 
     def _rows_above(self, out, depth, least, things):
         """The rows (goods, bits, results) of things that cost at least this, for which a table tells no such price."""
