@@ -6,9 +6,9 @@ from fallsunder.booktext import write_book
 from fallsunder.goodtext import read_good, write_good, write_stock
 from fallsunder.house import House
 from fallsunder.journal import read_journal, write_journal
+from fallsunder.terms import Term
 from fallsunder.termtext import read_term, write_term
 from tests.samples import book_from, caught, fixed_random, goods_of, random_term, small_stock, wide_stock
-from fallsunder.terms import Term
 from tests.test_house import DEEDS, MIX, OLD, STOCK, house_of
 
 STOCK_TEXT = "stock 5\nstuffs hair wool\nstates worn whole\nlands far\nform coat 1 2 mix button\nform button 1 1 mix"
@@ -175,6 +175,30 @@ class BadLineTest(unittest.TestCase):
         long = ["heading 1 is mix"] + ["note 1 takes any"] * 27
         self.assertEqual(behind("\n".join(["edition 3 29", *long, "rules"])), ("BadBook", "notes"))
         self.assertEqual(behind("\n".join(["edition 3 2", "rules first", "rules"])), ("BadLine", 13, 0))
+
+    def test_texts_that_were_spoiled(self):
+        """Whatever is told of a bad line does not hang on what stands behind it; what is read is written again."""
+        rng = fixed_random(51)
+        pieces = ["mix", "any", "(", ")", ",", "1", "-", "if", "is", "lift", "rules", "heading", "stock", "edition", "a", ""]
+        whole = "\n".join([STOCK_TEXT, *LINES])
+        read = 0
+        for _ in range(4000):
+            text = whole
+            for _ in range(rng.randint(1, 3)):
+                at = rng.randrange(len(text))
+                parts, lines = text.split(" "), text.split("\n")
+                parts[rng.randrange(len(parts))] = rng.choice(pieces)
+                del lines[rng.randrange(len(lines))]
+                text = rng.choice([text[:at] + text[at + 1:], text[:at] + rng.choice(" \n(),-1a0") + text[at:],
+                                   " ".join(parts), "\n".join(lines)])
+            error = told(text)
+            if error is None:
+                house = read_journal(text)
+                self.assertEqual(read_journal(write_journal(house)), house)
+                read += 1
+            elif error[0] == "BadLine" and error[1] < len(text.split("\n")):
+                self.assertEqual(told("\n".join(text.split("\n")[:error[1] + 1])), error)
+        self.assertGreater(read, 50)
 
     def test_errors_of_deeds_come_as_they_come(self):
         rows = [("enter 1 e z is mix near 1 hair\nx", ("BadGood", ())), ("enter 1 e z is mix far 1 hair\nx", ("BadDay", 1)),

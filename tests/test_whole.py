@@ -26,9 +26,10 @@ from fallsunder.prices import Prices, price_table
 from fallsunder.rates import Rates
 from fallsunder.ratios import Ratio
 from fallsunder.readings import Reading
+from fallsunder.stocks import Stock
 from fallsunder.terms import Term
 from fallsunder.termtext import read_term, write_term
-from fallsunder.ways import cheapest
+from fallsunder.ways import all_ways, cheapest
 from tests.samples import book_from, fixed_random, goods_of, random_term, slow_of, small_stock, twin_stock, wide_stock
 
 STOCKS = ((small_stock(), 4), (wide_stock(), 3), (twin_stock(), 4))
@@ -144,6 +145,32 @@ class WholeTest(unittest.TestCase):
                 else:
                     self.assertIsNone(wrong_at(plan, copy, questions))
                     self.assertEqual(shallowest(copy, questions).deep, plan.deep)
+
+    def test_goods_that_are_very_deep(self):
+        """Goods of the program may be deeper than those that are passed; nothing goes down into them step by step."""
+        stock = Stock(["a", "b"], ["s", "t"], ["l", "k"], [("p", 1, 2, ["p", "mix"])])
+        plain = ("mix", "l", (("a", 3),))
+        for k in range(600):
+            plain = ("p", "s" if k % 3 else "t", "l" if k % 2 else "k", (plain, ("mix", "k", (("b", 1),))))
+        deep = Good(stock, plain)
+        book = read_book(stock, "heading 1 is state s\nheading 2 is any\nnote 1 shuts some (not mix and not falls 1)\n"
+                                "rules first")
+        change = least_change(book, deep, "1", Prices(1, 1, 1000))
+        self.assertEqual((change.price, len(change.deeds), book(change.after)), (200, 200, "1"))
+        self.assertEqual(len(price_table(book, deep, Prices(1, 1, 10))), 1201)
+        rule = OriginRule(book, Ratio(1, 3))
+        self.assertEqual((rule(deep), rule.gained(deep)), ("l", True))
+        self.assertEqual(least_weight(rule, deep, "l"), (0, ()))
+        rates = Rates(book, [(name, Ratio(k + 1)) for k, name in enumerate(("1", "2", "none", "two", "ring"))],
+                      joining=[("p", Ratio(1, 7))], finishing=Ratio(1, 2))
+        way, price = cheapest(rates, deep)
+        self.assertEqual((way.costs(rates, deep), way), (price, way))
+        self.assertTrue(alike_to(deep, deep * 5, 10 ** 9))
+        self.assertEqual([way.costs(rates, deep).less(price) for _, way in zip(range(4), all_ways(rates, deep))], [False] * 4)
+        house = House(stock)
+        house.do(("edition", 1, book))
+        house.do(("enter", 1, "a", deep, ""))
+        self.assertEqual((read_journal(write_journal(house)), house.copy()), (house, house))
 
     def test_nothing_that_is_passed_is_changed(self):
         stock = small_stock()
