@@ -121,6 +121,9 @@ class Sounding:
         floor = self._floors[number]
         unions = Unions()
         out = []
+        # the loop walks what this very object makes, so its new layers are kept apart until the loop has ended
+        layers = []
+        many = len(self._layers)
         for work in self._works(number, pairs):
             answers, cases, pack, numbers, holes = work
             apart = goods_apart(answers, *floor.telling)
@@ -128,8 +131,9 @@ class Sounding:
             starts = [(goods & apart, tag) for goods, tag in starts if goods & apart]
             for goods, tag, first, second in paired_rows(answers, starts, *floor.telling) if starts else []:
                 if unions.unite((tag, first), (tag, second)):
-                    self._layers.append(layer_at(goods, cases, pack, numbers, holes))
-                    out.append((len(self._layers) - 1, self._roots[tag], floor.telling, first, second))
+                    out.append((many + len(layers), self._roots[tag], floor.telling, first, second))
+                    layers.append(layer_at(goods, cases, pack, numbers, holes))
+        self._layers.extend(layers)
         return out
 
     def _parting_layer(self, pairs):

@@ -82,6 +82,7 @@ class Package:
         self.methods = {n for n, rows in self.functions.items() if any(method_of(f) for _, f in rows)}
         self.properties = {n for n, rows in self.functions.items() if any(is_property(f) for _, f in rows)}
         self.generators = {n for n, rows in self.functions.items() if any(yields(f) for _, f in rows)}
+        self.changing = changing_methods(self)
 
     def say(self, rule, name, node, what):
         line = node if isinstance(node, int) else getattr(node, "lineno", 0)
@@ -534,14 +535,18 @@ def changes_of(body):
     return out
 
 
-def check_loop(package, name, node):
-    pairs = []
+def loop_parts(node):
+    """What a loop or comprehension goes over, each with what is done there."""
     if isinstance(node, ast.For):
-        pairs = [(node.iter, node.body)]
-    elif isinstance(node, (ast.ListComp, ast.DictComp)):
-        inner = [node.elt] if isinstance(node, ast.ListComp) else [node.key, node.value]
-        pairs = [(part.iter, inner + part.ifs) for part in node.generators]
-    for over, body in pairs:
+        return [(node.iter, node.body)]
+    if isinstance(node, (ast.ListComp, ast.DictComp, ast.SetComp)):
+        inner = [node.key, node.value] if isinstance(node, ast.DictComp) else [node.elt]
+        return [(part.iter, inner + part.ifs) for part in node.generators]
+    return []
+
+
+def check_loop(package, name, node):
+    for over, body in loop_parts(node):
         gone_over = {ast.unparse(over)}
         if isinstance(over, ast.Call) and called_name(over) in ITERATORS | VIEWS:
             gone_over |= {ast.unparse(n) for n in over.args}
@@ -563,21 +568,72 @@ def bare_fields(node):
     return out
 
 
+def names_of_fields(function):
+    """The variables of a function that are a field, or an item of one."""
+    return {one.targets[0].id for one in ast.walk(function) if isinstance(one, ast.Assign)
+            and isinstance(one.targets[0], ast.Name) and bare_fields(one.value)
+            and isinstance(one.value, (ast.Attribute, ast.Subscript))}
+
+
 def check_field_loop(package, name, node):
     """A loop that walks a field changes no item of a field: it could be the very list that is walked."""
     if not isinstance(node, ast.For) or not bare_fields(node.iter):
         return
-    function = function_of(node)
-    kept = {one.targets[0].id for one in ast.walk(function) if isinstance(one, ast.Assign)
-            and isinstance(one.targets[0], ast.Name) and bare_fields(one.value)
-            and isinstance(one.value, (ast.Attribute, ast.Subscript))}
+    kept = names_of_fields(function_of(node))
     for text, where in changes_of(node.body):
         if ("[" in text and "." in text.partition("[")[0]) or text.partition("[")[0].partition(".")[0] in kept:
             package.say("L23", name, where, f"{text}, an item of a field, is changed in a loop over a field")
 
 
+def fields_set(body):
+    """The attributes that the rows assign or delete: their texts, each with its node."""
+    return [(ast.unparse(node), node) for top in body for node in ast.walk(top)
+            if isinstance(node, ast.Attribute) and isinstance(node.ctx, (ast.Store, ast.Del))]
+
+
+def changing_methods(package):
+    """The names of methods that change a field of their object, by themselves or by another method of it."""
+    out = set()
+    rows = [(word, node) for word in package.methods for _, node in package.functions[word]
+            if method_of(node) and node.args.args]
+    before = -1
+    while before < len(out):
+        before = len(out)
+        for word, node in rows:
+            own = node.args.args[0].arg + "."
+            changed = [text for text, _ in changes_of(node.body) + fields_set(node.body)]
+            called = [ast.unparse(call.func) for call in ast.walk(node) if isinstance(call, ast.Call)]
+            if any(text.startswith(own) for text in changed) or any(text in called for text in {own + k for k in out}):
+                out.add(word)
+    return out
+
+
+def check_generator_loop(package, name, node):
+    """A loop over a generator changes no field, by whatever name, and nothing that the generator was passed."""
+    for over, body in loop_parts(node):
+        for call in ast.walk(over):
+            if called_name(call) in package.generators:
+                passed = names_of_fields(function_of(node)) | {
+                    root_name(part) for arg in call.args for part in ast.walk(arg)} - {""}
+                if isinstance(call.func, ast.Attribute):
+                    passed.add(root_name(call.func.value))
+                check_kept(package, name, body, passed)
+
+
+def check_kept(package, name, body, passed):
+    """The rows change no field, and none of these names, neither by methods that change their object."""
+    for text, where in changes_of(body) + fields_set(body):
+        if "." in text or text.partition("[")[0] in passed:
+            package.say("L23", name, where, f"{text} is changed in a loop over a generator")
+    for top in body:
+        for node in ast.walk(top):
+            if isinstance(node, ast.Call) and isinstance(node.func, ast.Attribute) and node.func.attr in package.changing:
+                if root_name(node.func.value) in passed:
+                    package.say("L23", name, node, f"{node.func.attr} is called in a loop over a generator")
+
+
 CHECKS = [check_import, check_library_call, check_statement, check_function, check_names, check_value, check_call,
-          check_loop, check_field_loop, check_arguments]
+          check_loop, check_field_loop, check_generator_loop, check_arguments]
 
 
 def check_circles(package):

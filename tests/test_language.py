@@ -7,6 +7,16 @@ import unittest
 from tests.language import broken_rules
 
 PACKAGE = os.path.join(os.path.dirname(os.path.dirname(os.path.abspath(__file__))), "fallsunder")
+WALKER = "class A:\n    def g(self):\n        for k in self.rows:\n            yield k\n\n"
+# what is written so keeps the rule
+KEPT = [
+    ("L23", WALKER + "    def f(self):\n        out = []\n        for k in self.g():\n            out.append(k)\n"
+            "        self.sums.extend(out)\n"),
+    ("L23", WALKER + "    def f(self):\n        rows = list(self.g())\n        for k in rows:\n"
+            "            self.sums.append(k)\n"),
+    ("L23", "def g(x):\n    for k in x:\n        yield k\n\n\n"
+            "def f(x):\n    rows = list(g(x))\n    for k in rows:\n        x.append(k)\n"),
+]
 BREAKS = [
     ("L2", "import os\n"),
     ("L2", "from os import path\nA = path\n"),
@@ -31,6 +41,17 @@ BREAKS = [
     ("L23", "class A:\n    def f(self):\n        for k, v in self.rows.items():\n            self.sums[k][v] = k\n"),
     ("L23", "class A:\n    def f(self):\n        one = self.sums[0]\n        for k in self.rows:\n"
             "            one.append(k)\n"),
+    ("L23", WALKER + "    def f(self):\n        for k in self.g():\n            self.sums.append(k)\n"),
+    ("L23", WALKER + "    def f(self):\n        for k in self.g():\n            self.many = k\n"),
+    ("L23", WALKER + "    def f(self, x):\n        for k in list(self.g()):\n            x.rows[k] = k\n"),
+    ("L23", WALKER + "    def h(self, k):\n        self.sums.append(k)\n\n    def i(self, k):\n        self.h(k)\n\n"
+            "    def f(self):\n        for k in self.g():\n            self.i(k)\n"),
+    ("L23", WALKER + "    def f(self):\n        sums = self.sums\n        for k in self.g():\n"
+            "            sums.append(k)\n"),
+    ("L23", WALKER + "    def f(self):\n        return [self.sums.pop() for k in self.g()]\n"),
+    ("L23", "def g(x):\n    for k in x:\n        yield k\n\n\ndef f(x):\n    for k in g(x):\n        x.append(k)\n"),
+    ("L23", "def g(x):\n    for k in x:\n        yield k\n\n\n"
+            "def f(x):\n    for n, k in enumerate(g(x)):\n        x[n] = k\n"),
     ("L24", "def f(x):\n    return set(x)\n"),
     ("L25", "def f(x):\n    return x.encode()\n"),
     ("L27", "def f(x):\n    return 2 ** x\n"),
@@ -50,19 +71,29 @@ BREAKS = [
 ]
 
 
+def rules_broken_by(text, name="a.py"):
+    """The rules that a package of one file with this text breaks."""
+    with tempfile.TemporaryDirectory() as top:
+        folder = os.path.join(top, "falls")
+        os.mkdir(folder)
+        with open(os.path.join(folder, name), "w", encoding="utf-8") as file:
+            file.write(text)
+        return [line.split(" ")[0] for line in broken_rules(folder)]
+
+
 class LanguageTest(unittest.TestCase):
     def test_package_keeps_the_rules(self):
         self.assertEqual(broken_rules(PACKAGE), [])
 
     def test_breaks_are_seen(self):
         for rule, text, *names in BREAKS:
-            with self.subTest(rule=rule, text=text), tempfile.TemporaryDirectory() as top:
-                folder = os.path.join(top, "falls")
-                os.mkdir(folder)
-                with open(os.path.join(folder, names[0] if names else "a.py"), "w", encoding="utf-8") as file:
-                    file.write(text)
-                rules = [line.split(" ")[0] for line in broken_rules(folder)]
-                self.assertIn(rule, rules)
+            with self.subTest(rule=rule, text=text):
+                self.assertIn(rule, rules_broken_by(text, *names))
+
+    def test_kept_forms_pass(self):
+        for rule, text in KEPT:
+            with self.subTest(rule=rule, text=text):
+                self.assertNotIn(rule, rules_broken_by(text))
 
     def test_no_warnings_when_compiled(self):
         import warnings
